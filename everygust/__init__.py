@@ -1,0 +1,1 @@
+"""Everygust: a craft led through walls, whatever gusts blow."""
