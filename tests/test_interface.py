@@ -1,0 +1,100 @@
+"""The names and arguments of the interface, file by file, and what holds for the whole program."""
+
+import importlib
+import inspect
+import unittest
+
+from everygust.corners import corners
+from everygust.cuts import cut, heart, volume, where
+from everygust.faces import edges, face_with
+from everygust.lean import equations, lean, sides
+from everygust.sheets import read_point, room_text
+from everygust.weights import added_up, greatest
+from tests.helpers import cube, pt
+
+FILES = {
+    "fractions": "fraction_of(p, q) plus(one, other) minus(one, other) times(one, other) over(one, other) "
+                 "total(fractions) is_less(one, other) lowest(fractions) highest(fractions) floor_of(t) ceiling_of(t)",
+    "rows": "plain_row(row) row_of(members, bound) is_always(row) is_never(row) reach(row, point) slack(row, point) "
+            "tight_rows(room, point) first_broken(room, point) is_in(room, point) joined(one, other) "
+            "product(one, other) shifted(room, point) scaled(room, t) mirrored(room) placed(room, order) "
+            "boxed(low, high) open_room(n) image_of(matrix, point, shift) next_of(plant, x, u, w)",
+    "checks": "check_fraction(value) check_point(n, value) check_row(n, value) check_room(value) "
+              "check_matrix(r, c, value) check_plant(value) check_sight(value) check_cost(value) check_lot(value) "
+              "check_table(value) check_sheet(value) is_name(value)",
+    "lexemes": "lexemes(text)",
+    "sheets": "sheet_text(sheet) room_text(room) point_text(point) read_sheet(text) read_room(text) read_point(text) "
+              "names(sheet) part_of(sheet, name) with_part(sheet, part) without_part(sheet, name)",
+    "solving": "greatest_of(n, rows, form) mixed(parts, target) judge_mixed(parts, target, value)",
+    "weights": "worth(form, point) added_up(room, weights) is_bare(room) bare_paper(room) judge_bare(room, value) "
+               "greatest(room, form) judge_greatest(room, form, value) follows(room, row) following_paper(room, row) "
+               "judge_following(room, row, value) is_bounded(room) bound_paper(room) judge_bound(room, value) "
+               "is_inside(room, other) inside_paper(room, other) judge_inside(room, other, value) "
+               "are_alike(room, other) plant_fault(plant)",
+    "lean": "equations(room) made_0(base, row) sides(room) lean(room) is_lean(room) needed(room) thinned(room)",
+    "corners": "corners(room) is_corner(room, point) dimension(room) is_inner(room, point) centre(room) box(room) "
+               "top(room, form)",
+    "faces": "faces(room) edges(room) face_rows(room, face) face_with(room, numbers)",
+    "cuts": "cut(room) volume(room) heart(room) where(room, point) mean_of(room, point) "
+            "judge_mean(room, point, value)",
+    "hulls": "hull(n, points) hull_corners(n, points) hull_paper(n, points) judge_hull(n, points, room, value) "
+             "within(n, points, point) judge_within(n, points, point, value)",
+    "shadows": "shadow(room, shown) above(room, shown, point) judge_above(room, shown, point, value) "
+               "shadow_paper(room, shown) judge_shadow(room, shown, value)",
+}
+
+
+class TestInterface(unittest.TestCase):
+    def test_names_and_arguments(self):
+        for name, told in FILES.items():
+            module = importlib.import_module("everygust." + name)
+            for one in told.replace(") ", ")|").split("|"):
+                function = getattr(module, one.split("(")[0])
+                self.assertEqual(function.__module__, "everygust." + name)
+                self.assertEqual(function.__name__ + "(" + ", ".join(inspect.signature(function).parameters) + ")", one)
+
+
+class TestExamples(unittest.TestCase):
+    def test_of_part_1(self):
+        room = (2, (((1, 0), 1), ((-2, 4), 6)))
+        self.assertEqual(room_text(room), "2 {\n1 0 <= 1;\n-2 4 <= 6;\n}\n")
+        self.assertEqual(read_point("( 1/2 1 )"), ((1, 2), (1, 1)))
+
+    def test_of_part_2(self):
+        room = (2, (((-1, 0), 0), ((0, -1), 0), ((1, 2), 4)))
+        self.assertEqual(added_up(room, pt(0, 1, 1)), (pt(1, 1), (4, 1)))
+        self.assertEqual(greatest(room, pt(1, 1))[:3], ("most", (4, 1), pt(4, 0)))
+        bare = (2, room[1] + (((-1, -1), -5),))
+        self.assertEqual(added_up(bare, pt(0, 1, 1, 1)), (pt(0, 0), (-1, 1)))
+        flat = (2, (((1, 0), 1), ((-1, 0), -1), ((2, 4), 14), ((1, 1), 9)))
+        self.assertEqual([equations(flat), sides(flat)], [[((1, 0), 1)], [((0, 1), 3)]])
+        self.assertEqual(lean(flat), (2, (((-1, 0), -1), ((0, 1), 3), ((1, 0), 1))))
+
+    def test_of_the_interface(self):
+        square = (2, (((-1, 0), 0), ((0, -1), 0), ((0, 1), 1), ((1, 0), 1)))
+        found = [edges(square), face_with(square, (0, 3)), cut(square), volume(square), heart(square),
+                 where(square, ((1, 2), (1, 4)))]
+        self.assertEqual(found, [
+            [(0, 1), (0, 2), (1, 3), (2, 3)], (0, 1, 2, 3), [(0, 1, 3), (0, 2, 3)], (1, 1), ((1, 2), (1, 2)),
+            ((0, 2, 3), ((1, 2), (1, 4), (1, 4)))])
+
+    def test_returned_lists_are_new(self):
+        for call in (corners, cut, edges, sides, equations):
+            first = call(cube(2))
+            kept = list(first)
+            first.append("more")
+            self.assertEqual(call(cube(2)), kept)
+
+
+def kinds(value):
+    """All classes in a value."""
+    if type(value) in (tuple, list):
+        return {type(value)}.union(*[kinds(one) for one in value])
+    return {type(value)}
+
+
+class TestPlainValues(unittest.TestCase):
+    def test_of_no_class_of_its_own(self):
+        for value in (corners(cube(3)), cut(cube(3)), lean(cube(3)), greatest(cube(2), pt(1, 1)), heart(cube(2)),
+                      where(cube(2), pt(0, 0)), added_up(cube(2), pt(1, 1, 1, 1))):
+            self.assertTrue(kinds(value) <= {tuple, list, int, str}, kinds(value))
