@@ -19,9 +19,12 @@ def _turned(row, head, column, size, den, sign):
 
 
 class Tableau:
-    """The rows of a room of n unknowns, a tuple or list of pairs (members, bound) of integers."""
+    """The rows of a room of n unknowns, a tuple or list of pairs (members, bound) of integers.
 
-    def __init__(self, n, rows):
+    Where it can be, the slacks of the rows with the numbers in wanted become the first loose ones.
+    """
+
+    def __init__(self, n, rows, wanted=()):
         self.n = n
         self.many = len(rows)
         self.den = 1
@@ -33,15 +36,17 @@ class Tableau:
         self.patience = n + self.many
         # Where no row tells an unknown, it stays loose for ever: a line of the room goes along it.
         for c in range(1, n + 1):
-            r = self._row_for(c)
+            r = self._row_for(c, wanted)
+            if r is None:
+                r = self._row_for(c, list(range(self.many)))
             if r is not None:
                 self.exchange(r, c)
 
-    def _row_for(self, c):
+    def _row_for(self, c, numbers):
         best = None
-        for r, name in enumerate(self.basic):
+        for r in numbers:
             k = self.body[r][c]
-            if name >= self.n and k and (best is None or abs(k) < abs(self.body[best][c])):
+            if self.basic[r] >= self.n and k and (best is None or abs(k) < abs(self.body[best][c])):
                 best = r
         return best
 
@@ -171,14 +176,26 @@ class Tableau:
                 return c + 1
         return 0
 
+    def _open_column(self):
+        # A column of a loose slack that nothing blocks and that makes the aim grow, 0 if there is none.
+        for c, name in enumerate(self.loose):
+            if name < self.n or self.aim[c + 1] <= 0:
+                continue
+            if all(row[c + 1] >= 0 or basic < self.n for row, basic in zip(self.body, self.basic)):
+                return c + 1
+        return 0
+
     def climb(self):
         """Goes where the aim is greatest and returns 0, or returns a column along which it grows for ever.
 
         The tableau stands at a point of the room.
         """
+        c = self.line() or self._open_column()
+        if c:
+            return c
         stalled = 0
         while True:
-            c = self.line() or self.entering(self.aim, stalled > self.patience)
+            c = self.entering(self.aim, stalled > self.patience)
             if c == 0:
                 return 0
             block = self.blocker(c, None)
@@ -212,6 +229,10 @@ class Tableau:
             if name >= self.n:
                 found[name - self.n] = -self.aim[c + 1]
         return found
+
+    def tight_numbers(self):
+        """The numbers of the rows whose slacks are loose."""
+        return [name - self.n for name in self.loose if name >= self.n]
 
     def slack_numbers(self):
         """The numbers of the rows whose slack is above 0 here, as the keys of a dict."""

@@ -97,6 +97,20 @@ class TestGreatest(unittest.TestCase):
         self.assertLess(time.monotonic() - begin, 120)
 
 
+    def test_greater_than_the_limits(self):
+        told = seeded(47)
+        big = 10 ** 75
+        words = {}
+        for _ in range(60):
+            n = told.randint(1, 6)
+            room = random_room(told, n, told.randint(1, 14), told.choice([big, 10 ** 49]),
+                               told.choice(["any", "full", "point", "flat"]))
+            form = pt(*[Fraction(told.randint(-big, big), told.randint(1, big)) for _ in range(n)])
+            answer = self.ask(n, room[1], form)
+            words[answer[0]] = True
+        self.assertEqual(sorted(words), ["bare", "far", "most"])
+
+
 class TestMixed(unittest.TestCase):
     def look(self, parts, target, paper):
         if paper[0] == "mixed":
@@ -156,6 +170,19 @@ class TestMixed(unittest.TestCase):
         self.ask(positive, pt(*[told.randint(1, big) for _ in range(16)]))
         halves = [pt(*[Fraction(told.randint(-big, big), told.randint(1, 9)) for _ in range(16)]) for _ in range(30)]
         self.ask(halves, tuple(total([part[k] for part in halves]) for k in range(16)))
+
+    def test_fractions_of_twenty_figures(self):
+        told = seeded(46)
+        big = 10 ** 20 - 1
+        for n, many in ((8, 80), (11, 40)):
+            def form(low):
+                return pt(*[Fraction(told.randint(low, big), told.randint(1, big)) for _ in range(n)])
+            for low in (-big, 0):
+                parts = [form(low) for _ in range(many)]
+                self.look(parts, parts[3], mixed(parts, parts[3]))
+                target = form(low)
+                self.look(parts, target, mixed(parts, target))
+                self.look(parts[:n], target, mixed(parts[:n], target))
 
     def test_judge(self):
         parts = [pt(1, 0), pt(0, Fraction(1, 2)), pt(-1, -1)]
