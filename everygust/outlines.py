@@ -7,7 +7,8 @@ shadow's, which the weights of the greatest worth show, or there is a point beyo
 from everygust.cones import first_cone, met_by
 from everygust.echelon import nought_with, rank
 from everygust.errors import TooGreat
-from everygust.trimming import Trimmed, base_of
+from everygust.spans import alone_on_sides, equations_of, row_of_edge, told_free
+from everygust.trimming import Trimmed, free_columns
 from everygust.vectors import divided, primitive
 
 MOST_ROWS = 80
@@ -16,8 +17,8 @@ MOST_ROWS = 80
 class Outline:
     """The shadow, at shown places, of the room of a tableau that stands at a point and in which nothing shown is far.
 
-    found has a pair (vector, point) for each point that was found: the shown coordinates behind a common
-    denominator, and the integers of all coordinates with theirs.
+    found has a pair (vector, point) for each point that was found: what tells its shown coordinates, and the integers
+    of all coordinates with their denominator.
     """
 
     def __init__(self, tableau, shown):
@@ -25,16 +26,12 @@ class Outline:
         self.shown = shown
         self.found = []
         self._find()
-        trim = Trimmed(len(shown), self._base(), [], None)
-        self.trim = trim
-        self.kept = {}
-        self.edges = []
-        if trim.free:
-            self._begin()
-            self._go_on()
-        pairs = sorted([(self._row(edge), met) for edge, met in self.edges])
-        trim.sides = [row for row, _ in pairs]
+        base = self._base()
+        self.free = free_columns(len(shown), base)
+        edges = self._edges(2 * len(base)) if self.free else []
+        pairs = sorted([(row_of_edge(len(shown), self.free, edge), met) for edge, met in edges])
         self.met = [met for _, met in pairs]
+        self.trim = Trimmed(len(shown), base, [row for row, _ in pairs], None)
 
     def _find(self):
         # Takes in the point at which the tableau stands.
@@ -61,44 +58,33 @@ class Outline:
 
     def _base(self):
         # The equations of the shadow; as many points as it takes to tell its flat are found on the way.
-        size = len(self.shown) + 1
         flats = []
         while True:
-            vectors = nought_with([vector for vector, _ in self.found], size)
+            vectors = nought_with([vector for vector, _ in self.found], len(self.shown) + 1)
             left = [vector for vector in vectors if rank(flats + [vector]) > len(flats)]
             if not left:
-                return base_of([(tuple([-k for k in vector[1:]]), vector[0]) for vector in flats])
+                return equations_of(flats)
             if not self._is_beyond(left[0], 1) and not self._is_beyond(left[0], -1):
                 flats.append(left[0])
 
-    def _told_free(self, vector):
-        return (vector[0],) + tuple([vector[k + 1] for k in self.trim.free])
-
-    def _row(self, edge):
-        members = [0] * len(self.shown)
-        for k, number in zip(self.trim.free, edge[1:]):
-            members[k] = -number
-        return (tuple(members), edge[0])
-
-    def _begin(self):
-        self.edges = first_cone([self._told_free(vector) for vector, _ in self.found])
-
-    def _go_on(self):
+    def _edges(self, taken):
+        # The edges of the cone of all rows that let the shadow by, which has so many rows besides.
+        edges = first_cone([told_free(vector, self.free) for vector, _ in self.found])
+        kept = {}
         while True:
-            left = [edge for edge, _ in self.edges if edge not in self.kept]
+            left = [edge for edge, _ in edges if edge not in kept]
             if not left:
-                return
+                return edges
             # The newest one is looked at first, so that sides are settled before the hull has many others.
-            row = self._row(left[-1])
-            value, denominator = self.reach(row[0])
-            if value == row[1] * denominator:
-                self.kept[left[-1]] = True
-                if len(self.kept) + 2 * len(self.trim.base) > MOST_ROWS:
-                    raise TooGreat()
+            members, bound = row_of_edge(len(self.shown), self.free, left[-1])
+            value, denominator = self.reach(members)
+            if value > bound * denominator:
+                self._find()
+                edges = met_by(edges, told_free(self.found[-1][0], self.free), len(self.found) - 1)
                 continue
-            self._find()
-            number = len(self.found) - 1
-            self.edges = met_by(self.edges, self._told_free(self.found[-1][0]), number)
+            kept[left[-1]] = True
+            if len(kept) + taken > MOST_ROWS:
+                raise TooGreat()
 
     def rows(self):
         """The ascending rows of the shadow's lean form."""
@@ -112,12 +98,7 @@ class Outline:
     def corners(self):
         """The pairs (corner, point above it), in no sequence."""
         found = []
-        every = (1 << len(self.found)) - 1
-        for k, (vector, point) in enumerate(self.found):
-            common = every
-            for met in self.met:
-                if met >> k & 1:
-                    common &= met
-            if common == 1 << k:
-                found.append((divided(vector[1:], vector[0]), divided(point[0], point[1])))
+        for k in alone_on_sides(self.met, len(self.found)):
+            vector, point = self.found[k]
+            found.append((divided(vector[1:], vector[0]), divided(point[0], point[1])))
         return found

@@ -1,65 +1,73 @@
-"""The room of all means of some points: by the flat that they span and the cone of all rows that let them by."""
+"""The room of all means of some points: by the flat that they span and the cone of all rows that let them by.
+
+Points are told as above_one tells them: their coordinates as integers behind a common denominator.
+"""
 
 from everygust.cones import cone_of
 from everygust.echelon import nought_with
 from everygust.means import above_one
-from everygust.trimming import Trimmed, base_of
+from everygust.trimming import Trimmed, base_of, free_columns
 
 
-def _told_free(vector, free):
+def told_free(vector, free):
+    """What tells the point by its free coordinates alone."""
     return (vector[0],) + tuple([vector[k + 1] for k in free])
 
 
-def _row_on(n, free, edge):
-    # What an edge of the cone tells is that its first number and the others times the point make 0 or more.
+def row_of_edge(n, free, edge):
+    """The row of n that an edge of a cone tells: its product with what tells a point is at least 0."""
     members = [0] * n
     for k, number in zip(free, edge[1:]):
         members[k] = -number
     return (tuple(members), edge[0])
 
 
-def flat_of(n, vectors):
-    """The base of the equations that hold at all points, told as above_one tells them."""
-    found = nought_with(vectors, n + 1)
-    return base_of([(tuple([-k for k in vector[1:]]), vector[0]) for vector in found])
+def equations_of(vectors):
+    """The base of the equations told by vectors whose products with what tells a point are 0."""
+    return base_of([(tuple([-k for k in vector[1:]]), vector[0]) for vector in vectors])
+
+
+def alone_on_sides(met, many):
+    """The ascending numbers of those of so many points that no other one is on all their sides with.
+
+    Each side is told by an integer: binary figure number k is 1 if point number k is on it.
+    """
+    found = []
+    for k in range(many):
+        common = (1 << many) - 1
+        for side in met:
+            if side >> k & 1:
+                common &= side
+        if common == 1 << k:
+            found.append(k)
+    return found
 
 
 class Span:
-    """The hull of at least one point: its lean form, and at which points each side, in order, is tight.
+    """The hull of at least one point, as its lean form tells it; sides has its sides, ascending.
 
-    Binary figure number k of a member of met is 1 if the side is tight at point number k of told.
+    met tells for each side at which points it is tight, as in alone_on_sides; of equal points the first one stands
+    for all, and numbers has the numbers of these.
     """
 
     def __init__(self, n, points):
-        seen, told = {}, []
+        seen = {}
         for number, point in enumerate(points):
             vector = above_one(point)
             if vector not in seen:
-                seen[vector] = True
-                told.append((number, vector))
-        # Of equal points the first one stands for all.
-        self.numbers = [number for number, _ in told]
-        vectors = [vector for _, vector in told]
-        base = flat_of(n, vectors)
-        trim = Trimmed(n, base, [], None)
+                seen[vector] = number
+        self.vectors = list(seen)
+        self.numbers = [seen[vector] for vector in seen]
+        base = equations_of(nought_with(self.vectors, n + 1))
+        free = free_columns(n, base)
         pairs = []
-        if trim.free:
-            for edge, met in cone_of([_told_free(vector, trim.free) for vector in vectors]):
-                pairs.append((_row_on(n, trim.free, edge), met))
+        if free:
+            for edge, met in cone_of([told_free(vector, free) for vector in self.vectors]):
+                pairs.append((row_of_edge(n, free, edge), met))
         pairs = sorted(pairs)
-        trim.sides = [row for row, _ in pairs]
         self.met = [met for _, met in pairs]
-        self.trim = trim
-        self.vectors = vectors
+        self.trim = Trimmed(n, base, [row for row, _ in pairs], None)
 
     def corner_numbers(self):
         """The ascending numbers of the points that are corners, of equal ones the first."""
-        found = []
-        for k, number in enumerate(self.numbers):
-            around = [met for met in self.met if met >> k & 1]
-            common = (1 << len(self.numbers)) - 1
-            for met in around:
-                common &= met
-            if common == 1 << k:
-                found.append(number)
-        return found
+        return [self.numbers[k] for k in alone_on_sides(self.met, len(self.numbers))]

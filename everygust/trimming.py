@@ -104,6 +104,12 @@ def made_less_by(base, row):
     return plain_row((members, bound))
 
 
+def free_columns(n, base):
+    """The columns without a head, ascending: their numbers tell a point of the flat of the base."""
+    heads = [head_of(a) for a, _ in base]
+    return [k for k in range(n) if k not in heads]
+
+
 class Trimmed:
     """A room with points as its lean form tells it: the base of its equations and its sides, both ascending.
 
@@ -115,9 +121,7 @@ class Trimmed:
         self.base = base
         self.sides = sides
         self.tableau = tableau
-        heads = [head_of(a) for a, _ in base]
-        self.heads = heads
-        self.free = [k for k in range(n) if k not in heads]
+        self.free = free_columns(n, base)
 
     def rows(self):
         """The ascending rows of the lean form."""
@@ -143,9 +147,8 @@ def trimmed(room):
     if tableau is None:
         return None
     base = base_of([rows[k] for k in always_tight(tableau)])
-    heads = [head_of(a) for a, _ in base]
-    free = [k for k in range(n) if k not in heads]
     if base:
+        free = free_columns(n, base)
         rows = tightest([made_less_by(base, row) for row in rows])
         tableau = settled((len(free), [(shown_at(a, free), b) for a, b in rows]))
     stay = needed_numbers(tableau, list(range(len(rows))))
