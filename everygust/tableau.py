@@ -50,15 +50,6 @@ class Tableau:
                 best = r
         return best
 
-    def copied(self):
-        """A tableau that stands where this one does, and goes its own way."""
-        found = Tableau(0, ())
-        found.n, found.many, found.den = self.n, self.many, self.den
-        found.patience = self.patience
-        found.body, found.basic = list(self.body), list(self.basic)
-        found.loose, found.aim = list(self.loose), list(self.aim)
-        return found
-
     def exchange(self, r, c):
         """Makes the basic one of row r loose, and the loose one of column c basic."""
         head = self.body[r]

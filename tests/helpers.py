@@ -56,6 +56,19 @@ def simplex(n):
     return (n, tuple(rows) + (((1,) * n, 1),))
 
 
+def polygon(many):
+    """The room of the means of the points (t, t * t), t from 0 to many - 1: as many sides as corners."""
+    rows = [((2 * t + 1, -1), t * (t + 1)) for t in range(many - 1)]
+    return (2, tuple(rows) + (((1 - many, 1), 0),))
+
+
+def slanted(room):
+    """The room with one more coordinate, which is the sum of the others."""
+    n, rows = room
+    flat = (1,) * n + (-1,)
+    return (n + 1, tuple((a + (0,), b) for a, b in rows) + ((flat, 0), (tuple(-k for k in flat), 0)))
+
+
 def random_room(told, n, many, big, kind):
     """A room of random rows: 'any' bound, or kept by some point ('full'), or tight there ('point'), or in part."""
     inner = [told.randint(-big, big) for _ in range(n)]

@@ -418,8 +418,8 @@ def unused_helpers():
     found = []
     texts = {name: source(name) for name in files()}
     for name, text in texts.items():
-        for node in ast.parse(text).body:
-            if isinstance(node, (ast.FunctionDef, ast.ClassDef)):
+        for node in ast.walk(ast.parse(text)):
+            if isinstance(node, (ast.FunctionDef, ast.ClassDef)) and not node.name.startswith("__"):
                 uses = sum(len(re.findall(r"\b" + node.name + r"\b", other)) for other in texts.values())
                 if uses < 2:
                     found.append((name, node.name))

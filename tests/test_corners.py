@@ -9,7 +9,8 @@ from everygust.lean import sides
 from everygust.rows import product
 from everygust.weights import is_bare
 from tests.helpers import (
-    corners_by_trying, cross, cube, fr, is_within, numbers, product_of, pt, random_room, seeded, simplex, unchanged)
+    corners_by_trying, cross, cube, fr, is_within, numbers, polygon, product_of, pt, random_room, seeded, simplex,
+    slanted, unchanged)
 from tests.test_weights import BARE, TRIANGLE, WEDGE
 
 
@@ -64,6 +65,11 @@ class TestCorners(unittest.TestCase):
             self.assertRaises(Bare, call, (4, many_corners(30)[1] + (((1, 0, 0, 0), -10 ** 9),)))
         self.assertEqual(len(corners(many_corners(26))), 299)
         self.assertEqual(len(corners(product(cube(2), cube(2)))), 16)
+
+    def test_just_too_great(self):
+        self.assertEqual(corners(polygon(300)), [pt(t, t * t) for t in range(300)])
+        self.assertRaises(TooGreat, corners, polygon(301))
+        self.assertEqual(len(corners(slanted(polygon(40)))), 40)
 
     def test_is_corner(self):
         told = seeded(72)

@@ -9,7 +9,8 @@ from everygust.lean import is_lean, lean, sides
 from everygust.rows import is_in, plain_row
 from everygust.weights import is_bare
 from tests import referees
-from tests.helpers import ODD, cross, cube, is_within, numbers, product_of, pt, seeded, unchanged
+from tests.helpers import (
+    ODD, cross, cube, is_within, numbers, polygon, product_of, pt, seeded, slanted, unchanged)
 from tests.test_corners import bounded_rooms
 from tests.test_faces import flat_dimension, rank
 
@@ -126,6 +127,23 @@ class TestHull(unittest.TestCase):
         with self.assertRaises(TooGreat):
             hull(4, points[:15])
         self.assertIsNone(judge_hull(4, points[:14], hull(4, points[:14]), hull_paper(4, points[:14])))
+
+
+    def test_just_too_great(self):
+        for many, is_great in ((80, False), (81, True)):
+            points = [pt(t, t * t) for t in range(many)]
+            for call in (hull, hull_paper):
+                if is_great:
+                    self.assertRaises(TooGreat, call, 2, points)
+                else:
+                    call(2, points)
+            # An equation is told by two rows.
+            flat = [pt(t, t * t, t + t * t) for t in range(many - 2)]
+            if is_great:
+                self.assertRaises(TooGreat, hull, 3, flat)
+            else:
+                self.assertEqual(hull(3, flat), lean(slanted(polygon(many - 2))))
+            self.assertEqual(hull_corners(2, points), list(range(many)))
 
 
 class TestPapers(unittest.TestCase):

@@ -10,7 +10,8 @@ from everygust.shadows import above, judge_above, judge_shadow, shadow, shadow_p
 from everygust.weights import is_bare, is_bounded
 from tests import referees
 from tests.helpers import (
-    ODD, corners_by_trying, cross, cube, is_within, numbers, product_of, pt, random_room, seeded, simplex, unchanged)
+    ODD, corners_by_trying, cross, cube, is_within, numbers, polygon, product_of, pt, random_room, seeded, simplex,
+    slanted, unchanged)
 from tests.test_corners import bounded_rooms, many_corners
 from tests.test_weights import BARE, TRIANGLE, WEDGE, rooms_of_all_sorts
 
@@ -164,6 +165,25 @@ class TestShadow(unittest.TestCase):
                 root += 1
             rows.append((a, 1000 * root))
         return (6, tuple(rows) + cube(6, -2000, 2000)[1])
+
+
+    def test_just_too_great(self):
+        for call in (shadow, shadow_paper):
+            call(polygon(80), (0, 1))
+            self.assertRaises(TooGreat, call, polygon(81), (0, 1))
+            call(slanted(polygon(78)), (0, 1, 2))
+            self.assertRaises(TooGreat, call, slanted(polygon(79)), (0, 1, 2))
+            self.assertEqual(len(call(slanted(polygon(79)), (0, 1))[1]), 79)
+        self.assertEqual(shadow(polygon(81), (1,)), (1, (((-1,), 0), ((1,), 6400))))
+
+    def test_just_too_many_corners(self):
+        # A product of polygons has as many corners as both numbers of theirs make multiplied.
+        for one, other, is_great in ((15, 20, False), (43, 7, True), (17, 18, True)):
+            room = product(polygon(one), polygon(other))
+            if is_great:
+                self.assertRaises(TooGreat, shadow_paper, room, (0, 1, 2, 3))
+            else:
+                self.assertEqual(len(shadow_paper(room, (0, 1, 2, 3))[3]), one * other)
 
 
 class TestAbove(unittest.TestCase):
