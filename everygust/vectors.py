@@ -44,8 +44,3 @@ def divided(numbers, denominator):
 def unit(n, place, number):
     """The tuple of n integers that has a number at one place and noughts elsewhere."""
     return tuple([number if k == place else 0 for k in range(n)])
-
-
-def noughts(n):
-    """The tuple of n noughts."""
-    return (0,) * n

@@ -249,7 +249,9 @@ class TestWithin(unittest.TestCase):
 
     def test_no_points(self):
         for n in range(4):
-            self.look(n, [], pt(*[0] * n), within(n, [], pt(*[0] * n)))
+            for told in (0, -7, 7):
+                point = pt(*[told] * n)
+                self.look(n, [], point, within(n, [], point))
 
     def test_judge(self):
         middle, beside = pt(2, 1), pt(3, 1)

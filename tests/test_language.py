@@ -1,7 +1,8 @@
-import os
+import re
 import unittest
 
 from tests import language
+from tests.test_interface import FILES
 
 
 class TestLanguage(unittest.TestCase):
@@ -9,14 +10,9 @@ class TestLanguage(unittest.TestCase):
         self.assertEqual(language.all_faults(), [])
 
     def test_nothing_is_left_unused(self):
-        told = {name for _, name in language.unused_helpers()}
-        interface = set()
-        for name in os.listdir(os.path.dirname(os.path.abspath(__file__))):
-            if name.startswith("test_"):
-                with open(os.path.join(os.path.dirname(os.path.abspath(__file__)), name), encoding="utf-8") as text:
-                    interface |= set(text.read().replace("(", " ").replace(",", " ").replace('"', " ")
-                                     .replace(".", " ").replace(")", " ").split())
-        self.assertEqual(sorted(told - interface), [])
+        interface = set(re.findall(r"(\w+)\(", " ".join(FILES.values())))
+        left = [told for told in language.unused_helpers() if told[1] not in interface and told[0] != "errors.py"]
+        self.assertEqual(left, [])
 
 
 class TestFolder(unittest.TestCase):
