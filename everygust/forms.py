@@ -60,3 +60,10 @@ def is_row(n, value):
 def is_ascending(numbers):
     """Whether each integer is greater than the one ahead of it."""
     return all(one < other for one, other in zip(numbers, numbers[1:]))
+
+
+def is_room(n, value):
+    """A room of n."""
+    if not is_tuple_of(value, 2) or not is_whole(value[0]) or value[0] != n or type(value[1]) is not tuple:
+        return False
+    return all(is_row(n, row) for row in value[1])

@@ -5,14 +5,13 @@ from everygust.errors import TooGreat
 from everygust.forms import is_ascending, is_number_of, is_row, is_told, is_tuple_of
 from everygust.fractions import minus
 from everygust.lattice import figures
+from everygust.limits import MOST_ROWS
 from everygust.means import above_one, is_mean_form, mean_fault
 from everygust.rows import is_in, plain_row, row_of, slack
 from everygust.solids import ascending_points, solid_of
 from everygust.solving import mixed
 from everygust.spans import Span
 from everygust.trimming import bare_rows
-
-MOST_ROWS = 80
 
 
 def _span_of(n, points):

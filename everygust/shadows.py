@@ -4,34 +4,26 @@ from everygust.corners import corners
 from everygust.errors import TooGreat, Unbounded
 from everygust.forms import is_point, is_row, is_told, is_tuple_of, is_weights
 from everygust.fractions import is_less
+from everygust.limits import MOST_CORNERS, MOST_ROWS, bounded_tableau
 from everygust.outlines import Outline
 from everygust.papers import added_pair
 from everygust.rows import first_broken, is_in
-from everygust.settled import settled, way_of
-from everygust.solids import MOST_CORNERS, ascending_points, is_ahead
+from everygust.settled import way_of
+from everygust.solids import is_ahead
 from everygust.solving import form_worth
 from everygust.tableau import Tableau
 from everygust.trimming import bare_rows, shown_at
 from everygust.vectors import divided, dot, whole
+from everygust.views import shown_view
 from everygust.weights import is_bounded
-
-MOST_ROWS = 80
-
-
-def _bounded(room):
-    # A tableau at a point of a room that must be bounded, None if it is bare.
-    tableau = settled(room)
-    if tableau is not None and way_of(tableau) is not None:
-        raise Unbounded()
-    return tableau
 
 
 def shadow(room, shown):
     """The shadow of a room at shown places, lean."""
-    tableau = _bounded(room)
+    tableau = bounded_tableau(room)
     if tableau is None:
         return (len(shown), bare_rows(len(shown)))
-    return (len(shown), tuple(Outline(tableau, shown).rows()))
+    return Outline(shown_view(tableau, shown)).room()
 
 
 def _dropped(n, shown):
@@ -100,13 +92,13 @@ def shadow_paper(room, shown):
         return ("bare", bare)
     if way_of(tableau) is not None:
         raise Unbounded()
-    outline = Outline(tableau, shown)
+    outline = Outline(shown_view(tableau, shown))
     pairs = outline.corners()
     if len(pairs) > MOST_CORNERS:
         raise TooGreat()
-    rows = outline.rows()
+    rows = outline.room()[1]
     weights = [outline.weights_of(row) for row in rows]
-    return ("shadow", tuple(rows), tuple(weights), tuple(ascending_points(pairs)))
+    return ("shadow", rows, tuple(weights), tuple(pairs))
 
 
 def _is_shadow_form(room, shown, value):

@@ -3,11 +3,10 @@
 from everygust.cones import cone_of
 from everygust.echelon import head_of
 from everygust.errors import Bare, TooGreat, Unbounded
+from everygust.limits import MOST_CORNERS
 from everygust.settled import way_of
 from everygust.trimming import shown_at, trimmed
 from everygust.vectors import divided
-
-MOST_CORNERS = 300
 
 
 class Solid:

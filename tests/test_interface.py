@@ -41,7 +41,31 @@ FILES = {
              "within(n, points, point) judge_within(n, points, point, value)",
     "shadows": "shadow(room, shown) above(room, shown, point) judge_above(room, shown, point, value) "
                "shadow_paper(room, shown) judge_shadow(room, shown, value)",
+    "images": "section(room, place, fraction) image(matrix, shift, room) before(n, matrix, shift, room) "
+              "added(room, other) shrunk(room, other) rest_paper(room, other) judge_rest(room, other, value)",
+    "steps": "come_by(plant, room, u) come(plant, room) greatest_gust(plant, form) landing(plant, room) "
+             "late_landing(plant, room) back_by(plant, room, u) back(plant, room) back_mixed(plant, room, mixed) "
+             "late_back(plant, room) leads(plant, x, u, room) leads_out(plant, x, u, room)",
+    "levels": "levels(plant, walls, goal, many) levels_by(course, walls, goal) levels_with(rooms, x) "
+              "last_chance(plant, walls, goal, many, x) come_to(plant, room, many)",
+    "books": "row_paper(plant, walls, below, row) row_fault(plant, walls, below, row, value) "
+             "level_book(plant, walls, goal, many) judge_book(plant, walls, goal, many, value)",
+    "wishes": "good_wishes(plant, room, x) a_wish(plant, room, x) bar(plant, room, x) "
+              "judge_bar(plant, room, x, value)",
+    "helms": "helm_paper(plant, walls, goal, left, x) judge_helm(plant, walls, goal, left, x, value) "
+             "TreeHelm(plant, paper, x) LevelHelm(plant, levels) CallHelm(call)",
+    "foes": "foe_paper(plant, walls, goal, left, x) judge_foe(plant, walls, goal, left, x, value) "
+            "PaperFoe(plant, paper) LevelFoe(plant, levels) CallFoe(call)",
 }
+METHODS = {
+    ("helms", "TreeHelm"): "tell(self, left, x)", ("helms", "LevelHelm"): "tell(self, left, x)",
+    ("helms", "CallHelm"): "tell(self, left, x)", ("foes", "PaperFoe"): "blow(self, left, x, u)",
+    ("foes", "LevelFoe"): "blow(self, left, x, u)", ("foes", "CallFoe"): "blow(self, left, x, u)",
+}
+
+
+def told_of(function):
+    return function.__name__ + "(" + ", ".join(inspect.signature(function).parameters) + ")"
 
 
 class TestInterface(unittest.TestCase):
@@ -51,7 +75,14 @@ class TestInterface(unittest.TestCase):
             for one in told.replace(") ", ")|").split("|"):
                 function = getattr(module, one.split("(")[0])
                 self.assertEqual(function.__module__, "everygust." + name)
-                self.assertEqual(function.__name__ + "(" + ", ".join(inspect.signature(function).parameters) + ")", one)
+                self.assertEqual(told_of(function), one)
+
+    def test_methods(self):
+        for (name, title), told in METHODS.items():
+            found = getattr(importlib.import_module("everygust." + name), title)
+            for one in told.replace(") ", ")|").split("|"):
+                method = found.__dict__[one.split("(")[0]]
+                self.assertEqual(told_of(method), one)
 
 
 class TestExamples(unittest.TestCase):
