@@ -1,18 +1,18 @@
 """Row papers and books: what shows that a level has no more, and no less, than it is told to have."""
 
 from everygust.backing import Backing, Pairs
-from everygust.demands import first_out, room_corners
-from everygust.forms import is_point, is_room, is_tuple_of
+from everygust.ends import is_pairs, leading_fault, telling_fault
+from everygust.forms import is_room, is_tuple_of
 from everygust.fractions import ceiling_of, minus, plus, times
 from everygust.lean import is_lean, lean
 from everygust.limits import MOST_ROWS, few_lean
 from everygust.papers import added_pair
 from everygust.rowpapers import is_row_paper, shown_fault
-from everygust.rows import is_in, joined
-from everygust.solids import is_ahead
+from everygust.rows import joined
+from everygust.solids import corners_if_any
 from everygust.solving import mixed
 from everygust.vectors import divided
-from everygust.weights import bare_paper, following_paper, is_bare, is_bounded
+from everygust.weights import bare_paper, following_paper, is_bounded
 
 
 def _weights_if_bare(room, row):
@@ -58,43 +58,13 @@ def _is_entry(n, m, value):
     _, papers, pairs = value
     if not is_tuple_of(papers, len(value[0][1])) or not all(is_tuple_of(paper, 3) for paper in papers):
         return False
-    if type(pairs) is not tuple:
-        return False
-    for pair in pairs:
-        if not is_tuple_of(pair, 2) or not is_point(n, pair[0]) or not is_point(m, pair[1]):
-            return False
-    return True
+    return is_pairs(n, m, pairs)
 
 
 def _is_book(n, m, many, value):
     if not is_tuple_of(value, many + 1) or not is_tuple_of(value[0], 1) or not is_room(n, value[0][0]):
         return False
     return all(_is_entry(n, m, entry) for entry in value[1:])
-
-
-def _telling_fault(corners, pairs):
-    # Whether the pairs tell just these corners, in order.
-    told = {corner: True for corner, _ in pairs}
-    for corner in corners:
-        if corner not in told:
-            return ("lacks", corner)
-    for i, (corner, _) in enumerate(pairs):
-        if corner not in corners or i and not is_ahead(pairs[i - 1][0], corner):
-            return ("spare", i)
-    return None
-
-
-def _pairs_fault(plant, walls, below, pairs):
-    gusts = room_corners(plant[5])
-    for i, (corner, wish) in enumerate(pairs):
-        if not is_in(walls, corner):
-            return ("wall", i)
-        if not is_in(plant[4], wish):
-            return ("wish", i)
-        gust = first_out(plant, gusts, corner, wish, below)
-        if gust is not None:
-            return ("gust", i, gust)
-    return None
 
 
 def _entry_fault(plant, walls, below, entry):
@@ -104,9 +74,8 @@ def _entry_fault(plant, walls, below, entry):
     for i, (row, paper) in enumerate(zip(room[1], papers)):
         if row_fault(plant, walls, below, row, paper) is not None:
             return ("row", i)
-    corners = [] if is_bare(room) else room_corners(room)
-    fault = _telling_fault(corners, pairs)
-    return fault if fault is not None else _pairs_fault(plant, walls, below, pairs)
+    fault = telling_fault(corners_if_any(room), pairs)
+    return fault if fault is not None else leading_fault(plant, walls, below, pairs, "gust")
 
 
 def judge_book(plant, walls, goal, many, value):

@@ -43,8 +43,11 @@ def _new_edges(edges, lost, held, size):
     return found
 
 
-def met_by(edges, row, number):
-    """The edges of the cone that one more row, with this number, leaves of a cone."""
+def met_by(edges, row, number, size):
+    """The edges of the cone that one more row, with this number, leaves of a cone; size is that of its vectors.
+
+    Where the cone has lines, on which all rows are 0, size is less by as many as are independent.
+    """
     bit = 1 << number
     lost, held, kept = [], [], []
     near = 0
@@ -59,7 +62,6 @@ def met_by(edges, row, number):
             held.append((vector, met, k))
             kept.append((vector, met))
     if lost:
-        size = len(row)
         beside = [one for one in held if has_figures(one[1] & near, size - 2)]
         kept.extend([(vector, met | bit) for vector, met in _new_edges(edges, lost, beside, size)])
     return kept
@@ -74,5 +76,5 @@ def cone_of(rows):
         edges.append((vector, sum([1 << k for j, k in enumerate(begin) if met >> j & 1])))
     for number, row in enumerate(rows):
         if number not in begin:
-            edges = met_by(edges, row, number)
+            edges = met_by(edges, row, number, size)
     return edges

@@ -2,14 +2,9 @@
 
 from everygust.fractions import fraction_of, is_less, minus, times, total
 from everygust.rows import first_broken, next_of, reach
-from everygust.solids import all_corners, bounded_trim
+from everygust.solids import room_corners
 from everygust.solving import form_worth
 from everygust.vectors import divisor, dot, whole
-
-
-def room_corners(room):
-    """The ascending corners of a bounded room with points, however many it has."""
-    return [point for point, _ in all_corners(bounded_trim(room))]
 
 
 def column_sums(members, matrix, size):

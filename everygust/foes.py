@@ -1,11 +1,12 @@
 """Foe papers, which show that a standing cannot be led within the walls to the goal, and foes."""
 
 from everygust.books import row_paper
-from everygust.demands import first_out, room_corners
+from everygust.demands import first_out
 from everygust.forms import is_row, is_tuple_of
 from everygust.levels import levels_by
 from everygust.rowpapers import is_row_paper, shown_fault
 from everygust.rows import first_broken, next_of, slack
+from everygust.solids import room_corners
 
 
 def _tier_below(told, below):

@@ -1,11 +1,12 @@
 """Helm papers, which show that a standing can be led within the walls to the goal, and helms."""
 
-from everygust.demands import Demands, room_corners
+from everygust.demands import Demands
 from everygust.errors import TooGreat
 from everygust.forms import is_point, is_tuple_of
 from everygust.fractions import times, total
 from everygust.levels import levels_by
 from everygust.rows import is_in, next_of
+from everygust.solids import room_corners
 from everygust.solving import mixed
 from everygust.wishes import a_wish, good_wish
 

@@ -68,7 +68,8 @@ class Outline:
             value, denominator = self.view.reach(members)
             if value > bound * denominator:
                 self._find()
-                edges = met_by(edges, told_free(self.found[-1][0], self.free), len(self.found) - 1)
+                row = told_free(self.found[-1][0], self.free)
+                edges = met_by(edges, row, len(self.found) - 1, len(row))
                 continue
             kept[left[-1]] = True
             if len(kept) + taken > MOST_ROWS:

@@ -25,11 +25,16 @@ def is_parts(value, many, k):
     return True
 
 
+def is_bar(plant, many, value):
+    """Whether a value has the form of a bar over so many rows: parts and weights of the wishes."""
+    if not is_tuple_of(value, 2) or not is_parts(value[0], many, plant[5][0]):
+        return False
+    return is_weights(len(plant[4][1]), value[1])
+
+
 def is_row_paper(plant, walls, many, value):
     """Whether a value has the form of a paper over so many rows: parts, weights of the wishes and of the walls."""
-    if not is_tuple_of(value, 3) or not is_parts(value[0], many, plant[5][0]):
-        return False
-    return is_weights(len(plant[4][1]), value[1]) and is_weights(len(walls[1]), value[2])
+    return is_tuple_of(value, 3) and is_bar(plant, many, value[:2]) and is_weights(len(walls[1]), value[2])
 
 
 def bad_gust(plant, parts):

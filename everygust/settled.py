@@ -25,9 +25,9 @@ def way_of(tableau):
     return tableau.way(c) if c else None
 
 
-def always_tight(tableau):
-    """The ascending numbers of the rows that are tight at each point of the room."""
-    left = _row_numbers(tableau)
+def tight_among(tableau, numbers):
+    """The ascending numbers of those of some rows that are tight at each point of the room."""
+    left = {k: True for k in numbers}
     while left:
         # Rows seen to be slack somewhere need not be looked at again.
         left = _less(left, tableau.slack_numbers())
@@ -38,6 +38,11 @@ def always_tight(tableau):
         elif tableau.aim[0] == 0:
             return sorted(left)
     return []
+
+
+def always_tight(tableau):
+    """The ascending numbers of the rows that are tight at each point of the room."""
+    return tight_among(tableau, list(_row_numbers(tableau)))
 
 
 def _less(numbers, others):

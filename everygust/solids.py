@@ -4,7 +4,7 @@ from everygust.cones import cone_of
 from everygust.echelon import head_of
 from everygust.errors import Bare, TooGreat, Unbounded
 from everygust.limits import MOST_CORNERS
-from everygust.settled import way_of
+from everygust.settled import settled, way_of
 from everygust.trimming import shown_at, trimmed
 from everygust.vectors import divided
 
@@ -79,6 +79,16 @@ def all_corners(trim):
         return [(_full_point(trim, (1,)), 0)]
     rows = [(b,) + tuple([-k for k in shown_at(a, trim.free)]) for a, b in trim.sides]
     return ascending_points([(_full_point(trim, vector), met) for vector, met in cone_of(rows)])
+
+
+def room_corners(room):
+    """The ascending corners of a bounded room with points, however many it has."""
+    return [point for point, _ in all_corners(bounded_trim(room))]
+
+
+def corners_if_any(room):
+    """The ascending corners of a bounded room, however many it has, perhaps none."""
+    return [] if settled(room) is None else room_corners(room)
 
 
 def solid_of(room):

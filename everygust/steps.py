@@ -1,10 +1,11 @@
 """What rooms come to in a step of a plant, and the standings from which a step leads into a room."""
 
-from everygust.demands import Demands, column_sums, first_out, room_corners, strongest
+from everygust.demands import Demands, column_sums, first_out, strongest
 from everygust.images import added, before, image, shrunk
 from everygust.limits import bounded_tableau, few_lean
 from everygust.rows import image_of
 from everygust.shadows import shadow
+from everygust.solids import room_corners
 from everygust.vectors import dot, whole
 
 

@@ -66,6 +66,39 @@ class Tableau:
         self.den = size
         self.basic[r], self.loose[c - 1] = self.loose[c - 1], self.basic[r]
 
+    def twin(self):
+        """A tableau that stands where this one does, and goes its own way from then on."""
+        found = Tableau(self.n, ())
+        # No row is changed once it is there: an exchange puts others in its place.
+        found.body = list(self.body)
+        found.basic = list(self.basic)
+        found.loose = list(self.loose)
+        found.aim = self.aim
+        found.den = self.den
+        found.many = self.many
+        found.patience = self.patience
+        return found
+
+    def take_in(self, row):
+        """Puts one more row behind the others; where the tableau stands it may be broken."""
+        members, bound = row
+        told = [bound * self.den] + [0] * self.n
+        for basic, name in zip(self.body, self.basic):
+            if name < self.n and members[name]:
+                told = [v - members[name] * k for v, k in zip(told, basic)]
+        for c, name in enumerate(self.loose):
+            if name < self.n:
+                told[c + 1] -= members[name] * self.den
+        self.body.append(told)
+        self.basic.append(self.n + self.many)
+        self.many += 1
+        self.patience += 1
+        # What was loose for ever, as no row told it, is told by this one now, which becomes tight.
+        for c, name in enumerate(self.loose):
+            if name < self.n and told[c + 1]:
+                self.exchange(len(self.body) - 1, c + 1)
+                return
+
     def entering(self, worths, is_careful):
         """The column of a loose slack that makes what worths tells grow, 0 if none does."""
         best = 0

@@ -1,10 +1,9 @@
 """Good wishes at a standing, and bars where there are none."""
 
 from everygust.demands import Demands
-from everygust.forms import is_tuple_of, is_weights
 from everygust.fractions import minus
 from everygust.limits import few_lean
-from everygust.rowpapers import bad_gust, is_parts, parts_sums
+from everygust.rowpapers import bad_gust, is_bar, parts_sums
 from everygust.solving import form_worth
 from everygust.tableau import Tableau
 from everygust.vectors import divided, whole
@@ -41,11 +40,9 @@ def bar(plant, room, x):
 
 def judge_bar(plant, room, x, value):
     """None if a value, which may be anything, is a right bar at a standing for a room; otherwise its first fault."""
-    if not is_tuple_of(value, 2) or not is_parts(value[0], len(room[1]), plant[5][0]):
+    if not is_bar(plant, len(room[1]), value):
         return ("form",)
     parts, nu = value
-    if not is_weights(len(plant[4][1]), nu):
-        return ("form",)
     number = bad_gust(plant, parts)
     if number is not None:
         return ("gust", number)

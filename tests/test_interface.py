@@ -56,11 +56,29 @@ FILES = {
              "TreeHelm(plant, paper, x) LevelHelm(plant, levels) CallHelm(call)",
     "foes": "foe_paper(plant, walls, goal, left, x) judge_foe(plant, walls, goal, left, x, value) "
             "PaperFoe(plant, paper) LevelFoe(plant, levels) CallFoe(call)",
+    "runs": "run(plant, x, left, helm, foe) judge_history(plant, walls, goal, value) outcome(walls, goal, history)",
+    "regions": "in_region(region, point) region_point(region) closing(region) region_paper(region) "
+               "judge_region(region, value) region_less(region, room) less_lot(region, lot)",
+    "lots": "lot_at(lot, point) all_at(lot, point) lot_within(lot, other) lot_paper(lot, other) "
+            "judge_lot_paper(lot, other, value) lots_alike(lot, other) thinned(lot) spare(lot) lot_less(lot, other) "
+            "volume_of_lot(lot) lots_met(lot, other) lot_taken(matrix, shift, lot) hull_of_lot(lot) is_one_room(lot) "
+            "clumps(lot) road(lot, point, other) judge_road(lot, point, other, value)",
+    "tables": "told_at(table, x) made_table(plant, room, target) piece_of(points, wishes) "
+              "judge_table(plant, room, target, table) alike(table, other, room) thinned(table, room) "
+              "seam(table, room) TableHelm(tables)",
+    "locks": "one_piece(plant, room, target) judge_lock(plant, room, target, value)",
+    "trees": "check_tree(n, many, value) answer_of(tree, x) depth(tree) grown_tree(table, room) "
+             "judge_tree(table, room, tree) parting_rows(table, room) fewest_tests(table, room) "
+             "fewest_tree(table, room)",
+    "keeping": "keep_fault(plant, walls, room) keep_paper(plant, walls, room) judge_keep(plant, walls, room, value) "
+               "layers(plant, walls, most) lost_at(plant, walls, most, x) grown(plant, walls, room, most) "
+               "sure_of(plant, walls, room, most, x)",
 }
 METHODS = {
     ("helms", "TreeHelm"): "tell(self, left, x)", ("helms", "LevelHelm"): "tell(self, left, x)",
     ("helms", "CallHelm"): "tell(self, left, x)", ("foes", "PaperFoe"): "blow(self, left, x, u)",
     ("foes", "LevelFoe"): "blow(self, left, x, u)", ("foes", "CallFoe"): "blow(self, left, x, u)",
+    ("tables", "TableHelm"): "tell(self, left, x)",
 }
 
 
