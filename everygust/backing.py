@@ -16,9 +16,9 @@ class Pairs:
         self.n, m = walls[0], plant[4][0]
         self.demands = Demands(plant, below)
         self.counts = (len(below[1]), len(plant[4][1]))
-        self.room = (self.n + m, tuple(self.demands.pair_rows(with_noughts(walls, m))))
+        self.pair_room = (self.n + m, tuple(self.demands.pair_rows(with_noughts(walls, m))))
 
-    def paper(self, weights):
+    def row_paper_of(self, weights):
         """The row paper that weights of this room tell."""
         many, wishes = self.counts
         parts = self.demands.parts(weights[:many], 1)
@@ -33,7 +33,7 @@ class Backing:
 
     def __init__(self, pairs):
         self.pairs = pairs
-        tableau = Tableau(pairs.room[0], pairs.room[1])
+        tableau = Tableau(pairs.pair_room[0], pairs.pair_room[1])
         self.bare = tableau.settle()
         if self.bare is None:
             if way_of(tableau) is not None:
@@ -48,8 +48,8 @@ class Backing:
     def papers(self):
         """The row papers of the rows of the standings' room, in order."""
         if self.bare is not None:
-            return (self.pairs.paper(self.bare),)
-        return tuple([self.pairs.paper(self.outline.weights_of(row)) for row in self.outline.room()[1]])
+            return (self.pairs.row_paper_of(self.bare),)
+        return tuple([self.pairs.row_paper_of(self.outline.weights_of(row)) for row in self.outline.room()[1]])
 
     def corners(self):
         """The pairs of each corner of the standings' room, ascending, and a wish that leads it into the room below."""

@@ -29,11 +29,11 @@ def row_paper(plant, walls, below, row):
     """A paper that shows a row over a room below, None if there is none."""
     pairs = Pairs(plant, walls, below)
     told = (row[0] + (0,) * plant[4][0], row[1])
-    answer = following_paper(pairs.room, told)
+    answer = following_paper(pairs.pair_room, told)
     if answer[0] == "point":
         return None
-    weights = answer[1] if answer[0] == "weights" else _weights_if_bare(pairs.room, told)
-    return None if weights is None else pairs.paper(weights)
+    weights = answer[1] if answer[0] == "weights" else _weights_if_bare(pairs.pair_room, told)
+    return None if weights is None else pairs.row_paper_of(weights)
 
 
 def row_fault(plant, walls, below, row, value):

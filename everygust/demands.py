@@ -33,15 +33,15 @@ def first_out(plant, corners, x, u, room):
 class Demands:
     """The tightened rows of a room, for a plant.
 
-    rows has for each row of the room the tuple (of a standing, of a wish, bound, scale, gust): two tuples of integers
-    and an integer, which are the tightened row's numbers taken scale times, a fraction above 0; and the least corner
-    of the gusts' room that asks so much.
+    tightened has for each row of the room the tuple (of a standing, of a wish, bound, scale, gust): two tuples of
+    integers and an integer, which are the tightened row's numbers taken scale times, a fraction above 0; and the least
+    corner of the gusts' room that asks so much.
     """
 
     def __init__(self, plant, room):
         self.plant = plant
         self.gusts = room_corners(plant[5])
-        self.rows = [self._tightened(row) for row in room[1]]
+        self.tightened = [self._tightened(row) for row in room[1]]
 
     def _tightened(self, row):
         by_standing, by_wish, by_gust, still, wishes, gusts = self.plant
@@ -58,7 +58,7 @@ class Demands:
     def pair_rows(self, others):
         """The rows of all pairs of a standing and a wish: the tightened ones, the wishes', and other ones, as told."""
         ahead = (0,) * len(self.plant[0])
-        rows = [(x + u, bound) for x, u, bound, _, _ in self.rows]
+        rows = [(x + u, bound) for x, u, bound, _, _ in self.tightened]
         rows.extend([(ahead + a, b) for a, b in self.plant[4][1]])
         rows.extend(others)
         return rows
@@ -67,14 +67,14 @@ class Demands:
         """The rows of the good wishes at a standing: the wishes', and then the tightened ones, denominator times."""
         numbers, denominator = whole(x)
         rows = list(self.plant[4][1])
-        for told, u, bound, _, _ in self.rows:
+        for told, u, bound, _, _ in self.tightened:
             rows.append((tuple([k * denominator for k in u]), bound * denominator - dot(told, numbers)))
         return rows
 
     def parts(self, weights, times_taken):
         """The parts of a paper by weights of the tightened rows, which were taken so often: (row, weight, gust)."""
         found = []
-        for number, (weight, row) in enumerate(zip(weights, self.rows)):
+        for number, (weight, row) in enumerate(zip(weights, self.tightened)):
             if weight[0] > 0:
                 found.append((number, times(weight, fraction_of(row[3][0] * times_taken, row[3][1])), row[4]))
         return tuple(found)

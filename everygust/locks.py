@@ -1,7 +1,6 @@
 """One piece that is right by itself from a room into another one, or a lock where there is none."""
 
 from everygust.demands import Demands, column_sums
-from everygust.errors import Bare
 from everygust.forms import is_number_of, is_point, is_share, is_tuple_of
 from everygust.fractions import minus, plus, times
 from everygust.rows import image_of, is_in, slack
@@ -9,7 +8,6 @@ from everygust.solids import solid_of
 from everygust.solving import form_worth
 from everygust.tableau import Tableau
 from everygust.vectors import divided, dot, whole
-from everygust.weights import is_bare
 
 
 def _piece_row(by_wish, bound, numbers, denominator):
@@ -23,7 +21,7 @@ def _piece_rows(plant, demands, corners):
     found = []
     for corner in corners:
         numbers, denominator = whole(corner)
-        for i, (told, u, bound, scale, gust) in enumerate(demands.rows):
+        for i, (told, u, bound, scale, gust) in enumerate(demands.tightened):
             row = _piece_row(u, bound * denominator - dot(told, numbers), numbers, denominator)
             found.append((row, ((i, gust), corner, times(scale, (denominator, 1)))))
         for i, (a, b) in enumerate(plant[4][1]):
@@ -34,8 +32,6 @@ def _piece_rows(plant, demands, corners):
 
 def one_piece(plant, room, target):
     """A piece for all of a bounded room that is right by itself into a target, or a lock."""
-    if is_bare(room):
-        raise Bare()
     n, m = room[0], plant[4][0]
     told = _piece_rows(plant, Demands(plant, target), solid_of(room).points)
     tableau = Tableau(m * n + m, [row for row, _ in told])

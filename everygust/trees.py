@@ -137,20 +137,20 @@ class Cells:
     """
 
     def __init__(self, table, room):
-        self.rows = parting_rows(table, room)
-        if len(self.rows) > MOST_PARTING:
+        self.parting = parting_rows(table, room)
+        if len(self.parting) > MOST_PARTING:
             raise TooGreat()
         zone = _whole(room)
         cells = [] if zone is None else self._cells(zone)
         self.every = (1 << len(cells)) - 1
-        self.keeping = [sum([1 << j for j, kept in enumerate(cells) if kept[k]]) for k in range(len(self.rows))]
+        self.keeping = [sum([1 << j for j, kept in enumerate(cells) if kept[k]]) for k in range(len(self.parting))]
         self.having = [self._group_of(zone, piece[0]) for piece in table]
         self.known = {}
 
     def _cells(self, zone):
         # For each cell the list of whether it keeps the rows.
         zones = [(zone, [])]
-        for row in self.rows:
+        for row in self.parting:
             behind = []
             for one, kept in zones:
                 for part, is_kept in zip(one.parted(row), (True, False)):
@@ -164,8 +164,8 @@ class Cells:
         found = self.every
         for told in room[1]:
             row = plain_row(told)
-            if row in self.rows:
-                found &= self.keeping[self.rows.index(row)]
+            if row in self.parting:
+                found &= self.keeping[self.parting.index(row)]
             elif zone is not None and zone.parted(row)[0] is None:
                 return 0
         return found
@@ -200,7 +200,7 @@ class Cells:
         if is_told:
             return number
         yes = group & self.keeping[number]
-        return (self.rows[number], self.tree(yes), self.tree(group ^ yes))
+        return (self.parting[number], self.tree(yes), self.tree(group ^ yes))
 
 
 def fewest_tests(table, room):

@@ -138,6 +138,7 @@ class TestKept(unittest.TestCase):
                 (pt(2), shut, None), (pt(3), shut, ("standing",)), (pt(1), shut, ("sum",)), (pt(-2), shut, ("sum",)),
                 (pt(2), (shut[0], pt(0, 0)), ("turn",)), (pt(3), (shut[0], pt(0, 0)), ("standing",)),
                 (pt(2), (((0, (1, 1), pt(1)),), shut[1]), ("gust", 0)), (pt(2), (shut[0],), ("form",)),
+                (pt(3), (shut[0],), ("form",)),
                 (pt(2), (shut[0], pt(-1, 0)), ("form",)), (pt(2), (((2, (1, 1), pt(0)),), shut[1]), ("form",)),
                 (pt(2), (((0, (0, 1), pt(0)),), shut[1]), ("form",)), (pt(2, 2), shut, ("form",))]:
             self.judged(DOUBLE, TEN, two, ("lost", x, told), fault)

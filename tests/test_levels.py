@@ -86,6 +86,10 @@ class TestByHand(unittest.TestCase):
         self.assertEqual(come_to(SLIDE, WEDGE, 0), (lean(WEDGE),))
         self.assertRaises(Unbounded, come_to, SLIDE, WEDGE, 1)
 
+    def test_rooms_that_have_ways(self):
+        for course in (((STILL, "early"),), ((STILL, "late"),)):
+            self.assertRaises(Unbounded, levels_by, course, (2, ()), (2, ()))
+
 
 class TestCourses(unittest.TestCase):
     def test_by_standings(self):

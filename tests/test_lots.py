@@ -148,7 +148,10 @@ class TestWithin(unittest.TestCase):
         self.assertIsNotNone(lot_within((cube(2, -2, 2),), QUARTERS[1:]))
         # Points alone and lines do not cover what lies between them, but each other.
         lines = tuple((2, (((1, 0), k), ((-1, 0), -k), ((0, 1), 2), ((0, -1), 2))) for k in (-1, 0, 1))
-        self.assertIsNotNone(lot_within((cube(2),), lines))
+        for lot in (lines, lines[1:2], lines + ((2, (((0, 1), 0), ((0, -1), 0))), (2, (((1, 1), 0), ((-1, -1), 0))))):
+            for some in (lot, lot[::-1], lot[2:] + lot[:2]):
+                point = lot_within((cube(2),), some)
+                self.assertTrue(is_within(cube(2), numbers(point)) and not has_point(some, numbers(point)), some)
         self.assertIsNone(lot_within((joined(cube(2), lines[1]),), lines))
         self.assertIsNone(lot_within((cube(2, 1, 1),), lines))
 

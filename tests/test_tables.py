@@ -166,12 +166,12 @@ class TestMade(unittest.TestCase):
         room = product(polygon(40), cube(1, 0, 1))
         self.assertEqual(len(cut(room)), 114)
         self.assertIsNone(made_table(still, room, cube(3, -1, 0)))
-        great = product(polygon(104), cube(1, 0, 1))
+        great = product(polygon(103), cube(1, 0, 1))
         self.assertGreater(len(cut(great)), 300)
         for target in (cube(3, -1, 0), great):
             self.assertRaises(TooGreat, made_table, still, great, target)
-        less = product(polygon(98), cube(1, 0, 1))
-        self.assertLessEqual(len(cut(less)), 300)
+        less = product(polygon(102), cube(1, 0, 1))
+        self.assertEqual(len(cut(less)), 300)
         self.assertEqual(len(made_table(still, less, less)), len(cut(less)))
 
 
