@@ -63,8 +63,8 @@ class Cover:
     def _split(self, tableau, rows, left):
         # left has the rooms that may be needed here, each with those of its rows that may not follow.
         cutting = []
-        for j, some in left:
-            some = [row for row in some if not _is_followed(tableau, row)]
+        for j, told in left:
+            some = [row for row in told if not _is_followed(tableau, row)]
             if not some:
                 return (_leaf(tableau, j, self.lot[j]), None)
             if not _is_thin(tableau, some):

@@ -58,7 +58,7 @@ class Demands:
     def pair_rows(self, others):
         """The rows of all pairs of a standing and a wish: the tightened ones, the wishes', and other ones, as told."""
         ahead = (0,) * len(self.plant[0])
-        rows = [(x + u, bound) for x, u, bound, _, _ in self.tightened]
+        rows = [(row[0] + row[1], row[2]) for row in self.tightened]
         rows.extend([(ahead + a, b) for a, b in self.plant[4][1]])
         rows.extend(others)
         return rows
@@ -67,7 +67,8 @@ class Demands:
         """The rows of the good wishes at a standing: the wishes', and then the tightened ones, denominator times."""
         numbers, denominator = whole(x)
         rows = list(self.plant[4][1])
-        for told, u, bound, _, _ in self.tightened:
+        for row in self.tightened:
+            told, u, bound = row[:3]
             rows.append((tuple([k * denominator for k in u]), bound * denominator - dot(told, numbers)))
         return rows
 

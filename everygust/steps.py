@@ -58,7 +58,8 @@ def back_by(plant, room, u):
     """The standings that a wish, or what stands for it, leads into a room."""
     numbers, denominator = whole(u)
     rows = []
-    for told, by_wish, bound, _, _ in Demands(plant, room).tightened:
+    for row in Demands(plant, room).tightened:
+        told, by_wish, bound = row[:3]
         rows.append((tuple([k * denominator for k in told]), bound * denominator - dot(by_wish, numbers)))
     return few_lean((room[0], tuple(rows)))
 
