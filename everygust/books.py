@@ -25,15 +25,19 @@ def _weights_if_bare(room, row):
     return tuple([plus(weight, times(often, more)) for weight, more in zip(answer[1], bare_paper(room))])
 
 
-def row_paper(plant, walls, below, row):
-    """A paper that shows a row over a room below, None if there is none."""
-    pairs = Pairs(plant, walls, below)
-    told = (row[0] + (0,) * plant[4][0], row[1])
+def paper_over(pairs, row):
+    """What weights of a room of pairs tell as a paper, if they show a row of the standings there; None if none do."""
+    told = (row[0] + (0,) * (pairs.pair_room[0] - len(row[0])), row[1])
     answer = following_paper(pairs.pair_room, told)
     if answer[0] == "point":
         return None
     weights = answer[1] if answer[0] == "weights" else _weights_if_bare(pairs.pair_room, told)
     return None if weights is None else pairs.row_paper_of(weights)
+
+
+def row_paper(plant, walls, below, row):
+    """A paper that shows a row over a room below, None if there is none."""
+    return paper_over(Pairs(plant, walls, below), row)
 
 
 def row_fault(plant, walls, below, row, value):

@@ -7,18 +7,7 @@ from everygust.levels import levels_by
 from everygust.rowpapers import is_row_paper, shown_fault
 from everygust.rows import first_broken, next_of, slack
 from everygust.solids import room_corners
-
-
-def _tier_below(told, below):
-    # The entries of some rows of one room, told as pairs of them and their papers over the room below, and the rows
-    # of this that they lean on: each part tells its row by its number among these alone.
-    numbers = sorted(set([part[0] for _, paper in told for part in paper[0]]))
-    place = {number: k for k, number in enumerate(numbers)}
-    entries = []
-    for row, (parts, nu, lam) in told:
-        placed_parts = tuple([(place[number], weight, gust) for number, weight, gust in parts])
-        entries.append((row, placed_parts, nu, lam))
-    return (tuple(entries), [below[1][number] for number in numbers])
+from everygust.tiers import tier_below
 
 
 def foe_paper(plant, walls, goal, left, x):
@@ -31,9 +20,9 @@ def foe_paper(plant, walls, goal, left, x):
         return None
     tiers, rows = [], [rooms[left][1][number]]
     for below in reversed(rooms[:left]):
-        told = [(row, row_paper(plant, walls, below, row)) for row in rows]
-        entries, rows = _tier_below(told, below)
-        tiers.append(entries)
+        entries = [(row,) + row_paper(plant, walls, below, row) for row in rows]
+        tier, rows = tier_below(entries, below[1])
+        tiers.append(tier)
     tiers.append(tuple([(row,) for row in rows]))
     return tuple(tiers)
 

@@ -13,8 +13,8 @@ from everygust.wishes import a_wish, good_wish
 MOST_PAPERS = 2000
 
 
-def _refuse_many(corners, left):
-    # Refuses helm papers with too many papers within them.
+def refuse_many(corners, left):
+    """Refuses helm papers with too many papers within them; so many corners lead to new ones at each step."""
     many, tier = 1, 1
     for _ in range(left):
         tier *= corners
@@ -35,7 +35,7 @@ def _paper(demands, gusts, left, x):
 def helm_paper(plant, walls, goal, left, x):
     """A right helm paper for a standing with so many steps left, None if there is none."""
     gusts = room_corners(plant[5])
-    _refuse_many(len(gusts), left)
+    refuse_many(len(gusts), left)
     rooms = levels_by(((plant, "early"),) * left, walls, goal)
     if not is_in(rooms[left], x):
         return None
@@ -82,7 +82,7 @@ class HelmJudge:
 def judge_helm(plant, walls, goal, left, x, value):
     """None if a value, which may be anything, is a right helm paper for a standing; otherwise its first fault."""
     gusts = room_corners(plant[5])
-    _refuse_many(len(gusts), left)
+    refuse_many(len(gusts), left)
     path = _form_fault(plant[4][0], len(gusts), left, value, ())
     if path is not None:
         return ("form", path)

@@ -71,11 +71,16 @@ def _led_into(plant, walls, below):
 
 def layers(plant, walls, most):
     """The pair of a word and the layers: up to a bare one, to where the peeling has closed, or up to number most."""
+    return peeled(walls, most, lambda below: _led_into(plant, walls, below))
+
+
+def peeled(walls, most, step):
+    """The pair of a word and the rooms, walls first, each of which a step makes of the one ahead, as for layers."""
     found = [few_lean(walls)]
     for _ in range(most):
         if is_bare(found[-1]):
             break
-        behind = _led_into(plant, walls, found[-1])
+        behind = step(found[-1])
         if behind == found[-1]:
             return ("closed", tuple(found))
         found.append(behind)

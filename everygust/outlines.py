@@ -15,13 +15,14 @@ from everygust.vectors import divided, primitive
 
 
 class Outline:
-    """The room of all points that a view shows.
+    """The room of all points that a view shows; it is refused if its lean form has more than most rows.
 
     found has a pair (vector, source) for each point that was found: what tells it, and where it comes from.
     """
 
-    def __init__(self, view):
+    def __init__(self, view, most=MOST_ROWS):
         self.view = view
+        self.most = most
         self.found = []
         self._find()
         base = self._base()
@@ -72,7 +73,7 @@ class Outline:
                 edges = met_by(edges, row, len(self.found) - 1, len(row))
                 continue
             kept[left[-1]] = True
-            if len(kept) + taken > MOST_ROWS:
+            if len(kept) + taken > self.most:
                 raise TooGreat()
 
     def room(self):

@@ -73,12 +73,55 @@ FILES = {
     "keeping": "keep_fault(plant, walls, room) keep_paper(plant, walls, room) judge_keep(plant, walls, room, value) "
                "layers(plant, walls, most) lost_at(plant, walls, most, x) grown(plant, walls, room, most) "
                "sure_of(plant, walls, room, most, x)",
+    "shares": "room_at(room, centre, t) share_at(plant, room, centre, t) shares(plant, room, centre, most) "
+              "kept_shares(plant, room, centre) shares_paper(plant, room, centre) "
+              "judge_shares(plant, room, centre, value) inner_kept(plant, walls, most)",
+    "line": "ends(plant, walls) kept_stretch(plant, walls) stretch_paper(plant, walls) "
+            "judge_stretch(plant, walls, value)",
+    "prices": "step_price(cost, x, u) end_price(cost, x) price_levels(plant, walls, goal, cost, many) "
+              "one_back(plant, walls, cost, price) worth(price, x) lean_price(room, forms) "
+              "paying(plant, price, cost, x, t) cheapest(plant, price, cost, x)",
+    "pricepapers": "paper_price(plant, cost, left, x, paper) price_paper(plant, walls, goal, cost, left, x, t) "
+                   "judge_price(plant, walls, goal, cost, left, x, t, value)",
+    "tableprices": "worst_price(plant, cost, tables, x) play_price(plant, cost, tables, x, play)",
+    "sights": "right_sight(sight) may_give(sight, x, y) looks_of(sight, room) giving(sight, room, y) "
+              "told_apart(sight, x, z) parted(sight, room, other) judge_parted(sight, room, other, value) "
+              "spread(sight, room, form) spread_pair(sight, room, form)",
+    "possible": "possible(plant, sight, room, record) trace_to(plant, sight, room, record, x) "
+                "judge_trace(plant, sight, room, record, x, value) tally(plant, sight, room, record, row) "
+                "never(plant, sight, room, record) judge_tally(plant, sight, room, record, row, value)",
+    "blind": "wishes_for_all(plant, room, target) wish_for_all(plant, room, target) "
+             "judge_for_all(plant, room, target, value) blind_room(plant, room, walls, goal, many) "
+             "blind_row(plant, room, walls, goal, many) judge_blind(plant, room, walls, goal, many, value)",
+    "looks": "serving(plant, sight, room, target, y) ties_of(plant, target) look_block(plant, sight, room, target) "
+             "look_tallies(plant, sight, room, target) judge_look_block(plant, sight, room, target, value) "
+             "judge_look_tallies(plant, sight, room, target, value) is_seen_kept(plant, sight, room) "
+             "funnel_fault(plant, sight, rooms, walls, goal)",
+    "modes": "common_fault(modes) common_wishes(modes) mode_back(modes, kind, walls, room) "
+             "mode_levels(modes, kind, walls, goal, many) mode_row_paper(modes, kind, walls, below, row) "
+             "judge_mode_row(modes, kind, walls, below, row, value) mode_wish(modes, kind, room, x) "
+             "judge_mode_wish(modes, kind, room, x, value) mode_answer(modes, room, x, m, u) "
+             "mode_keep_fault(modes, kind, walls, room) mode_layers(modes, kind, walls, most) "
+             "trains(modes, lead, many) train_level(modes, walls, goal, train) "
+             "train_book(modes, lead, walls, goal, many) best_train(modes, lead, walls, goal, many, x)",
+    "figures": "rounded(t, q) rounded_point(point, q) strips(piece, room, q) strip_standing(piece, room, q, t) "
+               "rounded_wishes(table, q, point) first_fault(plant, room, goal, table, q) "
+               "shows_fault(plant, room, goal, table, q, value) least_figures(plant, room, goal, table, most)",
+    "cells": "cells(room, q) cell_standing(room, q, g) seen_fault(plant, room, goal, table, q) "
+             "shows_seen(plant, room, goal, table, q, value) least_seen(plant, room, goal, table, most)",
+    "grids": "around(room, s) grid_points(room, q) grid_count(room, q) grid_from(room, q, point)",
+    "desk": "Desk()", "console": "Console(desk)",
 }
 METHODS = {
     ("helms", "TreeHelm"): "tell(self, left, x)", ("helms", "LevelHelm"): "tell(self, left, x)",
     ("helms", "CallHelm"): "tell(self, left, x)", ("foes", "PaperFoe"): "blow(self, left, x, u)",
     ("foes", "LevelFoe"): "blow(self, left, x, u)", ("foes", "CallFoe"): "blow(self, left, x, u)",
     ("tables", "TableHelm"): "tell(self, left, x)",
+    ("desk", "Desk"): "sheet(self) trip(self) acts(self) act_word(self, act) do(self, act) undo(self) redo(self) "
+                      "corners(self, name) inside(self, name, other) level(self, plant, walls, goal, many) "
+                      "kept(self, plant, walls, most) is_led(self) wishes(self) answer(self, wish) price(self, cost) "
+                      "work(self) mark(self, name) since(self, name) marks(self) twin(self)",
+    ("console", "Console"): "answer(self, line)",
 }
 
 
