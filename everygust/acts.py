@@ -3,7 +3,7 @@
 A trip is a tuple (plant, walls, goal, left, done, standing), or None.
 """
 
-from everygust.checks import MOST_PARTS, check_sheet, is_name
+from everygust.checks import MOST_PARTS, check_sheet
 from everygust.errors import BadShape
 from everygust.forms import is_number_of, is_point, is_row
 from everygust.rows import is_in, next_of, plain_row
@@ -17,10 +17,9 @@ START_SORTS = ("plant", "room", "room", "point")
 
 def value_of(sheet, name):
     """The pair (sort, value) of the part with a name, which may be anything; None if there is none."""
-    if is_name(name):
-        for sort, told, value in sheet:
-            if told == name:
-                return (sort, value)
+    for sort, told, value in sheet:
+        if told == name:
+            return (sort, value)
     return None
 
 

@@ -33,11 +33,6 @@ def price_of(n, rows):
     return ((n, tuple(sorted(room))), tuple(sorted(forms)))
 
 
-def bare_price(n):
-    """The price without points."""
-    return ((n, bare_rows(n)), ())
-
-
 class Asking:
     """What rows and forms below, and the triples of steps, ask of a standing, a wish and what is still to be paid.
 
@@ -137,7 +132,7 @@ class Booking:
         """The lean price of the standings and what is sure to be paid."""
         tableau = settled((self.n + self.m + 2, self.rows))
         if tableau is None:
-            return bare_price(self.n)
+            return ((self.n, bare_rows(self.n)), ())
         # Beside the rows that count there is the one that bars what is paid.
         outline = Outline(shown_view(tableau, list(range(self.n + 1))), MOST_ROWS + 1)
         return price_of(self.n, outline.room()[1])

@@ -147,11 +147,14 @@ def _read_line(reader):
         return (True, ("sheet", read_one_sheet(reader)))
     if at_part(reader):
         return (True, ("put", read_part(reader)))
-    for is_act, lines in ((True, ACT_LINES), (False, OTHER_LINES)):
-        for word in lines:
-            if reader.next_is(word):
-                reader.take(word)
-                return (is_act, (word,) + _read_members(reader, lines[word]))
+    for word in ACT_LINES:
+        if reader.next_is(word):
+            reader.take(word)
+            return (True, (word,) + _read_members(reader, ACT_LINES[word]))
+    for word in OTHER_LINES:
+        if reader.next_is(word):
+            reader.take(word)
+            return (False, (word,) + _read_members(reader, OTHER_LINES[word]))
     raise BadText(reader.place())
 
 

@@ -145,7 +145,7 @@ def judge_look_tallies(plant, sight, room, target, value):
     for tie, triples in zip(ties, value):
         if not is_tuple_of(triples, len(tie.rows)):
             return ("form",)
-        if not all(is_triple for is_triple in [_is_triple(plant, sight, room, one) for one in triples]):
+        if not all(_is_triple(plant, sight, room, one) for one in triples):
             return ("form",)
     judge = TallyJudge(plant, sight, room)
     for k, (tie, triples) in enumerate(zip(ties, value)):

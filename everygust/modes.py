@@ -211,8 +211,6 @@ def _go_on(counts, lead, train, many):
 
 def trains(modes, lead, many):
     """The ascending list of the trains of a lead of so many members."""
-    if many == 0:
-        return [()]
     counts = _counts(modes, lead, many)
     if sum(counts[-1]) > MOST_TRAINS:
         raise TooGreat()

@@ -1,12 +1,11 @@
 """Prices: what the helm is sure to pay at most, level by level, and the wishes by which it does."""
 
-from everygust.bookings import Asking, Booking, bare_price, form_at, form_rows, price_of
+from everygust.bookings import Asking, Booking, form_at, form_rows, price_of
 from everygust.fractions import fraction_of, highest, plus, total
 from everygust.limits import few_lean
 from everygust.rows import is_in, joined, row_of
 from everygust.solving import form_worth
 from everygust.vectors import divided
-from everygust.weights import is_bare
 
 
 def step_price(cost, x, u):
@@ -33,8 +32,6 @@ def price_levels(plant, walls, goal, cost, many):
 def one_back(plant, walls, cost, price):
     """The lean price one step ahead of a lean price."""
     room, forms = price
-    if not forms:
-        return bare_price(room[0])
     return Booking(plant, walls, cost, room, forms).price()
 
 
@@ -49,8 +46,6 @@ def worth(price, x):
 def lean_price(room, forms):
     """The lean price of a bounded room and some forms, at least one if the room has points."""
     n = room[0]
-    if is_bare(room):
-        return bare_price(n)
     above = [(a + (0,), b) for a, b in room[1]]
     above.extend(form_rows(forms))
     return price_of(n, few_lean((n + 1, tuple(above)))[1])
@@ -81,7 +76,5 @@ def _both(step, form, t):
 def cheapest(plant, price, cost, x):
     """A wish that pays the least from a standing, with a price behind the step, None if there is no good one."""
     room, forms = price
-    if not forms:
-        return None
     found = Asking(plant, cost[0], room, forms).cheapest(x)
     return None if found is None else found[0]

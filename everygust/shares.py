@@ -9,13 +9,13 @@ from everygust.rowpapers import bad_gust, is_parts, parts_sums
 from everygust.rows import is_in, slack
 from everygust.solids import room_corners
 from everygust.solving import form_worth
-from everygust.stretches import Shares, kept_within, point_at, rows_at
+from everygust.stretches import Shares, kept_within, lean_at, point_at, rows_at
 from everygust.vectors import divided
 
 
 def room_at(room, centre, t):
     """A bounded room at a share about a point of it, lean."""
-    return lean(rows_at(room, centre, t))
+    return lean_at(lean(room), centre, t)
 
 
 def share_at(plant, room, centre, t):
@@ -186,4 +186,4 @@ def inner_kept(plant, walls, most):
     word, rooms = layers(plant, walls, most)
     if word != "open":
         return (rooms[-1], rooms[-1])
-    return (rooms[-1], lean(kept_within(plant, rooms[-1])))
+    return (rooms[-1], kept_within(plant, rooms[-1]))

@@ -2,11 +2,9 @@
 
 from everygust.forms import is_point, is_told
 from everygust.fractions import fraction_of, times
+from everygust.guesses import likely_tight
 from everygust.tableau import Tableau
 from everygust.vectors import divided, primitive, whole
-
-GREAT_FIGURES = 160
-KEPT_FIGURES = 64
 
 
 def greatest_at(tableau, form):
@@ -21,29 +19,9 @@ def greatest_at(tableau, form):
     return ("most", value, divided(spot, den), divided(tableau.weights(), den * scale))
 
 
-def _rounded(row):
-    # The row with its first binary figures alone.
-    members, bound = row
-    spare = max([abs(k) for k in members]).bit_length() - KEPT_FIGURES
-    if spare <= 0:
-        return row
-    return ([k >> spare for k in members], bound >> spare)
-
-
-def _guess(n, rows, form):
-    # Which rows may be tight in the end. Great integers make each exchange slow; small ones tell nearly the same.
-    if not any(abs(k).bit_length() > GREAT_FIGURES for a, _ in rows for k in a):
-        return []
-    tableau = Tableau(n, [_rounded(row) for row in rows])
-    if tableau.settle() is None:
-        tableau.aim_at(_rounded((whole(form)[0], 0))[0])
-        tableau.climb()
-    return tableau.tight_numbers()
-
-
 def greatest_of(n, rows, form):
     """An answer to what the greatest worth of a form of n is where rows of n hold."""
-    tableau = Tableau(n, rows, _guess(n, rows, form))
+    tableau = Tableau(n, rows, likely_tight(n, rows, form))
     bare = tableau.settle()
     if bare is not None:
         return ("bare", bare)

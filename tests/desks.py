@@ -19,7 +19,8 @@ PARTS = (
     ("plant", "loose", LOOSE), ("room", "walls", rough(-6, 6)), ("room", "goal", rough(-1, 1)), ("room", "far", FAR),
     ("room", "none", never(1)), ("room", "box", cube(2, -3, 3)), ("room", "small", cube(2)), ("point", "x", pt(2)),
     ("point", "y", pt(4)), ("point", "z", pt(0, 1)), ("cost", "effort", EFFORT),
-    ("cost", "flat", ((((0, 0), (), 1),), (((0, 0), 0),))), ("sight", "eye", ((pt(1),), rough(0, 1))), ("lot", "lots", ()),
+    ("cost", "flat", ((((0, 0), (), 1),), (((0, 0), 0),))), ("sight", "eye", ((pt(1),), rough(0, 1))),
+    ("lot", "lots", ()),
     ("table", "told", ()))
 
 
@@ -161,8 +162,10 @@ def some_act(told, sheet, trip):
     if kind < 0.7:
         if told.random() < 0.7:
             return ("start", "drift", "walls", "goal", told.randint(0, 3), told.choice(["x", "y"]))
-        return ("start", told.choice(["drift", "slide", "held", "wrong", "loose", "walls", "nobody"]), told.choice(["walls", "box", "far", "none"]),
-                told.choice(["goal", "small", "far", "x"]), told.choice([0, 2, 6, 7, -1, True, "2"]), told.choice(["x", "y", "z", "goal"]))
+        return ("start", told.choice(["drift", "slide", "held", "wrong", "loose", "walls", "nobody"]),
+            told.choice(["walls", "box", "far", "none"]),
+                told.choice(["goal", "small", "far", "x"]), told.choice([0, 2, 6, 7, -1, True, "2"]),
+                told.choice(["x", "y", "z", "goal"]))
     if kind < 0.88:
         plant = trip[0] if trip else DRIFT
         wish, gust = [from_numbers(told.choice(points_within(room, told, 2))) for room in plant[4:]]
@@ -173,5 +176,7 @@ def some_act(told, sheet, trip):
         return ("step", wish, gust)
     if kind < 0.92:
         return ("end",)
-    return told.choice([told.choice(ODD), ("put", told.choice(ODD)), ("sheet", told.choice(ODD)), ("put",), ("end", 1), ["end"], ("stop",),
-                        ("put", ("room", "sheet", rough(0, 1))), ("row", "walls", ((1, 2), 3)), ("row", "walls", [(1,), 2])])
+    return told.choice([told.choice(ODD), ("put", told.choice(ODD)), ("sheet", told.choice(ODD)), ("put",), ("end", 1),
+        ["end"], ("stop",),
+                        ("put", ("room", "sheet", rough(0, 1))), ("row", "walls", ((1, 2), 3)),
+                        ("row", "walls", [(1,), 2])])

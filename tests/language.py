@@ -2,6 +2,7 @@
 
 import ast
 import builtins
+import functools
 import os
 import re
 
@@ -54,6 +55,17 @@ def parents_of(tree):
     return found
 
 
+@functools.lru_cache
+def shared_names():
+    """The names of all lists and dicts at module level, of whatever file."""
+    found = set()
+    for name in files():
+        for node in ast.parse(source(name)).body:
+            if isinstance(node, ast.Assign) and isinstance(node.value, (ast.List, ast.Dict)):
+                found.add(node.targets[0].id)
+    return found
+
+
 def functions_of(tree):
     return [node for node in ast.walk(tree) if isinstance(node, ast.FunctionDef)]
 
@@ -88,6 +100,7 @@ class Look:
         self.lines()
         self.module()
         self.imported = {}
+        self.shared = shared_names()
         for node in self.tree.body:
             if isinstance(node, ast.ImportFrom):
                 for alias in node.names:
@@ -180,6 +193,7 @@ class Look:
                 pass
 
     def on_Name(self, node):
+        self.shared_name(node)
         if isinstance(node.ctx, ast.Load):
             if node.id == "_":
                 self.fault(node, "L12", "_ is read")
@@ -200,8 +214,23 @@ class Look:
         else:
             self.name_is_free(node, node.id)
 
+    def shared_name(self, node):
+        """A list or dict at module level is only read where it stands, never passed on or given another name."""
+        if node.id not in self.shared or isinstance(node.ctx, ast.Store):
+            return
+        parent = self.parents[node]
+        if isinstance(parent, (ast.Compare, ast.For, ast.comprehension)) or isinstance(parent,
+                ast.Subscript) and parent.value is node:
+            return
+        if isinstance(parent, ast.Attribute) and parent.attr in ("get", "items", "keys", "values", "index", "count"):
+            return
+        if isinstance(parent, ast.Call) and getattr(parent.func, "id", "") in EATERS | {"len"}:
+            return
+        self.fault(node, "L15", node.id + " is passed on")
+
     def name_is_free(self, node, name):
-        if hasattr(builtins, name) and name not in MAY_SHADOW:
+        # Where doctests have run, builtins have a name _ of theirs.
+        if hasattr(builtins, name) and name not in MAY_SHADOW and name != "_":
             self.fault(node, "L15", name + " is a builtin")
         if name in BARRED_NAMES or name.startswith("__") or not re.fullmatch(r"_|_?[A-Za-z]\w*", name):
             self.fault(node, "L17", name)
@@ -230,6 +259,10 @@ class Look:
         self.fault(node, "L6", "async")
 
     def on_ClassDef(self, node):
+        methods = {part.name for part in node.body if isinstance(part, ast.FunctionDef)}
+        for part in ast.walk(node):
+            if isinstance(part, ast.Attribute) and isinstance(part.ctx, ast.Store) and part.attr in methods:
+                self.fault(part, "L18", part.attr + " is a method and an attribute")
         if node.decorator_list or node.keywords:
             self.fault(node, "L5", "decorator")
         for part in node.body:

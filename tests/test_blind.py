@@ -194,10 +194,14 @@ class TestForAll(unittest.TestCase):
         good = ("block", (one, two), pt(0, 0))
         self.judged(good, None)
         for value, fault in [
-                (("wish", pt(2)), ("wish",)), (("wish", pt(0)), ("out", 0)), (("wish", pt(1)), ("out", 0)), (("wish", pt(-1)), ("out", 1)),
-                (("wish", ()), ("form",)), (("wish", pt(0), ()), ("form",)), (("block", (two, one), pt(0, 0)), ("form",)),
-                (("block", (one, one), pt(0, 0)), ("form",)), (("block", (one, two), pt(0)), ("form",)), (("block", (one, two), pt(0, -1)), ("form",)),
-                (("block", (one, (2, (1, 1), pt(-1), pt(-half))), pt(0, 0)), ("form",)), (("block", (one, two[:3]), pt(0, 0)), ("form",)),
+                (("wish", pt(2)), ("wish",)), (("wish", pt(0)), ("out", 0)), (("wish", pt(1)), ("out", 0)),
+                (("wish", pt(-1)), ("out", 1)),
+                (("wish", ()), ("form",)), (("wish", pt(0), ()), ("form",)),
+                (("block", (two, one), pt(0, 0)), ("form",)),
+                (("block", (one, one), pt(0, 0)), ("form",)), (("block", (one, two), pt(0)), ("form",)),
+                (("block", (one, two), pt(0, -1)), ("form",)),
+                (("block", (one, (2, (1, 1), pt(-1), pt(-half))), pt(0, 0)), ("form",)),
+                (("block", (one, two[:3]), pt(0, 0)), ("form",)),
                 (("block", (one, (1, (0, 1), pt(-1), pt(-half))), pt(0, 0)), ("form",)),
                 (("block", ((0, (1, 1), pt(1), pt(9)), (1, (1, 1), pt(-9), pt(0))), pt(0, 0)), ("standing", 1)),
                 (("block", ((0, (1, 1), pt(1), pt(9)), (1, (1, 1), pt(-1), pt(9))), pt(0, 0)), ("gust", 0)),
@@ -209,9 +213,12 @@ class TestForAll(unittest.TestCase):
                 (("block", (one,), pt(0, 1)), ("sum",)), (list(good), ("form",)), (("row", (pt(0),)), ("form",))]:
             self.judged(value, fault)
         for odd in ODD:
-            for value in (odd, ("wish", odd), ("block", odd, pt(0, 0)), ("block", (one, two), odd), ("block", (odd,), pt(0, 0)),
-                          ("block", ((0, odd, pt(1), pt(half)),), pt(0, 0)), ("block", ((0, (1, 1), odd, pt(half)),), pt(0, 0)),
-                          ("block", ((0, (1, 1), pt(1), odd),), pt(0, 0)), ("block", ((odd, (1, 1), pt(1), pt(half)),), pt(0, 0))):
+            for value in (odd, ("wish", odd), ("block", odd, pt(0, 0)), ("block", (one, two), odd),
+                    ("block", (odd,), pt(0, 0)),
+                          ("block", ((0, odd, pt(1), pt(half)),), pt(0, 0)),
+                          ("block", ((0, (1, 1), odd, pt(half)),), pt(0, 0)),
+                          ("block", ((0, (1, 1), pt(1), odd),), pt(0, 0)),
+                          ("block", ((odd, (1, 1), pt(1), pt(half)),), pt(0, 0))):
                 self.judged(value, for_all_referee(WALK, GOAL, GOAL, value))
 
 
@@ -244,7 +251,8 @@ class TestBlind(unittest.TestCase):
         self.assertEqual(blind_room(STILL, cube(2), cube(2), cube(2), 3), (0, ()))
         wide = blind_room(WALK, HALF, rough(-3, 3), rough(-2, 2), 2)
         for u in itertools.product([Fraction(k, 4) for k in range(-5, 6)], repeat=2):
-            due = all(is_within(WALK[4], [k]) for k in u) and not blind_outs(WALK, HALF, rough(-3, 3), rough(-2, 2), [[k] for k in u])
+            due = all(is_within(WALK[4], [k]) for k in u) and not blind_outs(WALK, HALF, rough(-3, 3), rough(-2, 2),
+                [[k] for k in u])
             self.assertEqual(is_within(wide, u), due)
 
     def test_all_sorts(self):
@@ -284,27 +292,41 @@ class TestBlind(unittest.TestCase):
         self.judged(("block", (one, two), nu), None)
         low = (1, 0, (1, 1), pt(half), (pt(half),))
         for value, fault in [
-                (("row", (pt(2), pt(3))), ("wish", 0)), (("row", (pt(0), pt(3))), ("wish", 1)), (("row", (pt(0), pt(0))), ("out", 2, 2)),
-                (("row", (pt(1), pt(-1))), ("out", 2, 2)), (("row", (pt(1), pt(1))), ("out", 2, 0)), (("row", (pt(-1), pt(-1))), ("out", 2, 1)),
-                (("row", (pt(0),)), ("form",)), (("row", (pt(0), pt(0), pt(0))), ("form",)), (("row", (pt(0), ())), ("form",)), (("row", [pt(0), pt(0)]), ("form",)),
-                (("block", (two, one), nu), ("form",)), (("block", (one, one), nu), ("form",)), (("block", (one, low), nu), ("form",)),
-                (("block", (low, one, two), nu), ("unknown",)), (("block", (one, two), nu[:1]), ("form",)), (("block", (one, two), (pt(0), pt(0))), ("form",)),
-                (("block", (one, two), (pt(0, -1), pt(0, 0))), ("form",)), (("block", ((2, 4) + one[2:],), nu), ("form",)),
-                (("block", ((1, 2) + low[2:],), nu), ("form",)), (("block", ((3, 0) + one[2:],), nu), ("form",)), (("block", ((2, 2, (0, 1)) + one[3:],), nu), ("form",)),
-                (("block", ((2, 2, (1, 1), pt(half), (pt(half),)),), nu), ("form",)), (("block", ((2, 2, (1, 1), pt(half), (pt(half), ())),), nu), ("form",)),
+                (("row", (pt(2), pt(3))), ("wish", 0)), (("row", (pt(0), pt(3))), ("wish", 1)),
+                (("row", (pt(0), pt(0))), ("out", 2, 2)),
+                (("row", (pt(1), pt(-1))), ("out", 2, 2)), (("row", (pt(1), pt(1))), ("out", 2, 0)),
+                (("row", (pt(-1), pt(-1))), ("out", 2, 1)),
+                (("row", (pt(0),)), ("form",)), (("row", (pt(0), pt(0), pt(0))), ("form",)),
+                (("row", (pt(0), ())), ("form",)), (("row", [pt(0), pt(0)]), ("form",)),
+                (("block", (two, one), nu), ("form",)), (("block", (one, one), nu), ("form",)),
+                (("block", (one, low), nu), ("form",)),
+                (("block", (one, one[:2] + ((2, 1),) + one[3:]), nu), ("form",)),
+                (("block", (low, one, two), nu), ("unknown",)), (("block", (one, two), nu[:1]), ("form",)),
+                (("block", (one, two), (pt(0), pt(0))), ("form",)),
+                (("block", (one, two), (pt(0, -1), pt(0, 0))), ("form",)),
+                (("block", ((2, 4) + one[2:],), nu), ("form",)),
+                (("block", ((1, 2) + low[2:],), nu), ("form",)), (("block", ((3, 0) + one[2:],), nu), ("form",)),
+                (("block", ((2, 2, (0, 1)) + one[3:],), nu), ("form",)),
+                (("block", ((2, 2, (1, 1), pt(half), (pt(half),)),), nu), ("form",)),
+                (("block", ((2, 2, (1, 1), pt(half), (pt(half), ())),), nu), ("form",)),
                 (("block", (one[:4] + ((pt(9), pt(9)),), two[:3] + (pt(9), two[4])), nu), ("standing", 1)),
-                (("block", (one, two[:4] + ((pt(half), pt(9)),)), nu), ("gust", 1, 1)), (("block", (one[:4] + ((pt(9), pt(9)),), two), nu), ("gust", 0, 0)),
+                (("block", (one, two[:4] + ((pt(half), pt(9)),)), nu), ("gust", 1, 1)),
+                (("block", (one[:4] + ((pt(9), pt(9)),), two), nu), ("gust", 0, 0)),
                 (("block", (one[:4] + ((pt(0), pt(9)),), two[:4] + ((pt(9), pt(9)),)), nu), ("gust", 0, 1)),
-                (("block", (one, two), (pt(0, 1), pt(0, 0))), ("unknown",)), (("block", (one,), (pt(0, 0), pt(0, 1))), ("unknown",)),
+                (("block", (one, two), (pt(0, 1), pt(0, 0))), ("unknown",)),
+                (("block", (one,), (pt(0, 0), pt(0, 1))), ("unknown",)),
                 (("block", (one, two), (pt(1, 1), pt(0, 0))), ("sum",)), (("block", (), nu), ("sum",)),
-                (("block", (one,), (pt(0, 1), pt(0, 1))), ("sum",)), (("block", (one, two), (pt(Fraction(1, 5), Fraction(1, 5)), pt(0, 0))), None),
+                (("block", (one,), (pt(0, 1), pt(0, 1))), ("sum",)),
+                (("block", (one, two), (pt(Fraction(1, 5), Fraction(1, 5)), pt(0, 0))), None),
                 (["block", (one, two), nu], ("form",)), (("wish", pt(0)), ("form",))]:
             self.judged(value, fault)
         self.judged(("row", ()), None, 0)
         self.judged(("block", (), ()), ("sum",), 0)
         for odd in ODD:
-            for value in [odd, ("row", odd), ("row", (odd, pt(0))), ("block", odd, nu), ("block", (one, two), odd), ("block", (one, odd), nu),
-                          ("block", (one, two), (odd, pt(0, 0)))] + [("block", (one[:k] + (odd,) + one[k + 1:], two), nu) for k in range(5)]:
+            for value in [odd, ("row", odd), ("row", (odd, pt(0))), ("block", odd, nu), ("block", (one, two), odd),
+                    ("block", (one, odd), nu),
+                          ("block", (one, two), (odd, pt(0, 0)))] + [("block", (one[:k] + (odd,) + one[k + 1:], two),
+                          nu) for k in range(5)]:
                 self.judged(value, blind_referee(WALK, HALF, WALLS, GOAL, 2, value))
 
 

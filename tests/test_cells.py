@@ -113,11 +113,13 @@ class TestSeen(unittest.TestCase):
     def test_each_word(self):
         room = (1, (((3,), 1), ((-4,), -1)))
         # The one point that is seen is 0, which is not in the room.
-        for table, due in [(((rough(1, 2), (pt(0),), pt(0)),), ("blank", pt(0))), (((rough(0, 0), (pt(0),), pt(9)),), ("wish", pt(0), 0)),
+        for table, due in [(((rough(1, 2), (pt(0),), pt(0)),), ("blank", pt(0))),
+                (((rough(0, 0), (pt(0),), pt(9)),), ("wish", pt(0), 0)),
                            (((rough(1, 2), (pt(0),), pt(9)), (rough(0, 0), (pt(0),), pt(-2))), ("wish", pt(0), 1)),
                            (((rough(0, 0), (pt(0),), pt(1)), (rough(0, 0), (pt(0),), pt(9))), ("next", pt(0), 0)),
                            (((rough(0, 0), (pt(0),), pt(0)), (rough(0, 0), (pt(0),), pt(9))), ("next", pt(0), 0)),
-                           (((rough(0, 0), (pt(0),), pt(-Fraction(1, 4))), (rough(0, 0), (pt(0),), pt(9))), ("wish", pt(0), 1)),
+                           (((rough(0, 0), (pt(0),), pt(-Fraction(1, 4))), (rough(0, 0), (pt(0),), pt(9))),
+                           ("wish", pt(0), 1)),
                            (((rough(0, 0), (pt(0),), pt(-Fraction(1, 4))),), None)]:
             fault = unchanged(self, seen_fault, STAND, room, NEAR, table, 1)
             self.assertEqual(fault and fault[:len(due)], due)
@@ -125,14 +127,16 @@ class TestSeen(unittest.TestCase):
         self.assertEqual(seen_fault(STAND, rough(0, 2), NEAR, ((rough(1, 2), (pt(-1),), pt(0)),), 1), ("blank", pt(0)))
         self.assertIsNone(seen_fault(STAND, never(1), NEAR, (), 1))
         # What is told at g is not rounded.
-        self.assertIsNone(seen_fault(STAND, rough(1, 1), (1, (((3,), 2), ((-3,), -2))), ((rough(1, 1), (pt(0),), pt(-Fraction(1, 3))),), 1))
+        self.assertIsNone(seen_fault(STAND, rough(1, 1), (1, (((3,), 2), ((-3,), -2))),
+            ((rough(1, 1), (pt(0),), pt(-Fraction(1, 3))),), 1))
 
     def test_by_trying(self):
         told = seeded(522)
         words = {}
         for plant, room, goal, table, q in trips(told, 150):
             if told.random() < 0.5:
-                table += (((room[0], ()), table[0][1] if table else ((pt(*[0] * room[0]),) * plant[4][0]), pt(*[0] * plant[4][0])),)
+                table += (((room[0], ()), table[0][1] if table else ((pt(*[0] * room[0]),) * plant[4][0]),
+                    pt(*[0] * plant[4][0])),)
             if width_due(room, q) > 60:
                 continue
             args = (plant, room, goal, table, q)
@@ -174,9 +178,11 @@ class TestSeen(unittest.TestCase):
         half = pt(Fraction(-1, 2))
         due = due_fault(STAND, rough(-1, 1), NEAR, BACK, 1)
         for odd in ODD:
-            for value in (odd, ("next", odd, 0, half, ()), ("next", pt(-1), odd, half, ()), ("next", pt(-1), 0, odd, ()), ("next", pt(-1), 0, half, odd),
+            for value in (odd, ("next", odd, 0, half, ()), ("next", pt(-1), odd, half, ()),
+                    ("next", pt(-1), 0, odd, ()), ("next", pt(-1), 0, half, odd),
                           ("blank", odd), ("wish", pt(-1), odd)):
-                self.assertIs(shows_seen(STAND, rough(-1, 1), NEAR, BACK, 1, value), is_shown(STAND, rough(-1, 1), NEAR, BACK, 1, value, due))
+                self.assertIs(shows_seen(STAND, rough(-1, 1), NEAR, BACK, 1, value),
+                    is_shown(STAND, rough(-1, 1), NEAR, BACK, 1, value, due))
                 self.assertIs(shows_seen(STAND, rough(-1, 1), NEAR, BACK, 2, value), False)
         self.assertTrue(shows_seen(STAND, rough(-1, 1), NEAR, BACK, 1, ("next", pt(-1), 0, half, ())))
         self.assertFalse(shows_seen(STAND, rough(-1, 1), NEAR, BACK, 1, ("next", pt(-1), False, half, ())))
@@ -193,9 +199,12 @@ class TestErrors(unittest.TestCase):
             yield shows_seen, (free, room, (1, ()), (table,), q, None)
 
     def test_widths(self):
-        for room, q, error in [(rough(0, 399), 1, None), (rough(0, 400), 1, TooGreat), (rough(0, 199), 2, None), (rough(0, 200), 2, TooGreat),
-                               (cube(2, 0, 19), 1, None), (cube(2, 0, 20), 1, TooGreat), ((1, (((2,), 799), ((-1,), 0))), 1, None),
-                               ((1, (((2,), 799), ((-2,), -1))), 1, None), ((1, (((2,), 801), ((-2,), -1))), 1, TooGreat), (never(1), 60, None)]:
+        for room, q, error in [(rough(0, 399), 1, None), (rough(0, 400), 1, TooGreat), (rough(0, 199), 2, None),
+                (rough(0, 200), 2, TooGreat),
+                               (cube(2, 0, 19), 1, None), (cube(2, 0, 20), 1, TooGreat),
+                               ((1, (((2,), 799), ((-1,), 0))), 1, None),
+                               ((1, (((2,), 799), ((-2,), -1))), 1, None),
+                               ((1, (((2,), 801), ((-2,), -1))), 1, TooGreat), (never(1), 60, None)]:
             for call, args in self.calls(room, q):
                 if error:
                     self.assertRaises(error, call, *args)
@@ -218,7 +227,8 @@ class TestErrors(unittest.TestCase):
 
     def test_just_within_in_time(self):
         told = seeded(524)
-        rows = tuple(((told.randint(-10 ** 6, 10 ** 6), told.randint(-10 ** 6, 10 ** 6), told.randint(-10 ** 6, 10 ** 6)), 3 * 10 ** 6) for _ in range(6))
+        rows = tuple(((told.randint(-10 ** 6, 10 ** 6), told.randint(-10 ** 6, 10 ** 6),
+            told.randint(-10 ** 6, 10 ** 6)), 3 * 10 ** 6) for _ in range(6))
         room = (3, cube(3, -3, 3)[1] + rows)
         found = cells(room, 1)
         self.assertGreater(len(found), 50)

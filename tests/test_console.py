@@ -13,23 +13,30 @@ from tests.test_desk import desk_with, told, travelling
 from tests.test_lots import rough
 from tests.test_sheets import WRITTEN
 
-ACT_FORMS = [["SHEET"], ["PART"], ["row", "NAME", "ROW"], ["drop", "NAME", ";"], ["start", "NAME", "NAME", "NAME", "NUMERAL", "NAME", ";"],
+ACT_FORMS = [["SHEET"], ["PART"], ["row", "NAME", "ROW"], ["drop", "NAME", ";"],
+    ["start", "NAME", "NAME", "NAME", "NUMERAL", "NAME", ";"],
              ["step", "POINT", "POINT", ";"], ["end", ";"]]
 FORMS = ACT_FORMS + [[word, ";"] for word in ("undo", "redo", "led", "wishes", "where", "parts")]
 FORMS += [[word, "NAME", ";"] for word in ("mark", "since", "corners", "price")] + [["inside", "NAME", "NAME", ";"]]
-FORMS += [["level", "NAME", "NAME", "NAME", "NUMERAL", ";"], ["kept", "NAME", "NAME", "NUMERAL", ";"], ["answer", "POINT", ";"]]
+FORMS += [["level", "NAME", "NAME", "NAME", "NUMERAL", ";"], ["kept", "NAME", "NAME", "NUMERAL", ";"],
+    ["answer", "POINT", ";"]]
 grammar.GRAMMAR["LINE"] = FORMS
 
-LINES = ["undo ;", "redo;", "led ;", "wishes ;", "where ;", "parts ;", "mark a;", "since a ;", "since zz;", "corners walls ;", "corners far;", "corners none;", "price effort;",
-         "inside goal walls ;", "inside walls goal;", "inside walls box ;", "level drift walls goal 2 ;", "level drift walls goal 7;", "kept drift walls 3;",
-         "kept drift none 1;", "answer (0) ;", "answer (-2);", "answer (5);", "answer (1/0);", "answer ();", "step (-1) (1/2) ;", "step (-3) (1);", "step (1/0) (1);",
-         "start drift walls goal 2 x ;", "start drift walls goal 9 x;", "end ;", "drop z;", "drop zz ;", "row walls 1 <= 5;", "row walls 1 1 <= 5;", "row goal -2 <= -1 ;",
-         "room b 1 { 1 <= 4; -1 <= 0; }", "room b 7 { }", "point x (3/2);", "point q (1/0);", "point x (1 2 3 4 5 6 7);", "lot l { 1 { } 2 { } }", "sheet { }",
+LINES = ["undo ;", "redo;", "led ;", "wishes ;", "where ;", "parts ;", "mark a;", "since a ;", "since zz;",
+    "corners walls ;", "corners far;", "corners none;", "price effort;",
+         "inside goal walls ;", "inside walls goal;", "inside walls box ;", "level drift walls goal 2 ;",
+         "level drift walls goal 7;", "kept drift walls 3;",
+         "kept drift none 1;", "answer (0) ;", "answer (-2);", "answer (5);", "answer (1/0);", "answer ();",
+         "step (-1) (1/2) ;", "step (-3) (1);", "step (1/0) (1);",
+         "start drift walls goal 2 x ;", "start drift walls goal 9 x;", "end ;", "drop z;", "drop zz ;",
+         "row walls 1 <= 5;", "row walls 1 1 <= 5;", "row goal -2 <= -1 ;",
+         "room b 1 { 1 <= 4; -1 <= 0; }", "room b 7 { }", "point x (3/2);", "point q (1/0);",
+         "point x (1 2 3 4 5 6 7);", "lot l { 1 { } 2 { } }", "sheet { }",
          "sheet { room a 1 { } point a (1); }", "cost k { step (0) (1) 2; end (1) 0; }", "cost k { }"]
 
 
 def text_of(x):
-    return f"{Fraction(x).numerator}" if Fraction(x).denominator == 1 else f"{Fraction(x).numerator}/{Fraction(x).denominator}"
+    return str(Fraction(x))
 
 
 def text_of_point(point):
@@ -42,7 +49,8 @@ def text_of_room(room):
 
 def answer_of(desk, line):
     """What a line that is right is answered, by what a desk answers."""
-    word, rest = line.replace(";", " ").split(" ", 1)[0], [name for name in line.replace(";", " ").split(" ") if name][1:]
+    word, rest = line.replace(";", " ").split(" ", 1)[0], [name for name in line.replace(";", " ").split(" ")
+        if name][1:]
     if word in ("corners", "price", "inside", "level", "kept", "led", "wishes"):
         args = [int(name) if name.isdigit() else name for name in rest]
         found = told(desk, {"led": "is_led"}.get(word, word), *args)
@@ -76,15 +84,20 @@ class TestLines(unittest.TestCase):
     def test_acts(self):
         desk = Desk()
         self.asked(
-            desk, ("room a 1 { 1 <= 6; -1 <= 0; }", "done"), ("point x ( 1 /2 );", "done"), ("row a 2 <= 3;", "done"), ("row x 2 <= 3;", "no sort"),
-            ("row b 2 <= 3 ;", "no name"), ("row a <= 3;", "no row"), ("drop x ;", "done"), ("drop x;", "no name"), ("room a 9 { }", "no part"),
-            ("room a 1 { 1 1 <= 3; }", "no part"), ("point p (1/0);", "no part"), ("sheet { room a 7 { } }", "no sheet"), ("end ;", "no trip"),
-            ("step () ();", "no trip"), ("start a a a 1 a;", "no sort"), ("start a a a 1 b;", "no name"), ("parts ;", "a"), ("undo ;", "done"), ("redo ;", "done"),
+            desk, ("room a 1 { 1 <= 6; -1 <= 0; }", "done"), ("point x ( 1 /2 );", "done"), ("row a 2 <= 3;", "done"),
+            ("row x 2 <= 3;", "no sort"),
+            ("row b 2 <= 3 ;", "no name"), ("row a <= 3;", "no row"), ("drop x ;", "done"), ("drop x;", "no name"),
+            ("room a 9 { }", "no part"),
+            ("room a 1 { 1 1 <= 3; }", "no part"), ("point p (1/0);", "no part"),
+            ("sheet { room a 7 { } }", "no sheet"), ("end ;", "no trip"),
+            ("step () ();", "no trip"), ("start a a a 1 a;", "no sort"), ("start a a a 1 b;", "no name"),
+            ("parts ;", "a"), ("undo ;", "done"), ("redo ;", "done"),
             ("redo ;", "no nothing"), ("parts;", "a"))
         self.assertEqual(desk.acts()[-1], ("drop", "x"))
         self.assertEqual(desk.sheet(), (("room", "a", (1, (((1,), 6), ((-1,), 0), ((2,), 3)))),))
         self.assertEqual(desk.acts()[1:3], [("put", ("point", "x", ((1, 2),))), ("row", "a", ((2,), 3))])
-        self.asked(desk, ("sheet { }", "done"), ("parts ;", ""), ("corners a;", "no name"), ("undo ;", "done"), ("corners a;", "(0) (3/2)"))
+        self.asked(desk, ("sheet { }", "done"), ("parts ;", ""), ("corners a;", "no name"), ("undo ;", "done"),
+            ("corners a;", "(0) (3/2)"))
 
     def test_the_very_desk(self):
         desk = Desk()
@@ -104,37 +117,57 @@ class TestLines(unittest.TestCase):
 
     def test_trips(self):
         self.asked(
-            desk_with(), ("where ;", "no trip"), ("led;", "no trip"), ("wishes;", "no trip"), ("answer (0);", "no trip"), ("price effort;", "no trip"),
-            ("price walls;", "no sort"), ("start drift walls goal 2 x ;", "done"), ("where ;", "(2)"), ("led ;", "yes"), ("wishes ;", "1 { -1 <= 2; 1 <= -1; }"),
-            ("answer (0);", "(1)"), ("answer (-1);", "none"), ("answer (-3);", "no wish"), ("answer (1/0);", "no wish"), ("answer (0 0);", "no wish"),
-            ("price effort;", "4"), ("price flat;", "no fit"), ("step (-3/2) (1/3) ;", "done"), ("where;", "(5/6)"), ("price effort;", "11/6"), ("step (3) (9);", "no wish"),
-            ("step (2) (9);", "no gust"), ("step (2/4) (1);", "done"), ("where ;", "(7/3)"), ("led ;", "no"), ("wishes ;", "1 { 0 <= -1; }"), ("answer (0);", "no steps"),
-            ("price effort;", "none"), ("undo ;", "done"), ("where ;", "(5/6)"), ("end ;", "done"), ("redo ;", "no nothing"), ("where ;", "no trip"), ("undo ;", "done"),
+            desk_with(), ("where ;", "no trip"), ("led;", "no trip"), ("wishes;", "no trip"),
+            ("answer (0);", "no trip"), ("price effort;", "no trip"),
+            ("price walls;", "no sort"), ("start drift walls goal 2 x ;", "done"), ("where ;", "(2)"), ("led ;", "yes"),
+            ("wishes ;", "1 { -1 <= 2; 1 <= -1; }"),
+            ("answer (0);", "(1)"), ("answer (-1);", "none"), ("answer (-3);", "no wish"), ("answer (1/0);", "no wish"),
+            ("answer (0 0);", "no wish"),
+            ("price effort;", "4"), ("price flat;", "no fit"), ("step (-3/2) (1/3) ;", "done"), ("where;", "(5/6)"),
+            ("price effort;", "11/6"), ("step (3) (9);", "no wish"),
+            ("step (2) (9);", "no gust"), ("step (2/4) (1);", "done"), ("where ;", "(7/3)"), ("led ;", "no"),
+            ("wishes ;", "1 { 0 <= -1; }"), ("answer (0);", "no steps"),
+            ("price effort;", "none"), ("undo ;", "done"), ("where ;", "(5/6)"), ("end ;", "done"),
+            ("redo ;", "no nothing"), ("where ;", "no trip"), ("undo ;", "done"),
             ("where ;", "(5/6)"), ("undo;", "done"), ("undo;", "done"), ("undo;", "done"), ("undo;", "no nothing"))
 
     def test_marks(self):
         self.asked(
-            Desk(), ("mark a ;", "done"), ("point x (1);", "done"), ("point y ();", "done"), ("since a ;", "2"), ("since b ;", "no mark"), ("mark b;", "done"),
-            ("undo ;", "done"), ("since b;", "-1"), ("since a;", "1"), ("undo ;", "done"), ("since b;", "-2"), ("since a;", "0"), ("parts ;", ""))
+            Desk(), ("mark a ;", "done"), ("point x (1);", "done"), ("point y ();", "done"), ("since a ;", "2"),
+            ("since b ;", "no mark"), ("mark b;", "done"),
+            ("undo ;", "done"), ("since b;", "-1"), ("since a;", "1"), ("undo ;", "done"), ("since b;", "-2"),
+            ("since a;", "0"), ("parts ;", ""))
 
     def test_rooms_and_numbers(self):
         self.asked(
-            desk_with(), ("corners walls ;", "(-6) (6)"), ("corners box;", "(-3 -3) (-3 3) (3 -3) (3 3)"), ("corners none;", "no bare"), ("corners far;", "no far"),
-            ("inside goal walls;", "yes"), ("inside walls goal ;", "no"), ("inside walls box;", "no fit"), ("level drift walls goal 1 ;", "1 { -1 <= 2; 1 <= 2; }"),
-            ("level held small small 3;", "2 { -1 0 <= 1; 0 -1 <= 1; 0 1 <= 1; 1 0 <= 1; }"), ("level drift none goal 1;", "1 { 0 <= -1; }"), ("kept drift walls 4;", "closed 0"),
-            ("kept drift walls 0;", "open 0"), ("kept drift none 6;", "bare 0"), ("kept drift walls 7;", "no steps"), ("kept wrong walls 7;", "no plant"),
+            desk_with(), ("corners walls ;", "(-6) (6)"), ("corners box;", "(-3 -3) (-3 3) (3 -3) (3 3)"),
+            ("corners none;", "no bare"), ("corners far;", "no far"),
+            ("inside goal walls;", "yes"), ("inside walls goal ;", "no"), ("inside walls box;", "no fit"),
+            ("level drift walls goal 1 ;", "1 { -1 <= 2; 1 <= 2; }"),
+            ("level held small small 3;", "2 { -1 0 <= 1; 0 -1 <= 1; 0 1 <= 1; 1 0 <= 1; }"),
+            ("level drift none goal 1;", "1 { 0 <= -1; }"), ("kept drift walls 4;", "closed 0"),
+            ("kept drift walls 0;", "open 0"), ("kept drift none 6;", "bare 0"), ("kept drift walls 7;", "no steps"),
+            ("kept wrong walls 7;", "no plant"),
             ("level drift far goal 7;", "no walls"), ("level drift walls goal 12345678901234567890;", "no steps"))
-        self.asked(desk_with(("room", "a", polygon(301)), ("room", "b", (0, ())), ("plant", "held", STILL), ("room", "c", polygon(81))), ("corners a;", "no great"),
-                   ("corners b;", "()"), ("level held c c 1;", "no great"), ("level held a c 9;", "no steps"), ("kept held c 0;", "no great"))
+        self.asked(desk_with(("room", "a", polygon(301)), ("room", "b", (0, ())), ("plant", "held", STILL),
+            ("room", "c", polygon(81))), ("corners a;", "no great"),
+                   ("corners b;", "()"), ("level held c c 1;", "no great"), ("level held a c 9;", "no steps"),
+                   ("kept held c 0;", "no great"))
 
     def test_wrong_places(self):
         self.asked(
-            desk_with(), ("undo ; redo ;", "no 7"), ("undo", "no 4"), ("led x ;", "no 4"), ("", "no 0"), ("  ", "no 2"), (";", "no 0"), ("7 ;", "no 0"), ("(1)", "no 0"),
-            ("stop ;", "no 0"), ("walls ;", "no 0"), ("undo\t;", "no 4"), ("Undo ;", "no 0"), ("undo ; %", "no 7"), ("row walls 1 <= ;", "no 15"), ("row room 1 <= 2;", "no 4"),
-            ("drop 7;", "no 5"), ("start drift walls goal x 2;", "no 23"), ("start drift walls goal -2 x;", "no 23"), ("corners walls", "no 13"), ("corners abcdefghijklm;", "no 8"),
-            ("step (1) 1;", "no 9"), ("step (1) (1) 1;", "no 13"), ("kept drift walls 007;", "no 18"), ("level drift walls goal 1/2;", "no 24"), ("answer 1;", "no 7"),
-            ("sheet { room a 1 { 1 < 2; } }", "no 21"), ("room a 1 { 1 <= 2 }", "no 18"), ("point x (1)", "no 11"), ("wishes 1 { }", "no 7"), ("gusts;", "no 0"),
-            ("piece ;", "no 0"), ("see ;", "no 0"), ("mark sheet ;", "no 5"), ("since\nwalls\n;\n", "no mark"), ("end;;", "no 4"),
+            desk_with(), ("undo ; redo ;", "no 7"), ("undo", "no 4"), ("led x ;", "no 4"), ("", "no 0"), ("  ", "no 2"),
+            (";", "no 0"), ("7 ;", "no 0"), ("(1)", "no 0"),
+            ("stop ;", "no 0"), ("walls ;", "no 0"), ("undo\t;", "no 4"), ("Undo ;", "no 0"), ("undo ; %", "no 7"),
+            ("row walls 1 <= ;", "no 15"), ("row room 1 <= 2;", "no 4"),
+            ("drop 7;", "no 5"), ("start drift walls goal x 2;", "no 23"), ("start drift walls goal -2 x;", "no 23"),
+            ("corners walls", "no 13"), ("corners abcdefghijklm;", "no 8"),
+            ("step (1) 1;", "no 9"), ("step (1) (1) 1;", "no 13"), ("kept drift walls 007;", "no 18"),
+            ("level drift walls goal 1/2;", "no 24"), ("answer 1;", "no 7"),
+            ("sheet { room a 1 { 1 < 2; } }", "no 21"), ("room a 1 { 1 <= 2 }", "no 18"), ("point x (1)", "no 11"),
+            ("wishes 1 { }", "no 7"), ("gusts;", "no 0"),
+            ("piece ;", "no 0"), ("see ;", "no 0"), ("mark sheet ;", "no 5"), ("since\nwalls\n;\n", "no mark"),
+            ("end;;", "no 4"),
             ("level drift walls goal x" + "9" * 5000 + ";", "no 23"), ("led " + "9" * 5000 + ";", "no 4"))
 
     def test_by_the_grammar(self):
@@ -145,7 +178,8 @@ class TestLines(unittest.TestCase):
             kind = rnd.random()
             k = rnd.randint(0, len(line))
             if kind < 0.3:
-                line = line[:k] + rnd.choice(["", ";", " ", "x", "7", "(", ")", "{", "}", "-", "/", "<=", "<", "\n", "\t", "A", "room", " 0 "]) + line[k:]
+                line = line[:k] + rnd.choice(["", ";", " ", "x", "7", "(", ")", "{", "}", "-", "/", "<=", "<", "\n",
+                    "\t", "A", "room", " 0 "]) + line[k:]
             elif kind < 0.6:
                 line = line[:k] + line[k + rnd.randint(1, 4):]
             elif kind < 0.7:
@@ -184,7 +218,8 @@ class TestLines(unittest.TestCase):
     def test_long_lines(self):
         desk = Desk()
         line = "room a 1 {" + "1 <= 2; " * 7000 + "}"
-        self.asked(desk, (line, "done"), ("sheet {" + " " * 50000 + "}", "done"), ("undo ;" + " " * 50000 + "7", "no 50006"))
+        self.asked(desk, (line, "done"), ("sheet {" + " " * 50000 + "}", "done"),
+            ("undo ;" + " " * 50000 + "7", "no 50006"))
         self.assertEqual(len(PARTS), 19)
         self.assertRaises(BadAsk, desk.corners, "a")
         self.assertEqual(rough(0, 1)[0], 1)

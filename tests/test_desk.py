@@ -42,23 +42,29 @@ def told(desk, call, *args):
 
 
 QUESTIONS = [("corners", (name,)) for name in ("walls", "box", "far", "none", "x", "nobody", None, 3)]
-QUESTIONS += [("inside", pair) for pair in (("goal", "walls"), ("walls", "goal"), ("walls", "box"), ("x", "nobody"), ("walls", "x"), ("far", "none"), ("none", "far"))]
+QUESTIONS += [("inside", pair) for pair in (("goal", "walls"), ("walls", "goal"), ("walls", "box"), ("x", "nobody"),
+    ("walls", "x"), ("far", "none"), ("none", "far"))]
 QUESTIONS += [("level", args) for args in (
-    ("drift", "walls", "goal", 2), ("drift", "walls", "goal", 0), ("drift", "walls", "goal", 7), ("slide", "walls", "goal", 1),
-    ("slide", "box", "small", 1), ("wrong", "walls", "far", 9), ("drift", "far", "goal", 9), ("drift", "walls", "far", True), ("walls", "walls", "goal", 1),
+    ("drift", "walls", "goal", 2), ("drift", "walls", "goal", 0), ("drift", "walls", "goal", 7),
+    ("slide", "walls", "goal", 1),
+    ("slide", "box", "small", 1), ("wrong", "walls", "far", 9), ("drift", "far", "goal", 9),
+    ("drift", "walls", "far", True), ("walls", "walls", "goal", 1),
     ("nobody", "x", "x", 1), ("drift", "none", "goal", 1))]
 QUESTIONS += [("kept", args) for args in (
-    ("drift", "walls", 3), ("slide", "box", 1), ("slide", "walls", 1), ("wrong", "walls", 9), ("drift", "far", -1), ("drift", "walls", "3"), ("drift", "none", 0),
+    ("drift", "walls", 3), ("slide", "box", 1), ("slide", "walls", 1), ("wrong", "walls", 9), ("drift", "far", -1),
+    ("drift", "walls", "3"), ("drift", "none", 0),
     ("drift", "x", 0), ("nobody", "walls", 0))]
 QUESTIONS += [("is_led", ()), ("wishes", ())]
-QUESTIONS += [("answer", (wish,)) for wish in (pt(0), pt(2), pt(-2), pt(Fraction(1, 2)), pt(3), (), None, [(0, 1)], ((2, 2),), pt(0, 0))]
+QUESTIONS += [("answer", (wish,)) for wish in (pt(0), pt(2), pt(-2), pt(Fraction(1, 2)), pt(3), (), None, [(0, 1)],
+    ((2, 2),), pt(0, 0))]
 QUESTIONS += [("price", (name,)) for name in ("effort", "flat", "walls", "nobody", ())]
 
 
 def answer_due(desk, call, args):
     """What a question is answered, by what the sheet and the trip are, told a second time."""
     sheet, trip = desk.sheet(), desk.trip()
-    named = {"corners": ["room"], "inside": ["room"] * 2, "level": ["plant", "room", "room"], "kept": ["plant", "room"], "price": ["cost"]}
+    named = {"corners": ["room"], "inside": ["room"] * 2, "level": ["plant", "room", "room"], "kept": ["plant", "room"],
+        "price": ["cost"]}
     sorts = named.get(call, [])
     parts = [found_in(sheet, name) for name in args[:len(sorts)]]
     words = ["name"] * (None in parts)
@@ -122,26 +128,44 @@ class TestActs(unittest.TestCase):
         full = Desk()
         full.do(("sheet", tuple(("room", f"a{k}", rough(0, k)) for k in range(30))))
         for told_desk, act, word in [
-                (desk, ("sheet", PARTS + PARTS[:1]), "sheet"), (desk, ("sheet", list(PARTS)), "sheet"), (desk, ("sheet", ()), None),
-                (desk, ("put", one), None), (desk, ("put", ("room", "walls", (7, ()))), "part"), (desk, ("put", ("point", "sheet", ())), "part"),
-                (desk, ("put", ("point", "p", pt(*range(7)))), "part"), (desk, ("put", list(one)), "part"), (full, ("put", one), "many"),
+                (desk, ("sheet", PARTS + PARTS[:1]), "sheet"), (desk, ("sheet", list(PARTS)), "sheet"),
+                (desk, ("sheet", ()), None),
+                (desk, ("put", one), None), (desk, ("put", ("room", "walls", (7, ()))), "part"),
+                (desk, ("put", ("point", "sheet", ())), "part"),
+                (desk, ("put", ("point", "p", pt(*range(7)))), "part"), (desk, ("put", list(one)), "part"),
+                (full, ("put", one), "many"),
                 (full, ("put", ("point", "a7", pt(1))), None), (full, ("put", ("room", "b", 7)), "part"),
-                (desk, ("drop", "walls"), None), (desk, ("drop", "nobody"), "name"), (desk, ("drop", "room"), "name"), (desk, ("drop", None), "name"),
-                (desk, ("row", "nobody", 1), "name"), (desk, ("row", "x", 1), "sort"), (desk, ("row", "walls", ((1, 1), 1)), "row"),
+                (desk, ("drop", "walls"), None), (desk, ("drop", "nobody"), "name"), (desk, ("drop", "room"), "name"),
+                (desk, ("drop", None), "name"),
+                (desk, ("row", "nobody", 1), "name"), (desk, ("row", "x", 1), "sort"),
+                (desk, ("row", "walls", ((1, 1), 1)), "row"),
                 (desk, ("row", "walls", ((True,), 1)), "row"), (desk, ("row", "walls", ((2,), 4)), None),
-                (desk, ("start", "nobody", "x", "x", 9, "x"), "name"), (desk, ("start", "drift", "walls", "goal", 2, "nobody"), "name"),
-                (desk, ("start", "drift", "walls", "x", 9, "x"), "sort"), (desk, ("start", "walls", "walls", "goal", 9, "x"), "sort"),
-                (desk, ("start", "wrong", "box", "far", 9, "x"), "fit"), (desk, ("start", "wrong", "walls", "far", 9, "z"), "fit"),
-                (desk, ("start", "wrong", "walls", "far", 9, "x"), "plant"), (desk, ("start", "loose", "walls", "goal", 2, "x"), "plant"),
-                (desk, ("start", "drift", "far", "goal", 9, "x"), "walls"), (desk, ("start", "drift", "walls", "far", 2, "x"), "walls"),
-                (desk, ("start", "drift", "none", "goal", 2, "x"), None), (desk, ("start", "drift", "walls", "goal", 7, "x"), "steps"),
-                (desk, ("start", "drift", "walls", "goal", -1, "x"), "steps"), (desk, ("start", "drift", "walls", "goal", True, "x"), "steps"),
-                (desk, ("start", "drift", "walls", "goal", 6, "x"), None), (desk, ("start", "drift", "walls", "goal", None, "y"), "steps"),
-                (desk, ("step", pt(0), pt(0)), "trip"), (desk, ("end",), "trip"), (travelling(0), ("step", pt(0), pt(0)), "trip"),
-                (travelling(), ("step", pt(3), pt(3)), "wish"), (travelling(), ("step", pt(0, 0), pt(3)), "wish"), (travelling(), ("step", pt(2), pt(3)), "gust"),
-                (travelling(), ("step", pt(2), None), "gust"), (travelling(), ("step", pt(2), pt(1)), None), (travelling(), ("end",), None),
-                (desk, (), "form"), (desk, ("end", 1), "form"), (desk, ("stop",), "form"), (desk, ["end"], "form"), (desk, "end", "form"), (desk, None, "form"),
-                (desk, ("put",), "form"), (desk, ("start", "drift", "walls", "goal", 2), "form"), (desk, (("end",),), "form")]:
+                (desk, ("start", "nobody", "x", "x", 9, "x"), "name"),
+                (desk, ("start", "drift", "walls", "goal", 2, "nobody"), "name"),
+                (desk, ("start", "drift", "walls", "x", 9, "x"), "sort"),
+                (desk, ("start", "walls", "walls", "goal", 9, "x"), "sort"),
+                (desk, ("start", "wrong", "box", "far", 9, "x"), "fit"),
+                (desk, ("start", "wrong", "walls", "far", 9, "z"), "fit"),
+                (desk, ("start", "wrong", "walls", "far", 9, "x"), "plant"),
+                (desk, ("start", "loose", "walls", "goal", 2, "x"), "plant"),
+                (desk, ("start", "drift", "far", "goal", 9, "x"), "walls"),
+                (desk, ("start", "drift", "walls", "far", 2, "x"), "walls"),
+                (desk, ("start", "drift", "none", "goal", 2, "x"), None),
+                (desk, ("start", "drift", "walls", "goal", 7, "x"), "steps"),
+                (desk, ("start", "drift", "walls", "goal", -1, "x"), "steps"),
+                (desk, ("start", "drift", "walls", "goal", True, "x"), "steps"),
+                (desk, ("start", "drift", "walls", "goal", 6, "x"), None),
+                (desk, ("start", "drift", "walls", "goal", None, "y"), "steps"),
+                (desk, ("step", pt(0), pt(0)), "trip"), (desk, ("end",), "trip"),
+                (travelling(0), ("step", pt(0), pt(0)), "trip"),
+                (travelling(), ("step", pt(3), pt(3)), "wish"), (travelling(), ("step", pt(0, 0), pt(3)), "wish"),
+                (travelling(), ("step", pt(2), pt(3)), "gust"),
+                (travelling(), ("step", pt(2), None), "gust"), (travelling(), ("step", pt(2), pt(1)), None),
+                (travelling(), ("end",), None),
+                (desk, (), "form"), (desk, ("end", 1), "form"), (desk, ("stop",), "form"), (desk, ["end"], "form"),
+                (desk, "end", "form"), (desk, None, "form"),
+                (desk, ("put",), "form"), (desk, ("start", "drift", "walls", "goal", 2), "form"),
+                (desk, (("end",),), "form")]:
             before = (told_desk.sheet(), told_desk.trip(), told_desk.acts())
             self.assertEqual(told_desk.act_word(act), word, act)
             self.assertEqual(word_due(*before[:2], act), word, act)
@@ -154,8 +178,11 @@ class TestActs(unittest.TestCase):
     def test_anything(self):
         for desk in (Desk(), travelling()):
             for odd in ODD:
-                for act in [odd] + [(word,) + (odd,) * k for word, k in (("sheet", 1), ("put", 1), ("drop", 1), ("row", 2), ("start", 5), ("step", 2), ("end", 0), (odd, 1))] + [
-                        ("row", "walls", odd), ("start", "drift", "walls", "goal", odd, "x"), ("step", pt(0), odd), ("put", ("room", odd, rough(0, 1)))]:
+                for act in [odd] + [(word,) + (odd,) * k for word,
+                        k in (("sheet", 1), ("put", 1), ("drop", 1), ("row", 2), ("start", 5), ("step", 2), ("end", 0),
+                        (odd, 1))] + [
+                        ("row", "walls", odd), ("start", "drift", "walls", "goal", odd, "x"), ("step", pt(0), odd),
+                        ("put", ("room", odd, rough(0, 1)))]:
                     self.assertEqual(desk.act_word(act), word_due(desk.sheet(), desk.trip(), act), act)
 
     def test_what_acts_do(self):
@@ -175,7 +202,8 @@ class TestActs(unittest.TestCase):
         walls = (1, (((1,), 6), ((-1,), 6), ((1,), 3), ((0,), 0)))
         self.assertEqual(desk.trip(), (DRIFT, walls, walls, 2, (), pt(2)))
         desk.do(("step", pt(-2), pt(Fraction(1, 2))))
-        self.assertEqual(desk.trip(), (DRIFT, walls, walls, 1, ((pt(2), pt(-2), pt(Fraction(1, 2))),), pt(Fraction(1, 2))))
+        self.assertEqual(desk.trip(), (DRIFT, walls, walls, 1, ((pt(2), pt(-2), pt(Fraction(1, 2))),),
+            pt(Fraction(1, 2))))
         self.assertEqual(desk.do(("end",)), 9)
         self.assertIsNone(desk.trip())
         self.assertEqual(desk.acts()[-2:], [("step", pt(-2), pt(Fraction(1, 2))), ("end",)])
@@ -221,8 +249,10 @@ class TestActs(unittest.TestCase):
                     else:
                         self.assertRaises(BadAct, desk.do, act)
                 self.assertEqual((desk.sheet(), desk.trip(), desk.acts()), (*state[-1], past))
-        due = {("sheet", None), ("sheet", "sheet"), ("put", None), ("put", "part"), ("drop", None), ("drop", "name"), ("row", None), ("row", "name"),
-               ("row", "sort"), ("row", "row"), ("start", None), ("start", "name"), ("step", None), ("step", "trip"), ("step", "wish"), ("step", "gust"),
+        due = {("sheet", None), ("sheet", "sheet"), ("put", None), ("put", "part"), ("drop", None), ("drop", "name"),
+            ("row", None), ("row", "name"),
+               ("row", "sort"), ("row", "row"), ("start", None), ("start", "name"), ("step", None), ("step", "trip"),
+               ("step", "wish"), ("step", "gust"),
                ("end", None), ("end", "trip")}
         self.assertTrue(due <= set(words), due - set(words))
 
@@ -272,7 +302,8 @@ class TestDoneAgain(unittest.TestCase):
         desk.is_led()
         twin = desk.twin()
         for told_desk, other in ((twin, desk), (desk.twin(), twin)):
-            self.assertEqual((told_desk.sheet(), told_desk.trip(), told_desk.acts(), told_desk.work(), told_desk.marks()),
+            self.assertEqual((told_desk.sheet(), told_desk.trip(), told_desk.acts(), told_desk.work(),
+                told_desk.marks()),
                              (other.sheet(), other.trip(), other.acts(), other.work(), other.marks()))
         self.assertEqual(twin.redo(), 3)
         twin.mark("n")
@@ -292,15 +323,24 @@ class TestQuestions(unittest.TestCase):
     def test_by_hand(self):
         desk = travelling()
         for call, args, due in [
-                ("corners", ("walls",), ("told", [pt(-6), pt(6)])), ("corners", ("none",), ("no", "bare")), ("corners", ("far",), ("no", "far")),
-                ("corners", ("x",), ("no", "sort")), ("corners", ("nobody",), ("no", "name")), ("inside", ("goal", "walls"), ("told", True)),
-                ("inside", ("walls", "goal"), ("told", False)), ("inside", ("walls", "box"), ("no", "fit")), ("inside", ("x", "nobody"), ("no", "name")),
-                ("level", ("drift", "walls", "goal", 2), ("told", stretch(-3, 3))), ("level", ("drift", "walls", "goal", 7), ("no", "steps")),
-                ("level", ("wrong", "box", "far", 7), ("no", "fit")), ("level", ("wrong", "far", "goal", 7), ("no", "plant")),
-                ("level", ("drift", "far", "goal", 7), ("no", "walls")), ("kept", ("drift", "walls", 3), ("told", ("closed", 0))),
-                ("kept", ("drift", "far", 7), ("no", "walls")), ("kept", ("slide", "walls", 7), ("no", "fit")), ("kept", ("drift", "none", 3), ("told", ("bare", 0))),
-                ("is_led", (), ("told", True)), ("wishes", (), ("told", stretch(-2, -1))), ("answer", (pt(0),), ("told", pt(1))), ("answer", (pt(-2),), ("told", None)),
-                ("answer", (pt(3),), ("no", "wish")), ("price", ("effort",), ("told", (4, 1))), ("price", ("flat",), ("no", "fit")), ("price", ("walls",), ("no", "sort"))]:
+                ("corners", ("walls",), ("told", [pt(-6), pt(6)])), ("corners", ("none",), ("no", "bare")),
+                ("corners", ("far",), ("no", "far")),
+                ("corners", ("x",), ("no", "sort")), ("corners", ("nobody",), ("no", "name")),
+                ("inside", ("goal", "walls"), ("told", True)),
+                ("inside", ("walls", "goal"), ("told", False)), ("inside", ("walls", "box"), ("no", "fit")),
+                ("inside", ("x", "nobody"), ("no", "name")),
+                ("level", ("drift", "walls", "goal", 2), ("told", stretch(-3, 3))),
+                ("level", ("drift", "walls", "goal", 7), ("no", "steps")),
+                ("level", ("wrong", "box", "far", 7), ("no", "fit")),
+                ("level", ("wrong", "far", "goal", 7), ("no", "plant")),
+                ("level", ("drift", "far", "goal", 7), ("no", "walls")),
+                ("kept", ("drift", "walls", 3), ("told", ("closed", 0))),
+                ("kept", ("drift", "far", 7), ("no", "walls")), ("kept", ("slide", "walls", 7), ("no", "fit")),
+                ("kept", ("drift", "none", 3), ("told", ("bare", 0))),
+                ("is_led", (), ("told", True)), ("wishes", (), ("told", stretch(-2, -1))),
+                ("answer", (pt(0),), ("told", pt(1))), ("answer", (pt(-2),), ("told", None)),
+                ("answer", (pt(3),), ("no", "wish")), ("price", ("effort",), ("told", (4, 1))),
+                ("price", ("flat",), ("no", "fit")), ("price", ("walls",), ("no", "sort"))]:
             self.assertEqual(told(desk, call, *args), due, (call, args))
         for call, args in (("is_led", ()), ("wishes", ()), ("answer", (None,)), ("price", ("effort",))):
             self.assertEqual(told(desk_with(), call, *args), ("no", "trip"))
@@ -343,9 +383,12 @@ class TestQuestions(unittest.TestCase):
                 self.assertEqual(found, told(desk, call, *args))
                 self.assertEqual((desk.sheet(), desk.trip(), desk.acts()), before)
                 words[call, found[1] if found[0] == "no" else ""] = True
-        due = {("corners", word) for word in ("", "name", "sort", "bare", "far")} | {("inside", word) for word in ("", "name", "sort", "fit")}
-        due |= {("level", word) for word in ("", "name", "sort", "fit", "plant", "walls", "steps")} | {("answer", word) for word in ("", "trip", "wish")}
-        due |= {("kept", word) for word in ("", "name", "fit", "plant", "walls", "steps")} | {("is_led", ""), ("is_led", "trip"), ("wishes", ""), ("price", "trip")}
+        due = {("corners", word) for word in ("", "name", "sort", "bare", "far")} | {("inside", word)
+            for word in ("", "name", "sort", "fit")}
+        due |= {("level", word) for word in ("", "name", "sort", "fit", "plant", "walls", "steps")} | {("answer", word)
+            for word in ("", "trip", "wish")}
+        due |= {("kept", word) for word in ("", "name", "fit", "plant", "walls", "steps")} | {("is_led", ""),
+            ("is_led", "trip"), ("wishes", ""), ("price", "trip")}
         self.assertTrue(due <= set(words), due - set(words))
 
     def test_led_by_wishes_without_an_answer(self):
@@ -379,7 +422,8 @@ class TestQuestions(unittest.TestCase):
             self.assertIs(kept, was_led)
 
     def test_too_great(self):
-        great = desk_with(("plant", "held", STILL), ("room", "a", polygon(81)), ("room", "b", polygon(301)), ("room", "c", polygon(80)), ("point", "x", pt(1, 1)),
+        great = desk_with(("plant", "held", STILL), ("room", "a", polygon(81)), ("room", "b", polygon(301)),
+            ("room", "c", polygon(80)), ("point", "x", pt(1, 1)),
                           ("cost", "k", ((((0, 0), (), 1),), (((0, 0), 0),))))
         self.assertEqual(told(great, "level", "held", "a", "a", 0), ("great",))
         self.assertEqual(told(great, "level", "held", "a", "a", 9), ("no", "steps"))
@@ -401,10 +445,14 @@ class TestWork(unittest.TestCase):
     def test_counts_levels(self):
         desk = travelling(3)
         works = []
-        for call, args in [("corners", ("walls",)), ("kept", ("drift", "walls", 3)), ("price", ("effort",)), ("inside", ("goal", "walls")),
-                           ("answer", (pt(9),)), ("wishes", ()), ("answer", (pt(0),)), ("is_led", ()), ("wishes", ()), ("level", ("drift", "walls", "goal", 2)),
-                           ("level", ("drift", "walls", "goal", 5)), ("level", ("drift", "walls", "goal", 7)), ("level", ("drift", "goal", "goal", 1)),
-                           ("level", ("drift", "goal", "walls", 0)), ("level", ("slide", "box", "small", 2)), ("level", ("nobody", "box", "small", 2))]:
+        for call, args in [("corners", ("walls",)), ("kept", ("drift", "walls", 3)), ("price", ("effort",)),
+                ("inside", ("goal", "walls")),
+                           ("answer", (pt(9),)), ("wishes", ()), ("answer", (pt(0),)), ("is_led", ()), ("wishes", ()),
+                           ("level", ("drift", "walls", "goal", 2)),
+                           ("level", ("drift", "walls", "goal", 5)), ("level", ("drift", "walls", "goal", 7)),
+                           ("level", ("drift", "goal", "goal", 1)),
+                           ("level", ("drift", "goal", "walls", 0)), ("level", ("slide", "box", "small", 2)),
+                           ("level", ("nobody", "box", "small", 2))]:
             told(desk, call, *args)
             works.append(desk.work())
         self.assertEqual(works, [0, 0, 0, 0, 0, 2, 2, 3, 3, 3, 5, 5, 6, 6, 8, 8])
@@ -433,3 +481,25 @@ class TestWork(unittest.TestCase):
         self.assertEqual(desk.work(), 2)
         desk.is_led()
         self.assertEqual(desk.work(), 3)
+        # An answer by itself needs the level of one step less, too.
+        for left, due in ((3, 2), (1, 0)):
+            desk = travelling(left)
+            desk.answer(pt(0))
+            self.assertEqual(desk.work(), due)
+
+    def test_beyond_the_walls_no_wish_is_told(self):
+        # From 13 / 2 wishes lead back within the walls, but it is beyond them.
+        desk = desk_with(*PARTS, ("point", "w", pt(Fraction(13, 2))))
+        desk.do(("start", "drift", "walls", "walls", 1, "w"))
+        self.assertIsNone(desk.answer(pt(-2)))
+        self.assertEqual(desk.wishes(), never(1))
+        self.assertFalse(desk.is_led())
+
+    def test_costs_that_do_not_fit(self):
+        ends = (((0,), 0),)
+        desk = desk_with(*PARTS, ("cost", "wide", ((((0,), (0, 0), 0),), ends)),
+            ("cost", "long", ((((0, 0), (0,), 0),), (((0, 0), 0),))))
+        desk.do(("start", "drift", "walls", "goal", 1, "x"))
+        for name in ("wide", "long", "flat"):
+            self.assertEqual(told(desk, "price", name), ("no", "fit"))
+        self.assertEqual(told(desk, "price", "effort"), ("told", (3, 1)))

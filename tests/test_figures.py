@@ -10,8 +10,10 @@ from everygust.lean import lean
 from everygust.lots import lot_within
 from everygust.rows import row_of
 from tests import referees
-from tests.helpers import ODD, corners_by_trying, cube, fr, is_within, number, numbers, product_of, pt, seeded, unchanged
-from tests.plants import STILL, from_numbers, gusts_of, moved, points_within, some_bounded, some_matrix, some_plant, some_standing
+from tests.helpers import (
+    ODD, corners_by_trying, cube, fr, is_within, number, numbers, product_of, pt, seeded, unchanged)
+from tests.plants import (
+    STILL, from_numbers, gusts_of, moved, points_within, some_bounded, some_matrix, some_plant, some_standing)
 from tests.test_levels import stretch
 from tests.test_lots import rough
 from tests.test_steps import never
@@ -132,7 +134,8 @@ def some_table(told, n, m, many):
 def trips(told, many):
     """Plants with a room, a goal, a table and a q."""
     found = [(STAND, rough(-1, 1), NEAR, BACK, q) for q in (1, 2, 3)]
-    found += [(STAND, rough(-1, 1), NEAR, BACK[:0], 1), (STAND, never(1), NEAR, BACK, 1), (STAND, rough(1, 0), NEAR, (), 1)]
+    found += [(STAND, rough(-1, 1), NEAR, BACK[:0], 1), (STAND, never(1), NEAR, BACK, 1),
+        (STAND, rough(1, 0), NEAR, (), 1)]
     for _ in range(many):
         n = told.choice([1, 1, 2])
         plant = some_plant(told, n, told.choice([0, 1, 1, 2]), told.randint(0, 1))
@@ -146,9 +149,11 @@ def trips(told, many):
 
 class TestRounded(unittest.TestCase):
     def test_by_hand(self):
-        for t, q, due in [(Fraction(-1, 2), 1, -1), (Fraction(1, 2), 1, 0), (Fraction(3, 2), 1, 1), (Fraction(-3, 2), 1, -2),
+        for t, q, due in [(Fraction(-1, 2), 1, -1), (Fraction(1, 2), 1, 0), (Fraction(3, 2), 1, 1),
+                (Fraction(-3, 2), 1, -2),
                           (Fraction(51, 100), 1, 1), (Fraction(-49, 100), 1, 0), (Fraction(-51, 100), 1, -1), (0, 7, 0),
-                          (Fraction(1, 4), 2, 0), (Fraction(-1, 4), 2, Fraction(-1, 2)), (Fraction(3, 4), 2, Fraction(1, 2)),
+                          (Fraction(1, 4), 2, 0), (Fraction(-1, 4), 2, Fraction(-1, 2)),
+                          (Fraction(3, 4), 2, Fraction(1, 2)),
                           (Fraction(1, 3), 60, Fraction(1, 3)), (Fraction(10 ** 40 + 1, 2 * 10 ** 40), 1, 1),
                           (Fraction(10 ** 40 - 1, 2 * 10 ** 40), 1, 0), (-Fraction(10 ** 40 - 1, 2 * 10 ** 40), 1, 0),
                           (-Fraction(10 ** 40 + 1, 2 * 10 ** 40), 1, -1)]:
@@ -170,12 +175,14 @@ class TestStrips(unittest.TestCase):
         found = unchanged(self, strips, BACK[0], rough(-1, 1), 2)
         self.assertEqual([t for t, _ in found], [(-2,), (-1,), (0,), (1,), (2,)])
         self.assertEqual([closed for _, closed in found], [
-            stretch(Fraction(3, 4), 1), stretch(Fraction(1, 4), Fraction(3, 4)), stretch(Fraction(-1, 4), Fraction(1, 4)),
+            stretch(Fraction(3, 4), 1), stretch(Fraction(1, 4), Fraction(3, 4)),
+            stretch(Fraction(-1, 4), Fraction(1, 4)),
             stretch(Fraction(-3, 4), Fraction(-1, 4)), stretch(-1, Fraction(-3, 4))])
         self.assertEqual(unchanged(self, strip_standing, BACK[0], rough(-1, 1), 2, (3,)), None)
         # A room that only touches a strip: by its closed side it has it, by its open one it has not.
         plain = ((1, ()), (pt(1),), pt(0))
-        self.assertEqual(strips(plain, (1, (((2,), 1), ((-2,), -1))), 1), [((0,), stretch(Fraction(1, 2), Fraction(1, 2)))])
+        self.assertEqual(strips(plain, (1, (((2,), 1), ((-2,), -1))), 1),
+            [((0,), stretch(Fraction(1, 2), Fraction(1, 2)))])
         self.assertIsNone(strip_standing(plain, (1, (((2,), 1), ((-2,), -1))), 1, (1,)))
         self.assertEqual(strip_standing(plain, (1, (((2,), 1), ((-2,), -1))), 1, (0,)), pt(Fraction(1, 2)))
         self.assertEqual([t for t, _ in strips(plain, (1, (((2,), 3), ((-2,), -1))), 1)], [(0,), (1,)])
@@ -210,7 +217,8 @@ class TestStrips(unittest.TestCase):
                     self.assertIs(x is None, t not in [one for one, _ in due])
 
     def test_rounded_wishes(self):
-        table = ((rough(0, 2), (pt(1),), pt(Fraction(1, 4))), ((1, ()), (pt(-1),), pt(0)), (rough(2, 3), (pt(0),), pt(Fraction(3, 2))))
+        table = ((rough(0, 2), (pt(1),), pt(Fraction(1, 4))), ((1, ()), (pt(-1),), pt(0)),
+            (rough(2, 3), (pt(0),), pt(Fraction(3, 2))))
         self.assertEqual(unchanged(self, rounded_wishes, table, 1, pt(Fraction(1, 4))), [(0, pt(0)), (1, pt(0))])
         self.assertEqual(rounded_wishes(table, 1, pt(2)), [(0, pt(2)), (1, pt(-2)), (2, pt(1))])
         self.assertEqual(rounded_wishes(table, 2, pt(2)), [(0, pt(2)), (1, pt(-2)), (2, pt(Fraction(3, 2)))])
@@ -233,7 +241,8 @@ class TestFaults(unittest.TestCase):
         self.assertIsNone(first_fault(STAND, room, NEAR, BACK, 2))
         self.assertEqual(unchanged(self, least_figures, STAND, room, NEAR, BACK, 5), 2)
         self.assertIsNone(least_figures(STAND, room, NEAR, BACK, 1))
-        for x, shown in ((Fraction(1, 2), True), (Fraction(74, 100), True), (Fraction(3, 4), False), (Fraction(1, 3), False), (1, False)):
+        for x, shown in ((Fraction(1, 2), True), (Fraction(74, 100), True), (Fraction(3, 4), False),
+                (Fraction(1, 3), False), (1, False)):
             self.assertIs(shows_fault(STAND, room, NEAR, BACK, 1, ("next", 0, (-1,), pt(x), ())), shown)
 
     def test_even_figures_alone(self):
@@ -241,7 +250,8 @@ class TestFaults(unittest.TestCase):
         plant = ((pt(0),), (pt(1),), ((),), pt(0), rough(0, 1), (0, ()))
         half = (1, (((2,), 1), ((-2,), -1)))
         table = ((rough(0, 0), (pt(0),), pt(Fraction(1, 2))),)
-        self.assertEqual([first_fault(plant, rough(0, 0), half, table, q) is None for q in range(1, 9)], [False, True] * 4)
+        self.assertEqual([first_fault(plant, rough(0, 0), half, table, q) is None for q in range(1, 9)],
+            [False, True] * 4)
         self.assertEqual(least_figures(plant, rough(0, 0), half, table, 60), 2)
         self.assertIsNone(least_figures(plant, rough(0, 0), half, table, 1))
         self.assertIsNone(least_figures(plant, rough(0, 0), rough(2, 2), table, 60))
@@ -318,13 +328,16 @@ class TestFaults(unittest.TestCase):
 
     def test_anything(self):
         for odd in ODD:
-            for value in (odd, ("next", odd, (-1,), pt(Fraction(1, 2)), ()), ("next", 0, odd, pt(Fraction(1, 2)), ()), ("next", 0, (-1,), odd, ()),
-                          ("next", 0, (-1,), pt(Fraction(1, 2)), odd), ("next", 0, (odd,), pt(Fraction(1, 2)), ()), ("hole", odd), ("wish", 0, (-1,), odd)):
+            for value in (odd, ("next", odd, (-1,), pt(Fraction(1, 2)), ()), ("next", 0, odd, pt(Fraction(1, 2)), ()),
+                    ("next", 0, (-1,), odd, ()),
+                          ("next", 0, (-1,), pt(Fraction(1, 2)), odd), ("next", 0, (odd,), pt(Fraction(1, 2)), ()),
+                          ("hole", odd), ("wish", 0, (-1,), odd)):
                 due = is_shown(STAND, rough(-1, 1), NEAR, BACK, 1, value, ("next", 0, (-1,)))
                 self.assertIs(shows_fault(STAND, rough(-1, 1), NEAR, BACK, 1, value), due)
                 self.assertIs(shows_fault(STAND, rough(-1, 1), NEAR, BACK, 2, value), False)
         # True is not the number 1.
-        self.assertFalse(shows_fault(STAND, rough(-1, 1), NEAR, BACK * 2, 1, ("next", False, (-1,), pt(Fraction(1, 2)), ())))
+        self.assertFalse(shows_fault(STAND, rough(-1, 1), NEAR, BACK * 2, 1,
+            ("next", False, (-1,), pt(Fraction(1, 2)), ())))
 
 
 class TestErrors(unittest.TestCase):
@@ -387,7 +400,8 @@ class TestErrors(unittest.TestCase):
 
     def test_just_within_in_time(self):
         told = seeded(516)
-        rows = tuple(((told.randint(-10 ** 6, 10 ** 6), told.randint(-10 ** 6, 10 ** 6), told.randint(-10 ** 6, 10 ** 6)), 10 ** 6) for _ in range(6))
+        rows = tuple(((told.randint(-10 ** 6, 10 ** 6), told.randint(-10 ** 6, 10 ** 6),
+            told.randint(-10 ** 6, 10 ** 6)), 10 ** 6) for _ in range(6))
         room = (3, cube(3)[1] + rows)
         lines = tuple(pt(*[Fraction(told.randint(-10 ** 6, 10 ** 6), 2 * 10 ** 5) for _ in range(3)]) for _ in range(2))
         table = ((cube(3, -2, 2), lines[:1], pt(0)), ((3, rows[:2]), lines[1:], pt(Fraction(1, 3))))

@@ -35,13 +35,15 @@ def points_due(room, q):
     ends = corners_by_trying(room)
     if not ends:
         return []
-    ranges = [range(math.ceil(q * min(x[k] for x in ends)), math.floor(q * max(x[k] for x in ends)) + 1) for k in range(room[0])]
+    ranges = [range(math.ceil(q * min(x[k] for x in ends)), math.floor(q * max(x[k] for x in ends)) + 1)
+        for k in range(room[0])]
     every = [[Fraction(m, q) for m in t] for t in itertools.product(*ranges)]
     return [from_numbers(x) for x in every if is_within(room, x)]
 
 
 def rooms(told, many):
-    found = [CORNERED, THIN, cube(1, 1, 1), never(2), rough(1, 0), (0, ()), (0, (((), -1),)), simplex(3), cross(3), (2, THIN[1] + (((10, -1), 0), ((-10, 1), 0))),
+    found = [CORNERED, THIN, cube(1, 1, 1), never(2), rough(1, 0), (0, ()), (0, (((), -1),)), simplex(3), cross(3),
+        (2, THIN[1] + (((10, -1), 0), ((-10, 1), 0))),
              (1, (((3,), 1), ((-3,), -1))), (1, (((3,), 2), ((-3,), -1)))]
     for _ in range(many):
         n = told.randint(1, 3)
@@ -57,7 +59,8 @@ def rooms(told, many):
 
 class TestAround(unittest.TestCase):
     def test_example(self):
-        self.assertEqual([tuple(numbers(x)) for x in corners(unchanged(self, around, CORNERED, 1))], [(0, 0), (0, 1), (1, 0)])
+        self.assertEqual([tuple(numbers(x)) for x in corners(unchanged(self, around, CORNERED, 1))],
+            [(0, 0), (0, 1), (1, 0)])
         self.assertEqual(around(CORNERED, 2), lean(CORNERED))
         self.assertEqual(around(CORNERED, 3), lean(CORNERED))
 
@@ -87,7 +90,8 @@ class TestAround(unittest.TestCase):
                 n = room[0]
                 if corners_by_trying(room) and n:
                     some = [tuple(told.randint(-s, s) for _ in range(n)) for _ in range(5)]
-                    other = (n, tuple((a, math.ceil(max(product_of(a, x) for x in corners_by_trying(room)))) for a in some))
+                    other = (n, tuple((a, math.ceil(max(product_of(a, x) for x in corners_by_trying(room))))
+                        for a in some))
                     self.assertTrue(is_inside(found, other))
 
     def test_too_great(self):
@@ -124,8 +128,10 @@ class TestGrids(unittest.TestCase):
         half = Fraction(1, 2)
         self.assertEqual(unchanged(self, grid_points, CORNERED, 2), [pt(0, 0), pt(0, half), pt(half, 0), pt(1, 0)])
         self.assertEqual(unchanged(self, grid_count, CORNERED, 2), 4)
-        for point, due in [(pt(0, half), pt(0, half)), (pt(0, Fraction(51, 100)), pt(half, 0)), (pt(-9, 99), pt(0, 0)), (pt(half, Fraction(1, 4)), pt(1, 0)),
-                           (pt(1, 0), pt(1, 0)), (pt(1, Fraction(1, 99)), None), (pt(2, -5), None), (pt(1, -5), pt(1, 0))]:
+        for point, due in [(pt(0, half), pt(0, half)), (pt(0, Fraction(51, 100)), pt(half, 0)), (pt(-9, 99), pt(0, 0)),
+                (pt(half, Fraction(1, 4)), pt(1, 0)),
+                           (pt(1, 0), pt(1, 0)), (pt(1, Fraction(1, 99)), None), (pt(2, -5), None),
+                           (pt(1, -5), pt(1, 0))]:
             self.assertEqual(unchanged(self, grid_from, CORNERED, 2, point), due)
         self.assertEqual(grid_points(never(2), 3), [])
         self.assertIsNone(grid_from(never(2), 3, pt(0, 0)))
@@ -147,9 +153,12 @@ class TestGrids(unittest.TestCase):
                     self.assertEqual(unchanged(self, grid_from, room, q, from_numbers(x)), first[0] if first else None)
 
     def test_errors(self):
-        for room, q, error in [(rough(0, 19999), 1, None), (rough(0, 20000), 1, TooGreat), (cube(2, 0, 140), 1, None), (cube(2, 0, 141), 1, TooGreat),
-                               ((1, ()), 1, Unbounded), ((2, (((1, 0), 10 ** 6), ((-1, 0), 0))), 1, Unbounded), ((1, (((2,), 39999), ((-2,), 1))), 1, None),
-                               ((1, (((60,), 19999), ((-60,), 0))), 60, None), ((1, (((60,), 20000), ((-60,), 0))), 60, TooGreat)]:
+        for room, q, error in [(rough(0, 19999), 1, None), (rough(0, 20000), 1, TooGreat), (cube(2, 0, 140), 1, None),
+                (cube(2, 0, 141), 1, TooGreat),
+                               ((1, ()), 1, Unbounded), ((2, (((1, 0), 10 ** 6), ((-1, 0), 0))), 1, Unbounded),
+                               ((1, (((2,), 39999), ((-2,), 1))), 1, None),
+                               ((1, (((60,), 19999), ((-60,), 0))), 60, None),
+                               ((1, (((60,), 20000), ((-60,), 0))), 60, TooGreat)]:
             for call, args in ((grid_points, ()), (grid_count, ()), (grid_from, (pt(*[0] * room[0]),))):
                 if error:
                     self.assertRaises(error, call, room, q, *args)
@@ -160,5 +169,6 @@ class TestGrids(unittest.TestCase):
         # The box counts, not the room; where no integer lies between its ends it has none, however wide it is else.
         slant = (2, (((1, -1), 0), ((-1, 1), 0), ((1, 0), 150), ((-1, 0), 0)))
         self.assertRaises(TooGreat, grid_count, slant, 1)
-        flat = (3, (((1, 0, 0), 10 ** 6), ((-1, 0, 0), 0), ((0, 1, 0), 10 ** 6), ((0, -1, 0), 0), ((0, 0, 3), 2), ((0, 0, -3), -1)))
+        flat = (3, (((1, 0, 0), 10 ** 6), ((-1, 0, 0), 0), ((0, 1, 0), 10 ** 6), ((0, -1, 0), 0), ((0, 0, 3), 2),
+            ((0, 0, -3), -1)))
         self.assertEqual([grid_count(flat, 1), grid_points(flat, 1), grid_from(flat, 1, pt(0, 0, 0))], [0, [], None])

@@ -93,7 +93,8 @@ def line_referee(plant, walls, value):
     if fault is not None:
         return fault
     found = []
-    for word, weights, form, most in (("low", value[4], [-1, 0], -number(value[1])), ("high", value[5], [0, 1], number(value[2]))):
+    for word, weights, form, most in (("low", value[4], [-1, 0], -number(value[1])),
+            ("high", value[5], [0, 1], number(value[2]))):
         told_form, told_sum = referees.sums(room, weights)
         found += [(word,)] * (told_form != form or told_sum > most)
     return referees.first(found)
@@ -176,7 +177,8 @@ class TestStretch(unittest.TestCase):
                 for x in range(-8, 20):
                     self.assertTrue(told_walls is None or is_lost(plant, told_walls, Fraction(x, 2)), (plant, walls, x))
                 continue
-            low, high = [number(x[0]) for x in (keep_paper(plant, walls, found)[1][0][0], keep_paper(plant, walls, found)[1][-1][0])]
+            low, high = [number(x[0]) for x in (keep_paper(plant, walls, found)[1][0][0],
+                keep_paper(plant, walls, found)[1][-1][0])]
             for k in range(5):
                 x = low + (high - low) * Fraction(k, 4)
                 self.assertTrue(is_back(plant, [x], found))
@@ -219,13 +221,18 @@ class TestPapers(unittest.TestCase):
         inner = ((inner[0][0], pt(1)), (inner[1][0], pt(-1)))
         zeros = ((0, 1),) * 6
         for value, fault in [
-                (paper, None), (("kept", high, low) + paper[3:], ("form",)), (("kept", low, high, pairs, lows), ("form",)),
-                (("kept", low, high, pairs, lows[:5], highs), ("form",)), (("kept", low, high, pairs, lows, highs + ((0, 1),)), ("form",)),
-                (("kept", low, high, pairs[:1], lows, highs), ("lacks", (high,))), (("kept", low, high, pairs[::-1], lows, highs), ("spare", 1)),
+                (paper, None), (("kept", high, low) + paper[3:], ("form",)),
+                (("kept", low, high, pairs, lows), ("form",)),
+                (("kept", low, high, pairs, lows[:5], highs), ("form",)),
+                (("kept", low, high, pairs, lows, highs + ((0, 1),)), ("form",)),
+                (("kept", low, high, pairs[:1], lows, highs), ("lacks", (high,))),
+                (("kept", low, high, pairs[::-1], lows, highs), ("spare", 1)),
                 (("kept", low, high, (pairs[0], (pt(1), pt(-2))), lows, highs), ("wish", 1)),
                 (("kept", low, high, (pairs[0], (pt(1), pt(0))), lows, highs), ("out", 1, pt(0))),
-                (("kept", low, high, pairs, highs, highs), ("low",)), (("kept", low, high, pairs, lows, lows), ("high",)),
-                (("kept", low, high, pairs, zeros, zeros), ("low",)), (("kept", low, high, pairs, lows, zeros), ("high",)),
+                (("kept", low, high, pairs, highs, highs), ("low",)),
+                (("kept", low, high, pairs, lows, lows), ("high",)),
+                (("kept", low, high, pairs, zeros, zeros), ("low",)),
+                (("kept", low, high, pairs, lows, zeros), ("high",)),
                 (("kept", fr(-1, 2), fr(1, 2), inner, lows, highs), ("low",)),
                 (("kept", low, high, pairs, ((-1, 1),) + lows[1:], highs), ("form",)),
                 (("kept", low, high, ((pt(-1),),), lows, highs), ("form",)), (("bare", zeros), ("bound",)),

@@ -98,7 +98,8 @@ def tallies_referee(plant, sight, room, target, value):
             for j, ((row, share), (ons, seens, blows)) in enumerate(zip(rows, triples)):
                 x = t[s + j * (n + k):s + j * (n + k) + n]
                 w = t[s + j * (n + k) + n:s + (j + 1) * (n + k)]
-                told += weighed(room, x, ons) + weighed(sight[1], slip_of(sight, x, y), seens) + weighed(plant[5], w, blows)
+                told += weighed(room, x, ons) + weighed(sight[1], slip_of(sight, x, y), seens) + weighed(plant[5], w,
+                    blows)
                 told -= share * product_of(row[0], moved(plant, x, [0] * plant[4][0], w))
             return told + bound
         alone, unknown = parts_of(every, s + len(rows) * (n + k))
@@ -109,7 +110,8 @@ def tallies_referee(plant, sight, room, target, value):
 
 def trips(told, many):
     """Plants with a sight, a room and a target, all with few rows."""
-    found = [(WALK, GLANCE, R, R), (WALK, GLANCE, LESS, LESS), (WALK, BLINDFOLD, R, R), (STILL, BLINDFOLD, cube(2), cube(2)),
+    found = [(WALK, GLANCE, R, R), (WALK, GLANCE, LESS, LESS), (WALK, BLINDFOLD, R, R),
+        (STILL, BLINDFOLD, cube(2), cube(2)),
              (STILL, BLINDFOLD, cube(2), cube(2, 0, 2)), (DRIFT, ((pt(1),), rough(0, 0)), rough(-3, 3), rough(-1, 1))]
     while len(found) < many:
         plant = some_plant(told, told.choice([1, 1, 2]))
@@ -226,10 +228,14 @@ class TestPapers(unittest.TestCase):
         half, wrong = Fraction(1, 2), (1, (1, 1), pt(9), pt(9))
         for value, fault in [
                 (BLOCK, None), ((pt(3), (one, wrong), nu), ("standing", 1)), ((pt(3), (one, two), nu), ("look", 0)),
-                ((pt(half), (one, (1, (1, 1), pt(half), pt(9))), nu), ("look", 0)), ((y, (one, (1, (1, 1), pt(half), pt(9))), pt(1, 0)), ("form",)),
-                ((y, ((0, (1, 1), pt(0), pt(9)), two), nu), ("gust", 0)), ((y, (one, (1, (2, 1), pt(half), pt(half))), nu), ("unknown",)),
-                ((y, ((0, (1, 1), pt(0), pt(0)), two), nu), ("sum",)), ((y, (one,), nu), ("unknown",)), ((y, (), nu), ("sum",)),
-                ((y, (two, one), nu), ("form",)), ((y, (one, one), nu), ("form",)), (((), (one, two), nu), ("form",)), ((y, (one, two), pt(0)), ("form",)),
+                ((pt(half), (one, (1, (1, 1), pt(half), pt(9))), nu), ("look", 0)),
+                ((y, (one, (1, (1, 1), pt(half), pt(9))), pt(1, 0)), ("form",)),
+                ((y, ((0, (1, 1), pt(0), pt(9)), two), nu), ("gust", 0)),
+                ((y, (one, (1, (2, 1), pt(half), pt(half))), nu), ("unknown",)),
+                ((y, ((0, (1, 1), pt(0), pt(0)), two), nu), ("sum",)), ((y, (one,), nu), ("unknown",)),
+                ((y, (), nu), ("sum",)),
+                ((y, (two, one), nu), ("form",)), ((y, (one, one), nu), ("form",)), (((), (one, two), nu), ("form",)),
+                ((y, (one, two), pt(0)), ("form",)),
                 ((y, (one,), pt(10, 0)), ("sum",)),
                 ((y, (one, two)), ("form",)), (list(BLOCK), ("form",)), ((y, (one, two), pt(-1, 0)), ("form",))]:
             self.judged(value, fault)
@@ -247,13 +253,17 @@ class TestPapers(unittest.TestCase):
         judged(good, None)
         zero = ((pt(0, 0),) * 3,)
         for value, fault in [
-                (good[:2], ("form",)), (good + good[:1], ("form",)), ((zero * 2,) + good[1:], ("sum", 0)), (good[:1] + (zero,) + good[2:], ("sum", 1)),
-                (good[:2] + (zero,), ("sum", 2)), (good[:1] + (zero, zero), ("sum", 1)), ((zero,) + good[1:], ("form",)), ((zero, zero, zero), ("form",)),
-                (good[:2] + ((pt(0, 0), pt(0, 0)),), ("form",)), (good[:2] + (((pt(0, -1), pt(0, 0), pt(0, 0)),),), ("form",)),
+                (good[:2], ("form",)), (good + good[:1], ("form",)), ((zero * 2,) + good[1:], ("sum", 0)),
+                (good[:1] + (zero,) + good[2:], ("sum", 1)),
+                (good[:2] + (zero,), ("sum", 2)), (good[:1] + (zero, zero), ("sum", 1)),
+                ((zero,) + good[1:], ("form",)), ((zero, zero, zero), ("form",)),
+                (good[:2] + ((pt(0, 0), pt(0, 0)),), ("form",)),
+                (good[:2] + (((pt(0, -1), pt(0, 0), pt(0, 0)),),), ("form",)),
                 ((zero * 2, zero, (((0, 1),),)), ("form",)), (list(good), ("form",))]:
             judged(value, fault)
         for odd in ODD:
-            for value in (odd, (odd,) + good[1:], good[:2] + ((odd,),), good[:2] + (((odd, pt(0, 0), pt(0, 0)),),), good[:2] + ((good[2][0][:2] + (odd,),),)):
+            for value in (odd, (odd,) + good[1:], good[:2] + ((odd,),), good[:2] + (((odd, pt(0, 0), pt(0, 0)),),),
+                    good[:2] + ((good[2][0][:2] + (odd,),),)):
                 judged(value, tallies_referee(WALK, GLANCE, R, R, value))
 
 
@@ -262,9 +272,12 @@ class TestFunnels(unittest.TestCase):
         walls = rough(-2, 2)
         for rooms, goal, due in [
                 ((HALF, R), R, None), ((HALF,), R, None), ((rough(-2, 2), R), R, ("look", 0)), ((HALF, R, R), R, None),
-                ((rough(-2, 2), R, HALF), HALF, ("look", 0)), ((HALF, R, HALF), HALF, ("look", 1)), ((HALF, R), HALF, ("goal", pt(-1))),
-                ((rough(0, 3), rough(-5, 9), R), R, ("walls", 0, pt(3))), ((R, rough(-5, 9)), HALF, ("walls", 1, pt(-5))),
-                ((rough(-2, 2), rough(-2, 2)), rough(-2, 1), ("goal", pt(2))), ((rough(3, 3),), R, ("walls", 0, pt(3)))]:
+                ((rough(-2, 2), R, HALF), HALF, ("look", 0)), ((HALF, R, HALF), HALF, ("look", 1)),
+                ((HALF, R), HALF, ("goal", pt(-1))),
+                ((rough(0, 3), rough(-5, 9), R), R, ("walls", 0, pt(3))),
+                ((R, rough(-5, 9)), HALF, ("walls", 1, pt(-5))),
+                ((rough(-2, 2), rough(-2, 2)), rough(-2, 1), ("goal", pt(2))),
+                ((rough(3, 3),), R, ("walls", 0, pt(3)))]:
             self.assertEqual(unchanged(self, funnel_fault, WALK, GLANCE, rooms, walls, goal), due)
             self.assertEqual(funnel_fault(WALK, GLANCE, list(rooms), walls, goal), due)
         self.assertEqual(funnel_fault(WALK, GLANCE, (HALF,), never(1), R), ("walls", 0, pt(Fraction(-1, 2))))
@@ -288,14 +301,16 @@ class TestFunnels(unittest.TestCase):
             fault = unchanged(self, funnel_fault, plant, sight, rooms, walls, target)
             self.assertEqual(fault, referees.first(found))
             faults[fault and fault[0]] = True
-            self.assertEqual(unchanged(self, is_seen_kept, plant, sight, room), look_block(plant, sight, room, room) is None)
+            self.assertEqual(unchanged(self, is_seen_kept, plant, sight, room),
+                look_block(plant, sight, room, room) is None)
         self.assertEqual(set(faults), {None, "walls", "goal", "look"})
 
 
 class TestErrors(unittest.TestCase):
     def calls(self, plant, sight, room, target):
         args = (plant, sight, room, target)
-        return [(look_block, args), (look_tallies, args), (judge_look_tallies, args + (None,)), (judge_look_block, args + (None,))]
+        return [(look_block, args), (look_tallies, args), (judge_look_tallies, args + (None,)),
+            (judge_look_block, args + (None,))]
 
     def test_rooms(self):
         far = (1, (((1,), 0),))
@@ -320,7 +335,8 @@ class TestErrors(unittest.TestCase):
             self.assertRaises(TooGreat, is_seen_kept, WALK, GLANCE, room)
             for call, args in self.calls(WALK, GLANCE, never(1), room)[:3]:
                 self.assertRaises(TooGreat, call, *args)
-            self.assertRaises(TooGreat, funnel_fault, WALK, GLANCE, (never(1), R, room), R, R)
+            for rooms in ((never(1), R, room), (never(1), room, R), (never(1), room)):
+                self.assertRaises(TooGreat, funnel_fault, WALK, GLANCE, rooms, R, R)
         self.assertRaises(Bare, judge_look_block, WALK, GLANCE, never(1), nine, None)
         self.assertEqual(judge_look_block(WALK, GLANCE, R, nine, None), ("form",))
         self.assertIsNone(look_block(WALK, GLANCE, nine, R))

@@ -179,7 +179,8 @@ class TestBack(unittest.TestCase):
         self.assertEqual(mode_back(TURNED, "heard", WIDE, (1, (((1,), 1),))), stretch(-9, 2))
         self.assertEqual(mode_back(TURNED, "heard", WIDE, (1, ())), stretch(-9, 9))
         self.assertEqual(mode_back(PUSHED, "heard", rough(-4, 4), rough(-4, 4)), stretch(-1, 1))
-        self.assertEqual(unchanged(self, mode_levels, TURNED, "heard", WIDE, R, 2), (stretch(-1, 1), stretch(-2, 2), stretch(-3, 3)))
+        self.assertEqual(unchanged(self, mode_levels, TURNED, "heard", WIDE, R, 2),
+            (stretch(-1, 1), stretch(-2, 2), stretch(-3, 3)))
         self.assertEqual(mode_levels(TURNED, "hid", WIDE, R, 2), (stretch(-1, 1),) * 3)
         self.assertEqual(mode_levels(TURNED, "hid", WIDE, R, 0), (stretch(-1, 1),))
 
@@ -255,7 +256,8 @@ class TestRows(unittest.TestCase):
             n = walls[0]
             found = mode_back(modes, kind, walls, below)
             rows = list(found[1][:3]) + [(tuple(2 * k for k in a), 2 * b + 1) for a, b in found[1][:1]]
-            rows += [(tuple(told.randint(-2, 2) for _ in range(n)), told.randint(-3, 9)), ((0,) * n, told.randint(-1, 1))]
+            rows += [(tuple(told.randint(-2, 2) for _ in range(n)), told.randint(-3, 9)),
+                ((0,) * n, told.randint(-1, 1))]
             for row in rows:
                 args = (modes, kind, walls, below, row)
                 paper = unchanged(self, mode_row_paper, *args)
@@ -298,16 +300,24 @@ class TestRows(unittest.TestCase):
         self.judged("hid", ((1,), 1), good, None)
         self.judged("hid", ((1,), 0), good, ("sum",))
         for value, fault in [
-                (((one, two[:3]), zeros, lam), ("form",)), (((one, (2,) + two[1:]), zeros, lam), ("form",)), (((one, (1, 2) + two[2:]), zeros, lam), ("form",)),
-                (((one, (1, 0, (1, 2), ())), zeros, lam), ("form",)), (((one, two), zeros[:1], lam), ("form",)), (((one, two), (pt(0), pt(0)), lam), ("form",)),
-                (((one, two), zeros, pt(0)), ("form",)), (((one, two), zeros), ("form",)), ([(one, two), zeros, lam], ("form",)),
-                (((one[:3] + (pt(9),), (1, 0, fr(0), pt(0))), (pt(-1, 0), pt(0, 0)), lam), ("part", 1)), (((one, (1, 0, fr(-1), pt(9))), zeros, lam), ("part", 1)),
-                (((one, two[:3] + (pt(9),)), (pt(-1, 0), pt(0, 0)), lam), ("gust", 1)), (((one, two), (pt(0, 0), pt(0, -1)), pt(-1, 0)), ("weight", 1, 1)),
-                (((one, two), (pt(0, -2), pt(-1, 0)), lam), ("weight", 0, 1)), (((one, two), (pt(1, 0), pt(0, 0)), pt(0, -1)), ("wall", 1)),
+                (((one, two[:3]), zeros, lam), ("form",)), (((one, (2,) + two[1:]), zeros, lam), ("form",)),
+                (((one, (1, 2) + two[2:]), zeros, lam), ("form",)),
+                (((one, (1, 0, (1, 2), ())), zeros, lam), ("form",)), (((one, two), zeros[:1], lam), ("form",)),
+                (((one, two), (pt(0), pt(0)), lam), ("form",)),
+                (((one, two), zeros, pt(0)), ("form",)), (((one, two), zeros), ("form",)),
+                ([(one, two), zeros, lam], ("form",)),
+                (((one[:3] + (pt(9),), (1, 0, fr(0), pt(0))), (pt(-1, 0), pt(0, 0)), lam), ("part", 1)),
+                (((one, (1, 0, fr(-1), pt(9))), zeros, lam), ("part", 1)),
+                (((one, two[:3] + (pt(9),)), (pt(-1, 0), pt(0, 0)), lam), ("gust", 1)),
+                (((one, two), (pt(0, 0), pt(0, -1)), pt(-1, 0)), ("weight", 1, 1)),
+                (((one, two), (pt(0, -2), pt(-1, 0)), lam), ("weight", 0, 1)),
+                (((one, two), (pt(1, 0), pt(0, 0)), pt(0, -1)), ("wall", 1)),
                 (((one,), zeros, pt(1, 0)), ("wish", 0, 0)), (((one, two), (pt(1, 0), pt(0, 1)), pt(1, 0)), ("row", 0)),
-                (((one, two), (pt(0, 0), pt(0, 1)), pt(1, 0)), ("wish", 0, 0)), (((one, two), zeros, pt(1, 0)), ("row", 0)),
+                (((one, two), (pt(0, 0), pt(0, 1)), pt(1, 0)), ("wish", 0, 0)),
+                (((one, two), zeros, pt(1, 0)), ("row", 0)),
                 (((one, two), zeros, pt(1, 1)), ("sum",)), (((one, two), (pt(1, 1), pt(0, 0)), lam), ("sum",)),
-                (((two, one), zeros, lam), None), (((one, (1, 0, fr(1, 4), pt(0)), (1, 0, fr(1, 4), pt(0))), zeros, lam), None)]:
+                (((two, one), zeros, lam), None), (((one, (1, 0, fr(1, 4), pt(0)), (1, 0, fr(1, 4), pt(0))), zeros,
+                lam), None)]:
             self.judged("hid", ((1,), 1), value, fault)
         # Heard, each mode's wish must fall out by itself.
         self.judged("heard", ((1,), 1), good, ("wish", 0, 0))
@@ -318,8 +328,10 @@ class TestRows(unittest.TestCase):
         self.judged("heard", ((1,), 2), fit, None)
         self.judged("heard", ((2,), 2), fit, ("row", 0))
         for odd in ODD:
-            for value in [odd, (odd, zeros, lam), ((one, two), odd, lam), ((one, two), zeros, odd), ((one, odd), zeros, lam),
-                          ((one, two), (odd, pt(0, 0)), lam)] + [((one[:k] + (odd,) + one[k + 1:], two), zeros, lam) for k in range(4)]:
+            for value in [odd, (odd, zeros, lam), ((one, two), odd, lam), ((one, two), zeros, odd),
+                    ((one, odd), zeros, lam),
+                          ((one, two), (odd, pt(0, 0)), lam)] + [((one[:k] + (odd,) + one[k + 1:], two), zeros, lam)
+                          for k in range(4)]:
                 for kind in KINDS:
                     self.judged(kind, ((1,), 1), value, row_referee(PAIR, kind, TEN, R, ((1,), 1), value))
 
@@ -366,7 +378,8 @@ class TestWishes(unittest.TestCase):
                 for m, plant in enumerate(modes):
                     u = some_standing(told, plant[4][0], 1)
                     out = outs(plant, x, u, room)
-                    self.assertEqual(mode_answer(modes, room, from_numbers(x), m, from_numbers(u)), from_numbers(out[0]) if out else None)
+                    self.assertEqual(mode_answer(modes, room, from_numbers(x), m, from_numbers(u)), from_numbers(out[0])
+                        if out else None)
         self.assertEqual(len(words), 4)
         self.assertTrue({"form", "wish", "gust"} <= set(faults), faults)
 
@@ -374,7 +387,8 @@ class TestWishes(unittest.TestCase):
         half = Fraction(1, 2)
         for kind, value, fault in [
                 ("heard", (pt(-half), pt(0)), None), ("heard", (pt(0),), ("form",)), ("heard", pt(0), ("form",)),
-                ("heard", (pt(0), ()), ("form",)), ("heard", [pt(0), pt(0)], ("form",)), ("heard", (pt(1), pt(2)), ("wish", 1)),
+                ("heard", (pt(0), ()), ("form",)), ("heard", [pt(0), pt(0)], ("form",)),
+                ("heard", (pt(1), pt(2)), ("wish", 1)),
                 ("heard", (pt(3), pt(2)), ("wish", 0)), ("heard", (pt(-half), pt(-1)), ("gust", 1, pt(0))),
                 ("heard", (pt(1), pt(-1)), ("gust", 0, pt(1))), ("hid", pt(-half), None), ("hid", pt(0, 0), ("form",)),
                 ("hid", (pt(0), pt(0)), ("form",)), ("hid", pt(2), ("wish", 0)), ("hid", pt(-1), ("gust", 0, pt(-1))),
@@ -384,7 +398,8 @@ class TestWishes(unittest.TestCase):
         for odd in ODD:
             for value in (odd, (odd, pt(0)), (pt(0), odd)):
                 for kind in KINDS:
-                    self.assertEqual(judge_mode_wish(PAIR, kind, R, pt(0), value), wish_referee(PAIR, kind, R, pt(0), value))
+                    self.assertEqual(judge_mode_wish(PAIR, kind, R, pt(0), value),
+                        wish_referee(PAIR, kind, R, pt(0), value))
 
 
 class TestKept(unittest.TestCase):
@@ -401,7 +416,8 @@ class TestKept(unittest.TestCase):
         self.assertEqual(mode_layers(TURNED, "hid", WIDE, 0), ("open", (stretch(-9, 9),)))
         self.assertEqual(mode_layers(TURNED, "hid", never(1), 0), ("bare", (never(1),)))
         mixed = (HALVE, DOUBLE)
-        self.assertEqual(mode_layers(mixed, "heard", TEN, 1), ("open", (stretch(-10, 10), stretch(Fraction(-11, 2), Fraction(11, 2)))))
+        self.assertEqual(mode_layers(mixed, "heard", TEN, 1),
+            ("open", (stretch(-10, 10), stretch(Fraction(-11, 2), Fraction(11, 2)))))
 
     def test_what_holds(self):
         told = seeded(498)
@@ -421,7 +437,8 @@ class TestKept(unittest.TestCase):
             self.assertEqual(rooms, every[:len(rooms)])
             bare = [i for i in range(most + 1) if is_bare(every[i])]
             closed = [i for i in range(most) if every[i] == every[i + 1]]
-            self.assertEqual((word, len(rooms) - 1), ("bare", bare[0]) if bare else ("closed", closed[0]) if closed else ("open", most))
+            self.assertEqual((word, len(rooms) - 1), ("bare", bare[0]) if bare else ("closed", closed[0])
+                if closed else ("open", most))
             words[word] = True
             if fault is None:
                 self.assertTrue(all(is_inside(room, one) for one in rooms))
@@ -555,8 +572,10 @@ class TestTooGreat(unittest.TestCase):
         for n, count in ((2, 4), (3, 2)):
             m = 4 - n
             modes = tuple((
-                tuple(pt(*[some() for _ in range(n)]) for _ in range(n)), tuple(pt(*[some() for _ in range(m)]) for _ in range(n)),
-                tuple(pt(some() / 9, some() / 9) for _ in range(n)), pt(*[0] * n), cube(m, -3, 3), cube(2)) for _ in range(count))
+                tuple(pt(*[some() for _ in range(n)]) for _ in range(n)),
+                tuple(pt(*[some() for _ in range(m)]) for _ in range(n)),
+                tuple(pt(some() / 9, some() / 9) for _ in range(n)), pt(*[0] * n), cube(m, -3, 3), cube(2))
+                for _ in range(count))
             walls, goal = cube(n, -20, 20), cube(n, -9, 9)
             for kind in KINDS:
                 found = mode_levels(modes, kind, walls, goal, 2)

@@ -83,7 +83,8 @@ def records(told, many):
 class TestPossible(unittest.TestCase):
     def test_example(self):
         for record, due in [((), stretch(-2, 2)), ((LOOK,), stretch(Fraction(-1, 2), Fraction(1, 2))),
-                            ((LOOK, WISH), stretch(0, 2)), ((LOOK, WISH, NEXT), stretch(Fraction(1, 2), Fraction(3, 2))),
+                            ((LOOK, WISH), stretch(0, 2)), ((LOOK, WISH, NEXT),
+                            stretch(Fraction(1, 2), Fraction(3, 2))),
                             ((LOOK, WISH, LATE), test_steps.never(1)), ((LOOK, WISH, LATE, WISH), test_steps.never(1)),
                             ((LOOK, WISH, LATE, WISH, LOOK), test_steps.never(1))]:
             self.assertEqual(unchanged(self, possible, WALK, GLANCE, ROOM, record), due)
@@ -211,7 +212,8 @@ class TestJudges(unittest.TestCase):
                 ((pt(0), (pt(0),), (pt(0), pt(0))), None), ((pt(half), (pt(-half),), (pt(-half), pt(0))), None),
                 ((pt(3), (pt(9),), (pt(9), pt(9))), ("start",)), ((pt(0), (pt(9),), (pt(9), pt(9))), ("slip", 0)),
                 ((pt(0), (pt(9),), (pt(half), pt(9))), ("look", 0)), ((pt(0), (pt(9),), (pt(0), pt(9))), ("gust", 0)),
-                ((pt(0), (pt(half),), (pt(0), pt(9))), ("slip", 1)), ((pt(0), (pt(half),), (pt(0), pt(half))), ("look", 1)),
+                ((pt(0), (pt(half),), (pt(0), pt(9))), ("slip", 1)),
+                ((pt(0), (pt(half),), (pt(0), pt(half))), ("look", 1)),
                 ((pt(0), (pt(half),), (pt(0), pt(-half))), ("end",)), ((pt(0), (pt(0),), (pt(0),)), ("form",)),
                 ((pt(0), (), (pt(0), pt(0))), ("form",)), ((pt(0), (pt(0),), (pt(0), ())), ("form",)),
                 ((pt(0, 0), (pt(0),), (pt(0), pt(0))), ("form",)), ((pt(0), (pt(0, 0),), (pt(0), pt(0))), ("form",)),
@@ -233,8 +235,10 @@ class TestJudges(unittest.TestCase):
         early = (pt(0, 0), (pt(0, Fraction(1, 2)),), (pt(Fraction(1, 2), 0), pt(0, 0)))
         first = (pt(1, 0), (pt(0, Fraction(1, 2)),), (pt(0, 0), pt(0, 0)))
         for row, value, fault in [
-                (((2,), 3), late, None), (((2,), 4), late, None), (((2,), 2), late, ("sum",)), (((1,), 2), late, ("sum",)),
-                (((1,), 2), early, None), (((1,), 1), early, ("sum",)), (((1,), 4), first, None), (((1,), 3), first, ("sum",)),
+                (((2,), 3), late, None), (((2,), 4), late, None), (((2,), 2), late, ("sum",)),
+                (((1,), 2), late, ("sum",)),
+                (((1,), 2), early, None), (((1,), 1), early, ("sum",)), (((1,), 4), first, None),
+                (((1,), 3), first, ("sum",)),
                 (None, late, ("sum",)), (((0,), 0), (pt(0, 0), (pt(0, 0),), (pt(0, 0), pt(0, 0))), None),
                 (((0,), -1), (pt(0, 0), (pt(0, 0),), (pt(0, 0), pt(0, 0))), ("sum",)),
                 (((2,), 3), (pt(0, -1),) + late[1:], ("form",)), (((2,), 3), (pt(0),) + late[1:], ("form",)),
@@ -247,7 +251,8 @@ class TestJudges(unittest.TestCase):
         self.tallied(None, none, None, (LOOK, WISH, pt(4)))
         self.tallied(None, none, ("sum",), (LOOK, WISH, pt(Fraction(29, 10))))
         for odd in ODD:
-            for value in (odd, (odd,) + late[1:], (late[0], odd, late[2]), (late[0], late[1], odd), (late[0], (odd,), late[2])):
+            for value in (odd, (odd,) + late[1:], (late[0], odd, late[2]), (late[0], late[1], odd),
+                    (late[0], (odd,), late[2])):
                 for row in (((2,), 3), None):
                     self.tallied(row, value, tally_referee(WALK, GLANCE, ROOM, (LOOK, WISH, NEXT), row, value))
 

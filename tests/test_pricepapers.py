@@ -118,7 +118,8 @@ class TestPaperPrice(unittest.TestCase):
     def test_by_hand(self):
         self.assertEqual(unchanged(self, paper_price, DRIFT, EFFORT, 1, pt(2), (pt(-2), ((), ()))), (3, 1))
         self.assertEqual(paper_price(DRIFT, EFFORT, 0, pt(Fraction(-1, 2)), ()), (1, 2))
-        self.assertEqual(paper_price(STILL, ((((1, 1), (), 0),), (((0, 0), -5),)), 2, pt(1, 2), ((), (((), ((),)),))), (1, 1))
+        self.assertEqual(paper_price(STILL, ((((1, 1), (), 0),), (((0, 0), -5),)), 2, pt(1, 2), ((), (((), ((),)),))),
+            (1, 1))
 
     def test_by_trying(self):
         told = seeded(431)
@@ -132,11 +133,13 @@ class TestPaperPrice(unittest.TestCase):
 
 class TestPapers(unittest.TestCase):
     def test_example(self):
-        self.assertEqual(unchanged(self, price_paper, DRIFT, SIX, ONE, EFFORT, 1, pt(2), (3, 1)), ("pays", (pt(-2), ((), ()))))
+        self.assertEqual(unchanged(self, price_paper, DRIFT, SIX, ONE, EFFORT, 1, pt(2), (3, 1)),
+            ("pays", (pt(-2), ((), ()))))
         self.assertEqual(unchanged(self, price_paper, DRIFT, SIX, ONE, EFFORT, 1, pt(2), (5, 2)), ("dear", EXAMPLE))
         self.assertIsNone(unchanged(self, judge_price, DRIFT, SIX, ONE, EFFORT, 1, pt(2), (5, 2), ("dear", EXAMPLE)))
         self.assertEqual(judge_price(DRIFT, SIX, ONE, EFFORT, 1, pt(2), (3, 1), ("dear", EXAMPLE)), ("there",))
-        self.assertEqual(judge_price(DRIFT, SIX, ONE, EFFORT, 1, pt(2), (5, 2), ("pays", (pt(-2), ((), ())))), ("more", (3, 1)))
+        self.assertEqual(judge_price(DRIFT, SIX, ONE, EFFORT, 1, pt(2), (5, 2), ("pays", (pt(-2), ((), ())))),
+            ("more", (3, 1)))
         self.assertEqual(price_paper(DRIFT, SIX, ONE, EFFORT, 0, pt(1), (1, 1)), ("pays", ()))
         self.assertEqual(price_paper(DRIFT, SIX, ONE, EFFORT, 0, pt(1), fr(9, 10)), ("dear", (((((1,), 0, 1),),),)))
         self.assertEqual(price_paper(DRIFT, SIX, ONE, EFFORT, 0, pt(2), (9, 1)), ("dear", (((((1,), 1),),),)))
@@ -189,27 +192,38 @@ class TestPapers(unittest.TestCase):
                 ((form, parts, mu, nu, pt(1, 0)), ("row", 0, 0)), ((((2,), 1, 1),) + FIRST[1:], ("row", 0, 0)),
                 ((((2,), 1, 2),) + FIRST[1:], ("there",)), ((((2,), 2, 2),) + FIRST[1:], None),
                 ((((2,), 3, 2),) + FIRST[1:], ("sum", 0, 0)),
-                ((((1,), 2, 1),) + FIRST[1:], ("sum", 0, 0)), ((form, ((0, (1, 1), pt(0)),), mu, nu, lam), ("sum", 0, 0)),
+                ((((1,), 2, 1),) + FIRST[1:], ("sum", 0, 0)),
+                ((form, ((0, (1, 1), pt(0)),), mu, nu, lam), ("sum", 0, 0)),
                 ((form, parts, mu, pt(1, 1), lam), ("sum", 0, 0)), ((form, parts, mu, nu, pt(1, 1)), ("sum", 0, 0)),
                 ((((1,), 0, 1),) + FIRST[1:], ("there",)), ((((1,), 1),) + FIRST[1:], ("form",)),
                 ((((1,), 1, 0),) + FIRST[1:], ("form",)), ((((1,), 1, True),) + FIRST[1:], ("form",)),
-                ((((1, 1), 1, 1),) + FIRST[1:], ("form",)), ((form, parts, nu, lam), ("form",)), (FIRST + (lam,), ("form",)),
-                ((form, ((1, (1, 1), pt(1)),), mu, nu, lam), ("form",)), ((form, ((0, (0, 1), pt(1)),), mu, nu, lam), ("form",)),
-                ((form, ((0, (1, 1), pt(1, 1)),), mu, nu, lam), ("form",)), ((form, parts, pt(0, -1), nu, lam), ("form",)),
+                ((((1, 1), 1, 1),) + FIRST[1:], ("form",)), ((form, parts, nu, lam), ("form",)),
+                (FIRST + (lam,), ("form",)),
+                ((form, ((1, (1, 1), pt(1)),), mu, nu, lam), ("form",)),
+                ((form, ((0, (0, 1), pt(1)),), mu, nu, lam), ("form",)),
+                ((form, ((0, (1, 1), pt(1, 1)),), mu, nu, lam), ("form",)),
+                ((form, parts, pt(0, -1), nu, lam), ("form",)),
                 ((form, parts, pt(1), nu, lam), ("form",)), ((form, parts, mu, pt(1), lam), ("form",)),
                 ((form, parts, mu, nu, pt(0, 0, 0)), ("form",))]:
             self.judged(("dear", ((entry,), last)), fault)
         for value, fault in [
-                (("dear", EXAMPLE[:1]), ("form",)), (("dear", ((), last)), ("form",)), (("dear", EXAMPLE + (last,)), ("form",)),
+                (("dear", EXAMPLE[:1]), ("form",)), (("dear", ((), last)), ("form",)),
+                (("dear", EXAMPLE + (last,)), ("form",)),
                 (("dear", ((FIRST,), ())), ("form",)), (("dear", ((FIRST,), ((((1,), 0, 2),),))), ("turn", 0, 0)),
                 (("dear", ((FIRST,), ((((2,), 0, 2),),))), ("last", 0)),
-                (("dear", ((FIRST,), last + ((((1,), 5, 1),),))), ("last", 1)), (("dear", ((FIRST,), last + ((((-1,), 0, 1),),))), None),
-                (("dear", ((FIRST,), last + ((((1,), 6),), (((1,), 1),)))), None), (("dear", ((FIRST,), last + ((((1,), 2),),))), ("last", 1)),
-                (("dear", ((FIRST,), last + ((((1,), 0, 2),),))), ("last", 1)), (("dear", ((FIRST,), last + ((((1,), 0, 0),),))), ("form",)),
-                (("dear", ((FIRST,), last + ((((1,), 6), ()),))), ("form",)), (("dear",), ("form",)), (("cheap", EXAMPLE), ("form",)),
+                (("dear", ((FIRST,), last + ((((1,), 5, 1),),))), ("last", 1)),
+                (("dear", ((FIRST,), last + ((((-1,), 0, 1),),))), None),
+                (("dear", ((FIRST,), last + ((((1,), 6),), (((1,), 1),)))), None),
+                (("dear", ((FIRST,), last + ((((1,), 2),),))), ("last", 1)),
+                (("dear", ((FIRST,), last + ((((1,), 0, 2),),))), ("last", 1)),
+                (("dear", ((FIRST,), last + ((((1,), 0, 0),),))), ("form",)),
+                (("dear", ((FIRST,), last + ((((1,), 6), ()),))), ("form",)), (("dear",), ("form",)),
+                (("cheap", EXAMPLE), ("form",)),
                 (["dear", EXAMPLE], ("form",)), (("pays", EXAMPLE), ("helm", "form", ())), (("pays",), ("form",)),
-                (("pays", (pt(-2), ((), ((),)))), ("helm", "form", (1,))), (("pays", (pt(-3), ((), ()))), ("helm", "wish", ())),
-                (("pays", (pt(0), ((), ()))), ("helm", "goal", (1,))), (("pays", (pt(-2), ((), ()))), ("more", (3, 1)))]:
+                (("pays", (pt(-2), ((), ((),)))), ("helm", "form", (1,))),
+                (("pays", (pt(-3), ((), ()))), ("helm", "wish", ())),
+                (("pays", (pt(0), ((), ()))), ("helm", "goal", (1,))),
+                (("pays", (pt(-2), ((), ()))), ("more", (3, 1)))]:
             self.judged(value, fault)
         self.judged(("pays", (pt(-2), ((), ()))), None, (3, 1))
         self.judged(("pays", (pt(-2), ((), ()))), ("helm", "wall", ()), (3, 1), pt(7))
@@ -236,8 +250,10 @@ class TestPapers(unittest.TestCase):
 
     def test_anything(self):
         for odd in ODD:
-            for value in [odd, ("pays", odd), ("dear", odd), ("dear", (odd,)), ("dear", (odd, EXAMPLE[1])), ("dear", (EXAMPLE[0], odd)),
-                          ("dear", ((odd,), EXAMPLE[1])), ("dear", (EXAMPLE[0], (odd,))), ("dear", (EXAMPLE[0], ((odd,),)))]:
+            for value in [odd, ("pays", odd), ("dear", odd), ("dear", (odd,)), ("dear", (odd, EXAMPLE[1])),
+                    ("dear", (EXAMPLE[0], odd)),
+                          ("dear", ((odd,), EXAMPLE[1])), ("dear", (EXAMPLE[0], (odd,))),
+                          ("dear", (EXAMPLE[0], ((odd,),)))]:
                 self.judged(value, price_referee(DRIFT, SIX, ONE, EFFORT, 1, pt(2), (5, 2), value))
             for k in range(5):
                 value = ("dear", ((FIRST[:k] + (odd,) + FIRST[k + 1:],), EXAMPLE[1]))
@@ -270,7 +286,8 @@ class TestTooGreat(unittest.TestCase):
     def test_papers_within(self):
         # 13 corners make 183 papers with two steps left, and 2,380 with three.
         wheel = (2, tuple((a, 10 ** 4) for a in (
-            (10, 0), (9, 3), (7, 7), (3, 9), (0, 10), (-3, 9), (-7, 7), (-9, 3), (-10, 0), (-7, -7), (0, -10), (7, -7), (3, -9))))
+            (10, 0), (9, 3), (7, 7), (3, 9), (0, 10), (-3, 9), (-7, 7), (-9, 3), (-10, 0), (-7, -7), (0, -10), (7, -7),
+            (3, -9))))
         blow = ((pt(0, 0), pt(0, 0)), ((), ()), (pt(1, 0), pt(0, 1)), pt(0, 0), (0, ()), wheel)
         free = ((((0, 0), (), 1),), (((0, 0), 0),))
         walls = cube(2, -9999, 9999)
@@ -294,7 +311,8 @@ class TestTime(unittest.TestCase):
             return Fraction(told.randint(-999999, 999999), 999983)
         plant = (tuple(pt(some(), some()) for _ in range(2)), tuple(pt(some(), some()) for _ in range(2)),
                  tuple(pt(some() / 4, some() / 4) for _ in range(2)), pt(0, 0), cube(2, -3, 3), cube(2))
-        cost = (tuple(((told.randint(-10 ** 6, 10 ** 6), 0), (told.randint(-10 ** 6, 10 ** 6), 1), 5) for _ in range(2)),
+        cost = (tuple(((told.randint(-10 ** 6, 10 ** 6), 0), (told.randint(-10 ** 6, 10 ** 6), 1), 5)
+            for _ in range(2)),
                 tuple(((told.randint(-10 ** 6, 10 ** 6), k), -k) for k in range(6)))
         walls, goal = cube(2, -20, 20), cube(2, -9, 9)
         found = price_levels(plant, walls, goal, cost, 4)

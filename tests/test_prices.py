@@ -180,15 +180,18 @@ class TestLean(unittest.TestCase):
                 ([((1,), 0, 1), ((1,), 0, 1)], (((1,), 0, 1),)), ([((2,), 4, 2), ((1,), 2, 1)], (((1,), 2, 1),)),
                 ([((1,), 0, 1), ((-1,), 0, 1), ((0,), 0, 1)], (((-1,), 0, 1), ((1,), 0, 1))),
                 ([((1,), 0, 1), ((-1,), 0, 1), ((0,), 1, 1)], (((-1,), 0, 1), ((0,), 1, 1), ((1,), 0, 1))),
-                ([((1,), 0, 1), ((3,), -4, 1)], (((1,), 0, 1),)), ([((1,), 0, 1), ((3,), -3, 1)], (((1,), 0, 1), ((3,), -3, 1))),
+                ([((1,), 0, 1), ((3,), -4, 1)], (((1,), 0, 1),)),
+                ([((1,), 0, 1), ((3,), -3, 1)], (((1,), 0, 1), ((3,), -3, 1))),
                 ([((1,), 0, 3), ((0,), -9, 1)], (((1,), 0, 3),)), ([((0,), -6, 4)], (((0,), -3, 2),))]:
             self.assertEqual(unchanged(self, lean_price, room, tuple(forms)), (room, due))
             self.assertEqual(lean_price(rough(-2, 2), list(forms)), (room, due))
         # In a flat room forms are told without the heads' columns; here x is y + 1.
         flat = (2, cube(2)[1] + (((1, -1), 1), ((-1, 1), -1)))
         self.assertEqual(lean_price(flat, (((1, 0), 0, 1),)), (lean(flat), (((0, 1), 1, 1),)))
-        self.assertEqual(lean_price(flat, (((1, 0), 0, 1), ((0, 1), 1, 1), ((2, -1), -1, 1))), (lean(flat), (((0, 1), 1, 1),)))
-        self.assertEqual(lean_price(cube(2, 1, 1), (((3, 5), 1, 2), ((0, 0), 5, 2))), (lean(cube(2, 1, 1)), (((0, 0), 9, 2),)))
+        self.assertEqual(lean_price(flat, (((1, 0), 0, 1), ((0, 1), 1, 1), ((2, -1), -1, 1))),
+            (lean(flat), (((0, 1), 1, 1),)))
+        self.assertEqual(lean_price(cube(2, 1, 1), (((3, 5), 1, 2), ((0, 0), 5, 2))),
+            (lean(cube(2, 1, 1)), (((0, 0), 9, 2),)))
         self.assertEqual(lean_price(never(2), ()), (never(2), ()))
         self.assertEqual(lean_price(rough(1, 0), (((1,), 0, 1),)), (never(1), ()))
         self.assertEqual(lean_price((0, ()), (((), 3, 2), ((), 4, 2))), ((0, ()), (((), 2, 1),)))
@@ -225,7 +228,8 @@ class TestPaying(unittest.TestCase):
         self.assertIsNone(cheapest(DRIFT, price[0], EFFORT, pt(3)))
         still = price_levels(STILL, cube(2), cube(2), ((((1, 0), (), 0),), (((0, 1), 2),)), 1)
         self.assertEqual(paying(STILL, still[0], ((((1, 0), (), 0),), (((0, 1), 2),)), pt(1, 0), (3, 1)), (0, ()))
-        self.assertEqual(paying(STILL, still[0], ((((1, 0), (), 0),), (((0, 1), 2),)), pt(1, 0), (2, 1)), (0, (((), -1),)))
+        self.assertEqual(paying(STILL, still[0], ((((1, 0), (), 0),), (((0, 1), 2),)), pt(1, 0), (2, 1)),
+            (0, (((), -1),)))
         self.assertEqual(cheapest(STILL, still[0], ((((1, 0), (), 0),), (((0, 1), 2),)), pt(1, 0)), ())
 
     def test_by_standings(self):
@@ -242,12 +246,14 @@ class TestPaying(unittest.TestCase):
                 self.assertIs(wish is None, least is None)
                 if wish is not None:
                     self.assertEqual(self.paid(plant, cost, below, x, numbers(wish)), least)
-                for t in ([] if least is None else [least, least - Fraction(1, 7), least + Fraction(2, 3)]) + [Fraction(5)]:
+                for t in ([] if least is None else [least, least - Fraction(1, 7),
+                        least + Fraction(2, 3)]) + [Fraction(5)]:
                     found = unchanged(self, paying, plant, below, cost, from_numbers(x), fr(t))
                     self.assertEqual(found, lean(found))
                     self.assertIs(is_bare(found), least is None or least > t)
                     kinds[is_bare(found)] = True
-                    for u in points_within(found, told, 2)[:4] + points_within(plant[4], told, 3)[:4] + [some_standing(told, m, 1)]:
+                    for u in points_within(found, told, 2)[:4] + points_within(plant[4], told,
+                            3)[:4] + [some_standing(told, m, 1)]:
                         price = self.paid(plant, cost, below, x, u) if is_within(plant[4], u) else None
                         self.assertEqual(is_within(found, u), price is not None and price <= t)
         self.assertEqual(len(kinds), 2)
@@ -294,10 +300,17 @@ class TestWhatHolds(unittest.TestCase):
                 self.assertLessEqual(price_at(price, middle), (price_at(price, x) + price_at(price, y)) / 2)
             fewer = plant[:5] + ((plant[5][0], self.at_point(gusts_of(plant)[0])),)
             wider = (goal[0], tuple((a, b + 1) for a, b in goal[1]))
+            more = plant[:4] + ((plant[4][0], tuple((a, b + 1) for a, b in plant[4][1])),) + plant[5:]
+            dearer = (tuple((p, q, r + told.randint(0, 2)) for p, q, r in cost[0]) + cost[0],
+                cost[1] + ((cost[1][0][0], cost[1][0][1] + 1),))
+            ahead = self.priced(more, walls, goal, cost, many)
+            dear = self.priced(plant, walls, goal, dearer, many)
             some = self.priced(fewer, walls, goal, cost, many)
             wide = self.priced(plant, walls, wider, cost, many)
             for x in points:
                 self.assertLessEqual(price_at(some, x), price_at(price, x))
+                self.assertLessEqual(price_at(ahead, x), price_at(price, x))
+                self.assertLessEqual(price_at(price, x), price_at(dear, x))
                 if is_within(wide[0], x):
                     self.assertLessEqual(price_at(wide, x), price_at(price, x))
                 self.assertTrue(is_within(wide[0], x))
@@ -378,7 +391,8 @@ class TestTooGreat(unittest.TestCase):
         self.assertEqual(len(price_levels(stay, room, room, (free[0], many[:78]), 2)[2][1]), 78)
 
     def test_levels_and_paying(self):
-        self.assertRaises(TooGreat, price_levels, STILL, polygon(81), polygon(81), ((((0, 0), (), 0),), (((0, 0), 0),)), 0)
+        self.assertRaises(TooGreat, price_levels, STILL, polygon(81), polygon(81), ((((0, 0), (), 0),), (((0, 0), 0),)),
+            0)
         free = ((((0, 0), (), 0),), (((0, 0), 0),))
         # 80 rows are no more to be told with the one form beside them.
         self.assertRaises(TooGreat, price_levels, STILL, polygon(80), polygon(80), free, 0)

@@ -134,7 +134,8 @@ def shares_referee(plant, room, centre_told, value):
 def trips(told, many):
     """Plants with a room that has points, and a point of it."""
     found = [(DOUBLE, TEN, pt(0)), (HALVE, TEN, pt(0)), (PUSH, TEN, pt(0)), (DOUBLE, rough(0, 10), pt(0)),
-             (HALVE, rough(-10, 0), pt(0)), (SLIDE, cube(2), pt(0, 0)), (STILL, cube(2), pt(1, 1)), (DRIFT, TEN, pt(10)),
+             (HALVE, rough(-10, 0), pt(0)), (SLIDE, cube(2), pt(0, 0)), (STILL, cube(2), pt(1, 1)),
+             (DRIFT, TEN, pt(10)),
              (DRIFT, rough(3, 3), pt(3)), (FORTH, rough(0, 1), pt(0)), (TORN, rough(-1, 1), pt(0)),
              (APART, cross(2), pt(0, 0)), (APART, cross(2), pt(Fraction(1, 2), Fraction(1, 2)))]
     for _ in range(many):
@@ -297,7 +298,8 @@ class TestPapers(unittest.TestCase):
         self.judged(HALVE, TEN, pt(0), ("shares", low, zeros, None, ()), None)
         first, second, third, fourth = low
         for stop, fault in [
-                ((pt(-9),) + low[1:], ("corner", 0)), ((first, ((1, fr(1, 5), pt(-2)),), third, fourth), ("gust", 0, 0)),
+                ((pt(-9),) + low[1:], ("corner", 0)), ((first, ((1, fr(1, 5), pt(-2)),), third, fourth),
+                ("gust", 0, 0)),
                 ((first, second + ((0, fr(1, 5), pt(2)),), third, fourth), ("gust", 0, 1)),
                 ((pt(-9), ((1, fr(1, 5), pt(-2)),), third, fourth), ("corner", 0)),
                 ((first, ((1, fr(1, 5), pt(-2)),), pt(0, 0), fourth), ("gust", 0, 0)),
@@ -307,15 +309,18 @@ class TestPapers(unittest.TestCase):
                 ((first, (), pt(0, 0), (1, 1)), ("out", 0, 0, pt(-1))),
                 ((first, (), pt(1, 1), (1, 1)), ("out", 0, 0, pt(-1))),
                 ((first, second, third, (-1, 1)), ("form",)), ((first, second, third), ("form",)),
-                ((first, second, pt(-1, 0), fourth), ("form",)), ((first, ((2, fr(1, 5), pt(-1)),), third, fourth), ("form",)),
+                ((first, second, pt(-1, 0), fourth), ("form",)),
+                ((first, ((2, fr(1, 5), pt(-1)),), third, fourth), ("form",)),
                 ((first, ((1, fr(0), pt(-1)),), third, fourth), ("form",)),
                 ((pt(1, 1),) + low[1:], ("form",)), ((first, ((1, fr(1, 5), ()),), third, fourth), ("form",))]:
             self.judged(HALVE, TEN, pt(0), ("shares", stop, zeros, None, ()), fault)
         for value, fault in [
                 (("shares", low, zeros[:1], None, ()), ("form",)), (("shares", low, zeros, None, zeros), ("form",)),
                 (("shares", low, zeros, low, ()), ("form",)), (("shares", low, zeros, low, zeros), ("slope", 1)),
-                (("shares", low, (pt(1), pt(0)), None, ()), ("wish", 0, 0)), (("shares", low, (pt(0), pt(1)), None, ()), ("wish", 0, 1)),
-                (("shares", low, (pt(0), (0, 1)), None, ()), ("form",)), (("none", low), ("slope", 0)), (("none", low, low), ("form",)),
+                (("shares", low, (pt(1), pt(0)), None, ()), ("wish", 0, 0)),
+                (("shares", low, (pt(0), pt(1)), None, ()), ("wish", 0, 1)),
+                (("shares", low, (pt(0), (0, 1)), None, ()), ("form",)), (("none", low), ("slope", 0)),
+                (("none", low, low), ("form",)),
                 (("apart", low, low), ("slope", 1)), (("apart", low), ("form",)), (["none", low], ("form",))]:
             self.judged(HALVE, TEN, pt(0), value, fault)
 
@@ -335,8 +340,10 @@ class TestPapers(unittest.TestCase):
         none = shares_paper(PUSH, rough(0, 0), pt(0))
         self.assertEqual(none[0], "none")
         y, parts, nu, zero = none[1]
-        half = (y, tuple((i, fr(number(t) / 2), w) for i, t, w in parts), tuple(fr(number(t) / 2) for t in nu), fr(number(zero) / 2))
-        twice = (y, tuple((i, fr(number(t) * 2), w) for i, t, w in parts), tuple(fr(number(t) * 2) for t in nu), fr(number(zero) * 2))
+        half = (y, tuple((i, fr(number(t) / 2), w) for i, t, w in parts), tuple(fr(number(t) / 2) for t in nu),
+            fr(number(zero) / 2))
+        twice = (y, tuple((i, fr(number(t) * 2), w) for i, t, w in parts), tuple(fr(number(t) * 2) for t in nu),
+            fr(number(zero) * 2))
         self.judged(PUSH, rough(0, 0), pt(0), ("none", half), ("number",))
         self.judged(PUSH, rough(0, 0), pt(0), ("none", twice), None)
         word, one, other = shares_paper(APART, cross(2), pt(0, 0))
@@ -349,7 +356,8 @@ class TestPapers(unittest.TestCase):
 
     def test_anything(self):
         for odd in ODD:
-            for value in (odd, ("shares", odd, (), None, ()), ("none", odd), ("apart", odd, odd), ("none", (pt(10), odd, pt(0, 0), (0, 1))),
+            for value in (odd, ("shares", odd, (), None, ()), ("none", odd), ("apart", odd, odd),
+                    ("none", (pt(10), odd, pt(0, 0), (0, 1))),
                           ("none", (pt(10), (), odd, (0, 1))), ("none", (odd, (), pt(0, 0), (0, 1))),
                           ("none", (pt(10), (), pt(0, 0), odd)), ("none", (pt(10), (odd,), pt(0, 0), (0, 1)))):
                 self.judged(HALVE, TEN, pt(0), value, shares_referee(HALVE, TEN, pt(0), value))
@@ -409,6 +417,64 @@ class TestInner(unittest.TestCase):
         self.assertEqual(kept_shares(STILL, many, about), ((0, 1), None))
         self.assertEqual(share_at(STILL, many, about, (1, 3)), (1, 3))
         self.assertIsNone(judge_shares(STILL, many, about, shares_paper(STILL, many, about)))
+
+
+class TestGreatNumbers(unittest.TestCase):
+    """Where integers are great it is guessed where to begin; what is told must be as exact as elsewhere."""
+
+    def moved_points(self, told, many):
+        part = Fraction(1, 10 ** 60 + 7)
+        for plant, room, about in trips(told, many):
+            ends = corners_by_trying(room)
+            other = told.choice(ends)
+            yield plant, room, [x + part * (y - x) for x, y in zip(numbers(about), other)]
+
+    def test_shares(self):
+        told = seeded(408)
+        for plant, room, about in self.moved_points(told, 25):
+            for t in (Fraction(1, 2), Fraction(1), Fraction(10 ** 59, 3 * 10 ** 59 + 1)):
+                due = share_by_trying(plant, room, about, t)
+                self.assertEqual(share_at(plant, room, from_numbers(about), fr(t)), None if due is None else fr(due))
+
+    def test_kept(self):
+        told = seeded(409)
+        words = {}
+        for plant, room, about in self.moved_points(told, 40):
+            point = from_numbers(about)
+            kept, paper = kept_shares(plant, room, point), shares_paper(plant, room, point)
+            words[paper[0]] = True
+            self.assertIsNone(judge_shares(plant, room, point, paper))
+            self.assertIsNone(shares_referee(plant, room, point, paper))
+            self.assertIs(paper[0] == "shares", kept is not None)
+            if kept is not None:
+                self.assertTrue(is_kept_at(plant, room, about, number(kept[0])))
+                self.assertEqual(kept[1] is None, is_endless(plant, room, about))
+                if kept[1] is not None:
+                    self.assertTrue(is_kept_at(plant, room, about, number(kept[1])))
+                    self.assertFalse(is_kept_at(plant, room, about, number(kept[1]) + Fraction(1, 10 ** 99)))
+                if kept[0][0]:
+                    self.assertFalse(is_kept_at(plant, room, about, number(kept[0]) - Fraction(1, 10 ** 99)))
+        self.assertEqual(sorted(words), ["apart", "none", "shares"])
+
+    def test_centre_of_many_corners(self):
+        # The centre of many corners has coordinates of many figures; what is told about it is told in time.
+        told = seeded(410)
+        rows = []
+        while len(rows) < 40:
+            a = tuple(told.randint(-999, 999) for _ in range(3))
+            if any(a):
+                rows.append((a, 5 * int(sum(k * k for k in a) ** 0.5)))
+        room = lean((3, tuple(rows) + cube(3, -6, 6)[1]))
+        plant = (tuple(pt(*[Fraction(told.randint(-99, 99), 97) for _ in range(3)]) for _ in range(3)),
+                 tuple(pt(told.randint(-2, 2), 1) for _ in range(3)),
+                 tuple(pt(Fraction(1, 9), Fraction(1, 7)) for _ in range(3)), pt(0, 0, 0),
+                 cube(2, -3, 3), cube(2))
+        last, inner = inner_kept(plant, room, 0)
+        self.assertGreater(max(x[1] for x in centre(last)), 10 ** 200)
+        self.assertEqual(last, room)
+        self.assertIsNone(keep_fault(plant, room, inner))
+        paper = shares_paper(plant, last, centre(last))
+        self.assertIsNone(judge_shares(plant, last, centre(last), paper))
 
 
 class TestBackAndForth(unittest.TestCase):

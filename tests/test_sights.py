@@ -21,7 +21,8 @@ from tests.test_steps import never
 
 def rooms(told, many):
     """Sights with two rooms of their n."""
-    found = [(GLANCE, rough(-2, 2), rough(3, 4)), (GLANCE, rough(-2, 2), rough(4, 5)), (BLINDFOLD, rough(0, 1), rough(8, 9)),
+    found = [(GLANCE, rough(-2, 2), rough(3, 4)), (GLANCE, rough(-2, 2), rough(4, 5)),
+        (BLINDFOLD, rough(0, 1), rough(8, 9)),
              (((pt(1, 0),), (1, (((1,), 0), ((-1,), 0)))), cube(2), cube(2, 1, 3))]
     for _ in range(many):
         n = told.randint(1, 3)
@@ -40,7 +41,8 @@ def looks_by_trying(sight, room):
 
 def parted_referee(sight, room, other, value):
     n, s = room[0], len(sight[0])
-    if referees.told(value, "both", 4) and all(referees.is_list_of(x, n) for x in value[1:3]) and referees.is_list_of(value[3], s):
+    if referees.told(value, "both", 4) and all(referees.is_list_of(x, n)
+            for x in value[1:3]) and referees.is_list_of(value[3], s):
         x, z, y = [numbers(one) for one in value[1:]]
         found = [("room",)] * (not is_within(room, x)) + [("other",)] * (not is_within(other, z))
         return referees.first(found + [("look",)] * (not is_given(sight, x, y) or not is_given(sight, z, y)))
@@ -59,14 +61,16 @@ def parted_referee(sight, room, other, value):
 
 class TestSights(unittest.TestCase):
     def test_right(self):
-        for sight, due in [(GLANCE, None), (BLINDFOLD, None), (((pt(1),), never(1)), "bare"), (((pt(1),), (1, ())), "far"),
+        for sight, due in [(GLANCE, None), (BLINDFOLD, None), (((pt(1),), never(1)), "bare"),
+                (((pt(1),), (1, ())), "far"),
                            (((), (0, (((), -1),))), "bare"), (((pt(1),), (1, (((1,), 0),))), "far"),
                            (((pt(1),), (1, (((1,), 0), ((-1,), -1)))), "bare"), (((pt(), pt()), cube(2)), None),
                            (((pt(1), pt(2)), (2, (((1, 0), 1), ((-1, 0), -2)))), "bare")]:
             self.assertEqual(unchanged(self, right_sight, sight), due)
 
     def test_may_give(self):
-        for x, y, due in [(0, Fraction(1, 2), True), (0, Fraction(3, 5), False), (2, Fraction(3, 2), True), (2, 1, False)]:
+        for x, y, due in [(0, Fraction(1, 2), True), (0, Fraction(3, 5), False), (2, Fraction(3, 2), True),
+                (2, 1, False)]:
             self.assertIs(unchanged(self, may_give, GLANCE, pt(x), pt(y)), due)
         self.assertIs(may_give(BLINDFOLD, pt(9), ()), True)
         told = seeded(451)
@@ -120,7 +124,8 @@ class TestSights(unittest.TestCase):
 
 class TestParted(unittest.TestCase):
     def test_by_hand(self):
-        self.assertEqual(unchanged(self, parted, GLANCE, rough(-2, 2), rough(3, 4)), ("both", pt(2), pt(3), pt(Fraction(5, 2))))
+        self.assertEqual(unchanged(self, parted, GLANCE, rough(-2, 2), rough(3, 4)),
+            ("both", pt(2), pt(3), pt(Fraction(5, 2))))
         self.assertEqual(parted(GLANCE, rough(-2, 2), rough(4, 5))[0], "apart")
         self.assertEqual(parted(BLINDFOLD, rough(-2, 2), rough(4, 5))[0], "both")
 
@@ -152,16 +157,21 @@ class TestParted(unittest.TestCase):
         for value, fault in [
                 (("apart", pt(1, 0), pt(0, 1), pt(0, Fraction(1, 2)), pt(0, 0)), ("sum",)),
                 (("apart", pt(2, 1), pt(0, 1), pt(0, Fraction(1, 2)), pt(Fraction(1, 2), 0)), ("sum",)),
-                (("apart", pt(Fraction(1, 2), 0), pt(0, Fraction(1, 2)), pt(0, Fraction(1, 4)), pt(Fraction(1, 4), 0)), ("sum",)),
-                (("apart", pt(-1, 0)) + good[2:], ("form",)), (("apart", pt(1)) + good[2:], ("form",)), (good[:4], ("form",)),
-                (good + ((),), ("form",)), (("apart", pt(1, 0), pt(0, 1, 0)) + good[3:], ("form",)), (list(good), ("form",)),
+                (("apart", pt(Fraction(1, 2), 0), pt(0, Fraction(1, 2)), pt(0, Fraction(1, 4)), pt(Fraction(1, 4), 0)),
+                ("sum",)),
+                (("apart", pt(-1, 0)) + good[2:], ("form",)), (("apart", pt(1)) + good[2:], ("form",)),
+                (good[:4], ("form",)),
+                (good + ((),), ("form",)), (("apart", pt(1, 0), pt(0, 1, 0)) + good[3:], ("form",)),
+                (list(good), ("form",)),
                 (("both", pt(3), pt(6), pt(9)), ("room",)), (("both", pt(2), pt(6), pt(9)), ("other",)),
-                (("both", pt(2), pt(4), pt(Fraction(5, 2))), ("look",)), (("both", pt(2), pt(4), pt(Fraction(7, 2))), ("look",)),
+                (("both", pt(2), pt(4), pt(Fraction(5, 2))), ("look",)),
+                (("both", pt(2), pt(4), pt(Fraction(7, 2))), ("look",)),
                 (("both", pt(2), pt(4), pt(3)), ("look",)), (("both", pt(2), pt(4), ()), ("form",)),
                 (("both", pt(2), pt(4, 4), pt(3)), ("form",)), (("none",), ("form",))]:
             self.judged(value, fault)
         for odd in ODD:
-            for value in [odd, ("both", odd, pt(4), pt(3)), ("both", pt(2), odd, pt(3)), ("both", pt(2), pt(4), odd)] + [
+            for value in [odd, ("both", odd, pt(4), pt(3)), ("both", pt(2), odd, pt(3)),
+                    ("both", pt(2), pt(4), odd)] + [
                     good[:k] + (odd,) + good[k + 1:] for k in range(1, 5)]:
                 self.judged(value, parted_referee(GLANCE, rough(-2, 2), rough(4, 5), value))
 
@@ -184,7 +194,8 @@ class TestSpread(unittest.TestCase):
             form = from_numbers(some_standing(told, n, 1))
             value = number(unchanged(self, spread, sight, room, form))
             x, z, y = [numbers(one) for one in unchanged(self, spread_pair, sight, room, form)]
-            self.assertTrue(is_within(room, x) and is_within(room, z) and is_given(sight, x, y) and is_given(sight, z, y))
+            self.assertTrue(is_within(room, x) and is_within(room, z) and is_given(sight, x, y)
+                and is_given(sight, z, y))
             away = [a - b for a, b in zip(x, z)]
             self.assertEqual(product_of(numbers(form), away), value)
             worths = [product_of(numbers(form), one) for one in corners_by_trying(room)]

@@ -8,7 +8,8 @@ from everygust.prices import price_levels
 from everygust.tableprices import play_price, worst_price
 from everygust.tables import made_table
 from tests import referees
-from tests.helpers import ODD, corners_by_trying, cube, fr, is_within, number, numbers, product_of, pt, seeded, unchanged
+from tests.helpers import (
+    ODD, corners_by_trying, cube, fr, is_within, number, numbers, product_of, pt, seeded, unchanged)
 from tests.plants import DRIFT, STILL, from_numbers, gusts_of, moved, points_within, some_standing
 from tests.test_lots import rough
 from tests.test_prices import EFFORT, end_due, price_at, some_cost, step_due, trips
@@ -23,7 +24,8 @@ def piece(low, high, by_standing, still):
     return (room, (pt(by_standing),), pt(still))
 
 
-NEAR = (piece(Fraction(-1, 2), Fraction(1, 2), 0, 0), piece(-2, Fraction(-1, 2), -1, 0), piece(Fraction(1, 2), 2, -1, 0))
+NEAR = (piece(Fraction(-1, 2), Fraction(1, 2), 0, 0), piece(-2, Fraction(-1, 2), -1, 0),
+    piece(Fraction(1, 2), 2, -1, 0))
 FAR = (piece(-2, 2, 0, 0),)
 
 
@@ -141,7 +143,8 @@ class TestWorst(unittest.TestCase):
                     self.assertLessEqual(due, number(price))
                     value = referees.changed(told, drawn, ODD) if drawn else told.choice([(1,), ((0, pt(0)),)])
                     due = price_of_play(plant, cost, tables, x, value)
-                    self.assertEqual(play_price(plant, cost, tuple(tables), from_numbers(x), value), None if due is None else fr(due))
+                    self.assertEqual(play_price(plant, cost, tuple(tables), from_numbers(x), value), None
+                        if due is None else fr(due))
                 steps[j] = steps.get(j, 0) + 1
         self.assertTrue(all(steps[j] > 5 for j in range(3)), steps)
 
@@ -164,7 +167,8 @@ class TestWorst(unittest.TestCase):
 
 class TestPlays(unittest.TestCase):
     def test_none(self):
-        for play in [((0, pt(Fraction(1, 2))),), ((0, pt(0)), (1, pt(0))), ((1, pt(0)), (0, pt(0))), ((0, pt(2)), (0, pt(0))),
+        for play in [((0, pt(Fraction(1, 2))),), ((0, pt(0)), (1, pt(0))), ((1, pt(0)), (0, pt(0))),
+                ((0, pt(2)), (0, pt(0))),
                      ((0, pt(0)), (3, pt(0))), ((0, pt(0)), (-1, pt(0))), ((0, pt(0)), (0, pt(0)), (0, pt(0))),
                      ((0, pt(0)), (0, ())), ((0, pt(0, 0)), (0, pt(0)))]:
             self.assertIsNone(unchanged(self, play_price, DRIFT, FOUR, (NEAR, FAR), pt(0), play))
@@ -175,7 +179,8 @@ class TestPlays(unittest.TestCase):
                 self.assertEqual(play_price(DRIFT, FOUR, (NEAR, FAR), pt(0), play), None if due is None else fr(due))
         # Both pieces have 1 / 2; the wish need not be one of the plant's.
         for i, due in ((0, (4, 1)), (2, (5, 2))):
-            self.assertEqual(play_price(DRIFT, FOUR, (NEAR, FAR), pt(0), ((0, pt(Fraction(1, 2))), (i, pt(Fraction(1, 2))))), due)
+            self.assertEqual(play_price(DRIFT, FOUR, (NEAR, FAR), pt(0),
+                ((0, pt(Fraction(1, 2))), (i, pt(Fraction(1, 2))))), due)
         wide = (piece(-9, 9, 3, 3),)
         self.assertEqual(play_price(DRIFT, FOUR, (wide,), pt(1), ((0, pt(0)),)), (34, 1))
 
@@ -194,7 +199,8 @@ class TestTooGreat(unittest.TestCase):
         self.assertRaises(TooGreat, worst_price, DRIFT, cost, ((one,) * 10, (one,) * 11), pt(0))
         # 2,001 tuples are 3 times 23 times 29.
         self.assertRaises(TooGreat, worst_price, DRIFT, (triples[:1], pairs[:3]), ((one,) * 23, (one,) * 29), pt(0))
-        self.assertEqual(play_price(DRIFT, (triples[:1], pairs[:3]), ((one,) * 23, (one,) * 29), pt(0), ((1, pt(0)), (1, pt(0)))), (2, 1))
+        self.assertEqual(play_price(DRIFT, (triples[:1], pairs[:3]), ((one,) * 23, (one,) * 29), pt(0),
+            ((1, pt(0)), (1, pt(0)))), (2, 1))
 
     def test_just_within_in_time(self):
         told = seeded(442)
